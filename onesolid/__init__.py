@@ -1,0 +1,1 @@
+"""Onesolid: one form for each set of points told by linear inequalities."""
