@@ -39,13 +39,6 @@ class Errors(unittest.TestCase):
                 for field, value in values.items():
                     self.assertIs(getattr(error, field), value)
 
-    def test_arguments_are_neither_more_nor_less(self):
-        for name, fields in ERRORS.items():
-            if fields:
-                with self.subTest(name):
-                    self.assertRaises(TypeError, getattr(errors, name), *range(len(fields) + 1))
-                    self.assertRaises(TypeError, getattr(errors, name), *range(len(fields) - 1))
-
     def test_errors_are_raised_and_caught_as_value_errors(self):
         for name, fields in ERRORS.items():
             with self.subTest(name):

@@ -319,6 +319,23 @@ class Parts(SolidCase):
         self.same(put_at(1, ("and", great, leaf(1)), (2,), great), ("and", great, great))
 
 
+class Returned(SolidCase):
+    """Formulas as the package itself may return them: with more words, and greater numbers."""
+
+    def test_all_but_those_that_judge_take_them(self):
+        cell = ("and", ("is", "lt", (BIG, 1, 3)), ("is", "eq", (0, 1, -BIG)))
+        formula = ("or",) + (cell,) * 150
+        self.refused(NotFormula, check_formula, 2, formula, path=(1, 1, 2, 0))
+        self.same(is_formula(2, formula), False)
+        self.same(words_of(formula), 451)
+        self.same(depth_of(formula), 3)
+        self.same(len(paths_of(formula)), 451)
+        self.same(part_at(formula, (150, 2)), cell[2])
+        self.same(dimension_at(2, formula, (150, 2)), 2)
+        self.same(rows_of(formula), (cell[1][2], cell[2][2]) * 150)
+        self.same(without_not(("not", ("not", formula))), formula)
+
+
 class WithoutNot(SolidCase):
 
     def test_signs(self):

@@ -390,6 +390,12 @@ class Holds(SolidCase):
         self.same(holds(1, ("is", "lt", (OTHER_BIG, -BIG)), (BIG - 1, OTHER_BIG)), True)
         self.same(holds(1, ("some", ("is", "eq", (BIG, -OTHER_BIG, 1))), (BIG, 1)), True)
 
+    def test_more_words_than_a_formula_that_is_passed_in(self):
+        formula = ("or",) + (("and", ("is", "lt", (BIG, 1)), ("is", "gt", (1, BIG))),) * 150
+        self.same(looked_at(1, formula), ((1, BIG), (BIG, 1)))
+        self.same(holds(1, formula, (-1, 1)), True)
+        self.same(holds(1, formula, (0, 1)), False)
+
     def test_too_many_planes(self):
         just, more = with_looked_at(200), with_looked_at(201)
         self.same(holds(1, ("or", ("and",), just), (0, 1)), True)
