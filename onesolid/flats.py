@@ -17,7 +17,8 @@ def _cleared(row, plane):
     return tuple([plane[place] * number - row[place] * part for number, part in zip(row, plane)])
 
 
-def _cleared_by_all(row, planes):
+def cleared_by_all(row, planes):
+    """A positive multiple of the row that the reduced planes have made 0 at all of their leading places."""
     left = row
     for plane in planes:
         left = _cleared(left, plane)
@@ -28,7 +29,7 @@ def flat_of(dimension, rows):
     """The flat of the points at which all rows are 0, None if there is no such point."""
     reduced = []
     for row in rows:
-        left = _cleared_by_all(row, reduced)
+        left = cleared_by_all(row, reduced)
         fresh = plane_of(left)
         if fresh is not None:
             others = [plane_of(_cleared(plane, fresh)) for plane in reduced]

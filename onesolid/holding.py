@@ -121,12 +121,12 @@ def _first_witness(studied, point):
     word, part, steep = studied
     is_wanted = word == "some"
     for value in _enough_among(_places_over(steep, point)):
-        if _holds_there(part, _point_above(point, value)) == is_wanted:
+        if _holds_there(part, point_above(point, value)) == is_wanted:
             return value
     return None
 
 
-def _point_above(point, value):
+def point_above(point, value):
     """The point with one more coordinate, a fraction."""
     top, bottom = value
     numbers = [number * bottom for number in point[:-1]]

@@ -1,6 +1,7 @@
-"""The sizes, characters and imports that the package keeps to."""
+"""The sizes, characters, imports and words that the package keeps to."""
 
 import ast
+import builtins
 import os
 import unittest
 
@@ -10,6 +11,18 @@ LIBRARY = {"heapq": ("heappush", "heappop", "heapify", "heapreplace", "heappushp
            "itertools": ("product", "combinations", "permutations", "chain", "accumulate", "pairwise", "islice",
                          "zip_longest"),
            "collections": ("defaultdict",)}
+BUILTINS = set("""len range enumerate zip min max sum abs sorted reversed int str bool bytes list tuple dict set
+    frozenset isinstance ord repr any all divmod pow Exception ValueError TypeError KeyError IndexError LookupError
+    ZeroDivisionError ArithmeticError OverflowError RuntimeError NotImplementedError AttributeError""".split())
+METHODS = set("""append clear copy count endswith extend find get index insert isalnum isalpha isdigit islower isspace
+    isupper items join keys ljust lower lstrip partition pop remove replace reverse rfind rjust rpartition rsplit rstrip
+    setdefault split splitlines startswith strip update upper values zfill bit_length removeprefix add""".split())
+BARRED = set("""register mro elements open input law version_info with_traceback add_note attrgetter breakpoint builtins
+    compile copyright credits delattr dir eval exec exit gc getattr globals hasattr help id importlib license locals
+    methodcaller os quit setattr super type vars sys typing enum iter next map object""".split())
+STATEMENTS = (ast.FunctionDef, ast.ClassDef, ast.ImportFrom, ast.Expr, ast.Assign, ast.AugAssign, ast.If, ast.While,
+              ast.For, ast.Return, ast.Break, ast.Continue, ast.Pass, ast.Raise, ast.Assert, ast.Delete, ast.Try)
+LITERALS = (ast.Constant, ast.Tuple, ast.Dict, ast.List, ast.UnaryOp, ast.BinOp)
 
 
 def texts():
@@ -68,6 +81,85 @@ class Language(unittest.TestCase):
             free = [name for name in looks if not looks[name] & set(looks)]
             self.assertTrue(free, looks)
             looks = {name: looks[name] for name in looks if name not in free}
+
+    def each_node(self):
+        for name, text in texts():
+            for node in ast.walk(ast.parse(text)):
+                yield name, node
+
+    def test_statements(self):
+        for name, node in self.each_node():
+            if isinstance(node, ast.stmt):
+                self.assertIsInstance(node, STATEMENTS, name)
+            self.assertNotIsInstance(node, (ast.Yield, ast.Await, ast.Set, ast.NamedExpr), name)
+            if isinstance(node, ast.FunctionDef):
+                self.assertFalse(node.decorator_list or node.args.kwarg or node.args.vararg, name)
+            if isinstance(node, ast.Constant):
+                self.assertNotIsInstance(node.value, (float, complex, bytes), name)
+                self.assertNotIn("%", str(node.value), name)
+            if isinstance(node, ast.BinOp):
+                self.assertNotIsInstance(node.op, (ast.Div, ast.MatMult), name)
+            if isinstance(node, ast.BinOp) and isinstance(node.op, ast.Pow):
+                self.assertIsInstance(node.right, ast.Constant, name)
+
+    def test_module_level(self):
+        for name, text in texts():
+            for number, node in enumerate(ast.parse(text).body):
+                self.assertIsInstance(node, (ast.FunctionDef, ast.ClassDef, ast.ImportFrom, ast.Expr, ast.Assign), name)
+                if isinstance(node, ast.Expr):
+                    self.assertEqual(number, 0, name)
+                if isinstance(node, ast.Assign):
+                    self.assertIsInstance(node.value, LITERALS, name)
+                    self.assertEqual([type(target) for target in node.targets], [ast.Name], name)
+
+    def test_names(self):
+        for name, text in texts():
+            tree = ast.parse(text)
+            taken = {alias.name for node in ast.walk(tree) if isinstance(node, ast.ImportFrom) for alias in node.names}
+            taken |= {node.name for node in ast.walk(tree) if isinstance(node, ast.ClassDef)}
+            for node in ast.walk(tree):
+                bound = None
+                if isinstance(node, ast.Name) and isinstance(node.ctx, ast.Store):
+                    bound = node.id
+                elif isinstance(node, ast.arg):
+                    bound = node.arg
+                elif isinstance(node, ast.FunctionDef):
+                    bound = node.name
+                if bound not in (None, "__init__"):
+                    with self.subTest(f"{name} {bound}"):
+                        self.assertNotIn(bound, taken | BARRED)
+                        self.assertFalse(bound.startswith("__") or hasattr(builtins, bound))
+
+    def test_builtins_and_methods(self):
+        own = set()
+        for _, node in self.each_node():
+            if isinstance(node, ast.FunctionDef):
+                own.add(node.name)
+        for name, node in self.each_node():
+            if isinstance(node, ast.Name) and hasattr(builtins, node.id):
+                self.assertIn(node.id, BUILTINS, name)
+            if isinstance(node, ast.Call) and isinstance(node.func, ast.Attribute):
+                self.assertIn(node.func.attr, METHODS | own, name)
+
+    def test_is_stands_beside_none_alone(self):
+        for name, node in self.each_node():
+            if isinstance(node, ast.Compare) and isinstance(node.ops[0], (ast.Is, ast.IsNot)):
+                self.assertIsInstance(node.comparators[0], ast.Constant, name)
+
+    def test_sets_are_not_kept(self):
+        """They stand in sorted(..), len(..), or behind "in"."""
+        for name, text in texts():
+            allowed = []
+            for node in ast.walk(ast.parse(text)):
+                if isinstance(node, ast.Call) and isinstance(node.func, ast.Name) and node.func.id in ("sorted", "len"):
+                    allowed += node.args
+                elif isinstance(node, ast.Compare):
+                    allowed += node.comparators
+                is_set = isinstance(node, ast.SetComp)
+                if isinstance(node, ast.Call) and isinstance(node.func, ast.Name):
+                    is_set = is_set or node.func.id == "set"
+                if is_set:
+                    self.assertIn(node, allowed, name)
 
 
 if __name__ == "__main__":

@@ -1,0 +1,66 @@
+"""The signs that some normals have all around a point that their planes have in common: the cells of its star."""
+
+from itertools import combinations
+
+from onesolid.flats import flat_directions, flat_of
+from onesolid.numbers import sign_of
+from onesolid.rows import weighed
+
+
+def signs_around(size, normals):
+    """The tuples of signs that normals, none of them all 0, have along the directions of a space, also along none."""
+    rank = len(flat_across(size, normals))
+    if rank == len(normals):
+        return _all_signs(rank)
+    found = {(0,) * len(normals): True}
+    for signs in _edges(size, normals, rank - 1):
+        # Every other cell lies around an edge, on this side of the point or on the opposite one.
+        opposite = tuple([-sign for sign in signs])
+        for inner in signs_around(size, [normal for normal, sign in zip(normals, signs) if sign == 0]):
+            found[noughts_filled(signs, inner)] = True
+            found[noughts_filled(opposite, inner)] = True
+    return list(found)
+
+
+def flat_across(size, normals):
+    """The flat through the origin along which some normals are all 0."""
+    return flat_of(size, [normal + (0,) for normal in normals])
+
+
+def noughts_filled(signs, inner):
+    """The signs with those of another tuple in place of the noughts, in turn."""
+    filled = list(signs)
+    used = 0
+    for place, sign in enumerate(signs):
+        if sign == 0:
+            filled[place] = inner[used]
+            used += 1
+    return tuple(filled)
+
+
+def _all_signs(many):
+    """All tuples of so many signs."""
+    found = [()]
+    for _ in range(many):
+        found = [signs + (sign,) for signs in found for sign in (-1, 0, 1)]
+    return found
+
+
+def _edges(size, normals, many):
+    """The signs along the edges around the point, in one of both senses; so many normals are 0 along each of them."""
+    found = {}
+    for lot in combinations(normals, many):
+        flat = flat_across(size, lot)
+        if len(flat) == many:
+            signs = _signs_along(normals, flat_directions(size, flat))
+            found[tuple([sign == 0 for sign in signs])] = signs
+    return list(found.values())
+
+
+def _signs_along(normals, directions):
+    """The signs of normals along the first of some directions that is not one of the flat along which all are 0."""
+    for direction in directions:
+        signs = tuple([sign_of(weighed(normal, direction)) for normal in normals])
+        if any(signs):
+            return signs
+    return None
