@@ -1,6 +1,7 @@
 """Bodies: the one form (flat, walls, out) of the set of a system, None of the empty set."""
 
-from onesolid.closures import (closure_of, face_of_pair, greatest_faces, has_point, is_at_points, rays_on, sum_point)
+from onesolid.closures import (closure_of, face_of_pair, greatest_faces, has_point, is_at_points, is_zero, rays_on,
+                               sum_point)
 from onesolid.cones import face_zeros, shared_zeros
 from onesolid.errors import Empty, NotForm, NotRow
 from onesolid.flats import check_flat, cleared_by_all, flat_dimension, flat_of
@@ -21,17 +22,12 @@ def _body_of_pairs(dimension, pairs):
         return None
     rays = cone[1]
     shared = shared_zeros(rays)
-    flat = flat_of(dimension, [row for number, (_, row) in enumerate(pairs) if _is_zero(shared, number)])
+    flat = flat_of(dimension, [row for number, (_, row) in enumerate(pairs) if is_zero(shared, number)])
     walls = _sides(rays, pairs, flat)
     left_out = [face_of_pair(rays, number) for number, (word, _) in enumerate(pairs) if word == "gt"]
     greatest_out = greatest_faces([zeros for zeros in left_out if zeros is not None])
     out = sorted({_numbers_of_face(walls, zeros) for zeros in greatest_out})
     return (flat, tuple([row for row, _ in walls]), tuple(out))
-
-
-def _is_zero(zeros, number):
-    """Whether some zeros of a closure have the bit of a pair."""
-    return (zeros >> (number + 1)) & 1 == 1
 
 
 def _sides(rays, pairs, flat):
@@ -40,7 +36,7 @@ def _sides(rays, pairs, flat):
     rows = {}
     for number, (_, row) in enumerate(pairs):
         zeros = face_of_pair(rays, number)
-        if zeros is not None and not _is_zero(shared, number):
+        if zeros is not None and not is_zero(shared, number):
             rows[zeros] = row
     return sorted([(shortened(cleared_by_all(rows[zeros], flat)), zeros) for zeros in greatest_faces(list(rows))])
 
@@ -179,7 +175,7 @@ def faces(dimension, body):
     found = []
     for zeros in face_zeros(closure_of_body(dimension, body)[1]):
         if is_at_points(zeros):
-            numbers = [number for number in range(len(walls)) if _is_zero(zeros, number)]
+            numbers = [number for number in range(len(walls)) if is_zero(zeros, number)]
             own_flat = flat_of(dimension, flat + tuple([walls[number] for number in numbers]))
             found.append((flat_dimension(dimension, own_flat), tuple(numbers)))
     return tuple(sorted(found))

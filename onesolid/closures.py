@@ -52,10 +52,14 @@ def is_at_points(zeros):
     return zeros & 1 == 0
 
 
+def is_zero(zeros, number):
+    """Whether some zeros have the bit of a pair."""
+    return (zeros >> (number + 1)) & 1 == 1
+
+
 def face_of_pair(rays, number):
     """The zeros of the points of the closure at which a pair is 0, None if there is no such point."""
-    bit = 1 << (number + 1)
-    zeros = shared_zeros([ray for ray in rays if ray[1] & bit != 0])
+    zeros = shared_zeros([ray for ray in rays if is_zero(ray[1], number)])
     return zeros if is_at_points(zeros) else None
 
 

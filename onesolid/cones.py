@@ -72,7 +72,7 @@ def _cut_rays(rays, number, pair):
     for vector, zeros, height in above:
         for other, other_zeros, depth in below:
             if _are_neighbours(rays, zeros & other_zeros):
-                between = shortened([height * part - depth * number for number, part in zip(vector, other)])
+                between = shortened([height * low - depth * high for high, low in zip(vector, other)])
                 kept.append((between, (zeros & other_zeros) | bit))
     if word != "eq":
         kept.extend([(vector, zeros) for vector, zeros, _ in above])

@@ -1,7 +1,7 @@
 """Faces and stars of cells, and the cells through which a segment goes."""
 
 from onesolid.cells import cell_dimension, normals_at, pairs_of_cell
-from onesolid.closures import closure_of, is_at_points
+from onesolid.closures import closure_of, is_at_points, is_zero
 from onesolid.cones import face_zeros
 from onesolid.numbers import ascending, halfway, lowest, sign_of
 from onesolid.rows import weighed
@@ -16,7 +16,7 @@ def cell_faces(dimension, planes, signs):
 
 def _face_signs(signs, zeros):
     """The signs of a cell with 0 at those planes that are 0 on a face."""
-    return tuple([0 if (zeros >> (number + 1)) & 1 == 1 else sign for number, sign in enumerate(signs)])
+    return tuple([0 if is_zero(zeros, number) else sign for number, sign in enumerate(signs)])
 
 
 def wall_cells(dimension, planes, signs):

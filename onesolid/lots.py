@@ -30,7 +30,7 @@ def _least_lot(size, pairs):
         last = _first_empty(size, [pairs[number] for number in order])
         if last < len(lot):
             return lot
-        # The pairs ahead of the last one hold somewhere, so that it can't be spared; those behind it can.
+        # The pairs ahead of the last one hold somewhere, so it can't be spared; those behind it can.
         others = order[len(lot):last]
         lot = lot + [order[last]]
 

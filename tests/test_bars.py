@@ -142,6 +142,16 @@ class IsBar(SolidCase):
                 ("eq", -1, 1, True), ("eq", -1, -1, False), ("eq", 0, 1, False)):
             self.same(is_bar(2, ((word, (0, 0, number)),), ((weight, 7),) if weight else (ZERO,)), wanted)
 
+    def test_each_coefficient_counts(self):
+        for dimension in (2, 3, 4):
+            for place in range(dimension):
+                row = [0] * dimension
+                row[place] = 1
+                system = (("ge", tuple(row) + (-2,)), ("gt", tuple(-number for number in row) + (1,)))
+                self.same(is_bar(dimension, system, (ONE, ONE)), True)
+                self.same(is_bar(dimension, system, (ONE, ZERO)), False)
+                self.same(is_bar(dimension, system, (ONE, (2, 1))), False)
+
     def test_what_is_no_tuple_of_fractions(self):
         for value in NO_TUPLES + ((), (ONE,), (ONE,) * 3, (ONE,) * 5, [ONE, ONE, ZERO, ZERO]):
             self.same(is_bar(1, self.system, value), False)

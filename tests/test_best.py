@@ -152,7 +152,8 @@ class Papers(SolidCase):
         inside, corner, weights = (1, 1, 1), (0, 0, 1), ((2, 1), ONE, ZERO)
         self.bent(TRIANGLE, row, ("near", inside, corner, weights), ("most", (3, 1), False),
                   (("near", corner, corner, weights), ("near", inside, (1, 0, 1), weights),
-                   ("near", inside, (-1, 0, 1), weights), ("near", (9, 1, 1), corner, weights),
+                   ("near", inside, (-1, 0, 1), weights), ("near", inside, (1, -2, 1), weights),
+                   ("near", inside, (-1, 2, 1), weights), ("near", (9, 1, 1), corner, weights),
                    ("near", inside, corner, (ONE, ONE, ZERO)), ("near", inside, corner, ((-2, 1), ONE, ZERO)),
                    ("near", inside, corner, ((2, 1), (2, 1), ZERO)), ("met", corner, weights),
                    ("endless", inside, (1, 1))))

@@ -2,8 +2,8 @@
 
 import unittest
 from fractions import Fraction
-from math import gcd, lcm
 
+from anew import whole
 from helping import BIG, SolidCase
 from making import small_formulas, small_points, with_looked_at
 from onesolid.errors import TooGreat
@@ -13,15 +13,6 @@ from onesolid.plainer import is_plain, plain
 
 FREE = ("is", "is", "not", "and", "or")
 ALL = FREE + ("some", "every", "back")
-
-
-def whole(numbers):
-    """The tuple of integers without a common divisor that is a positive multiple of some numbers."""
-    numbers = [Fraction(number) for number in numbers]
-    scale = lcm(*[number.denominator for number in numbers])
-    numbers = [int(number * scale) for number in numbers]
-    divisor = gcd(*numbers) or 1
-    return tuple(number // divisor for number in numbers)
 
 
 def with_rows(formula, change):

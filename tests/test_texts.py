@@ -173,6 +173,15 @@ class ReadFormula(SolidCase):
             self.same(read_formula(1, formula_text(deep)), deep)
         self.refused_at(11, 1, formula_text(nested("not", 12, LEAF)))
         self.refused_at(11, 1, "not " * 12)
+        led = "and 0"
+        for _ in range(11):
+            led = "back 1 1 2 " + led
+        self.assertEqual(depth_of(read_formula(1, led)), 12)
+        self.refused_at(44, 1, "back 1 1 2 " * 12 + "and 0")
+        self.same(read_formula(1, "some not " * 2 + "some " + "not " * 6 + "and 0"),
+                  ("some", ("not", ("some", ("not", ("some", nested("not", 6, ("and",))))))))
+        self.refused_at(11, 1, "some not " * 2 + "some " + "not " * 7 + "and 0")
+        self.refused_at(11, 2, "every " + "not " * 11 + "and 0")
         self.refused_at(23, 1, formula_text(nested("and", 12, LEAF)))
         self.refused_at(23, 1, formula_text(nested("or", 12, LEAF)))
         self.same(read_formula(1, "not " * 11 + "and 0"), nested("not", 11, ("and",)))
@@ -242,6 +251,7 @@ class Points(SolidCase):
         self.same(point_text((10 ** 60, 1)), "1" + "0" * 60 + " 1")
         self.same(point_text((-10 ** 120 - 7, 10 ** 60 - 1)), "-1" + "0" * 119 + "7 " + "9" * 60)
         self.same(point_text((10 ** 9000 + 5, 1)), "1" + "0" * 8999 + "5 1")
+        self.same(point_text((-10 ** 9000 - 5, 1)), "-1" + "0" * 8999 + "5 1")
         text = "9" * 1000
         self.same(read_point(1, text + " 1"), (10 ** 1000 - 1, 1))
         self.same(read_point(1, "-" + text + " " + text[:-1] + "8"), (1 - 10 ** 1000, 10 ** 1000 - 2))
