@@ -6,7 +6,7 @@ from onesolid.points import check_point
 
 NUMBER_DIGITS = 7
 POINT_DIGITS = 1000
-LEAF_WORDS = ("is", "and", "or")
+LEAF_WORDS = SIGN_WORDS + ("and", "or")
 
 
 def formula_text(formula):
@@ -24,11 +24,12 @@ def point_text(point):
 def _tell_formula(words, formula):
     """Puts the words of a formula behind some words."""
     word = formula[0]
-    words.append(word)
     if word == "is":
+        # The word of the sign alone: "is" stands in no text.
         words.append(formula[1])
         _tell_row(words, formula[2])
         return
+    words.append(word)
     parts = formula[1:]
     if word in ("and", "or"):
         words.append(str(len(parts)))
@@ -128,8 +129,8 @@ def _is_integer_text(word, most_digits):
 def _read_part(reader, dimension, depth):
     """The formula of the dimension that comes next, so deep in the whole."""
     word = reader.read_word(_words_possible(reader, dimension, depth))
-    if word == "is":
-        return (word, reader.read_word(SIGN_WORDS), _read_row(reader, dimension))
+    if word in SIGN_WORDS:
+        return ("is", word, _read_row(reader, dimension))
     if word in ("and", "or"):
         many = reader.read_number(0, MOST_WORDS - reader.bound if depth < MOST_DEPTH else 0)
         reader.bound += many

@@ -22,20 +22,20 @@ def nested(word, many, inside):
 class FormulaText(SolidCase):
 
     def test_worked_by_hand(self):
-        self.same(formula_text(("is", "lt", (3, -5))), "is lt 3 -5")
-        self.same(formula_text(("is", "ne", (0, 0, 0, 0, 0))), "is ne 0 0 0 0 0")
-        self.same(formula_text(("not", LEAF)), "not is ge 1 -2")
-        self.same(formula_text(("some", ("is", "eq", (1, 2, 3)))), "some is eq 1 2 3")
-        self.same(formula_text(("every", ("is", "eq", (1, 2, 3)))), "every is eq 1 2 3")
+        self.same(formula_text(("is", "lt", (3, -5))), "lt 3 -5")
+        self.same(formula_text(("is", "ne", (0, 0, 0, 0, 0))), "ne 0 0 0 0 0")
+        self.same(formula_text(("not", LEAF)), "not ge 1 -2")
+        self.same(formula_text(("some", ("is", "eq", (1, 2, 3)))), "some eq 1 2 3")
+        self.same(formula_text(("every", ("is", "eq", (1, 2, 3)))), "every eq 1 2 3")
         self.same(formula_text(("and",)), "and 0")
         self.same(formula_text(("or",)), "or 0")
-        self.same(formula_text(("or", LEAF, ("and", LEAF))), "or 2 is ge 1 -2 and 1 is ge 1 -2")
+        self.same(formula_text(("or", LEAF, ("and", LEAF))), "or 2 ge 1 -2 and 1 ge 1 -2")
         self.same(formula_text(("back", ((1, 2, 3), (4, 5, -6)), ("is", "le", (7, 8, 9)))),
-                  "back 2 1 2 3 4 5 -6 is le 7 8 9")
+                  "back 2 1 2 3 4 5 -6 le 7 8 9")
         self.same(formula_text(formula=("back", ((1, 2),) * 4, ("and",))), "back 4 1 2 1 2 1 2 1 2 and 0")
 
     def test_greatest_numbers(self):
-        self.same(formula_text(("is", "gt", (10 ** 6, -10 ** 6))), "is gt 1000000 -1000000")
+        self.same(formula_text(("is", "gt", (10 ** 6, -10 ** 6))), "gt 1000000 -1000000")
         for number in (10 ** 6 + 1, -10 ** 6 - 1, BIG, -BIG):
             for formula in (("is", "gt", (number, 0)), ("is", "gt", (0, number)),
                             ("and", LEAF, ("not", ("is", "gt", (1, number)))),
@@ -44,8 +44,8 @@ class FormulaText(SolidCase):
                 self.refused(TooGreat, formula_text, formula, most=10 ** 6)
 
     def test_many_words_and_great_depth_are_told(self):
-        self.same(formula_text(("and",) + (LEAF,) * 300), "and 300" + " is ge 1 -2" * 300)
-        self.same(formula_text(nested("not", 20, LEAF)), "not " * 20 + "is ge 1 -2")
+        self.same(formula_text(("and",) + (LEAF,) * 300), "and 300" + " ge 1 -2" * 300)
+        self.same(formula_text(nested("not", 20, LEAF)), "not " * 20 + "ge 1 -2")
 
 
 class ReadFormula(SolidCase):
@@ -55,15 +55,15 @@ class ReadFormula(SolidCase):
             self.refused(NotText, read_formula, dimension, text, line=0, word=place)
 
     def test_worked_by_hand(self):
-        self.same(read_formula(1, "is lt 3 -5"), ("is", "lt", (3, -5)))
+        self.same(read_formula(1, "lt 3 -5"), ("is", "lt", (3, -5)))
         self.same(read_formula(1, "and 0"), ("and",))
         self.same(read_formula(2, "or 0"), ("or",))
-        self.same(read_formula(1, "or 2 is ge 1 -2 and 1 is ge 1 -2"), ("or", LEAF, ("and", LEAF)))
-        self.same(read_formula(2, "back 1 1 2 3 is le 7 8"), ("back", ((1, 2, 3),), ("is", "le", (7, 8))))
-        self.same(read_formula(dimension=3, text="every is gt 0 0 0 1 1000000"),
+        self.same(read_formula(1, "or 2 ge 1 -2 and 1 ge 1 -2"), ("or", LEAF, ("and", LEAF)))
+        self.same(read_formula(2, "back 1 1 2 3 le 7 8"), ("back", ((1, 2, 3),), ("is", "le", (7, 8))))
+        self.same(read_formula(dimension=3, text="every gt 0 0 0 1 1000000"),
                   ("every", ("is", "gt", (0, 0, 0, 1, 10 ** 6))))
         for word in ("lt", "le", "eq", "ne", "ge", "gt"):
-            self.same(read_formula(1, f"is {word} 0 -1000000"), ("is", word, (0, -10 ** 6)))
+            self.same(read_formula(1, f"{word} 0 -1000000"), ("is", word, (0, -10 ** 6)))
 
     def test_what_was_written_is_read(self):
         for dimension in (1, 2, 3, 4):
@@ -80,68 +80,76 @@ class ReadFormula(SolidCase):
     def test_empty_words(self):
         self.refused_at(0, 1, "")
         self.refused_at(0, 1, " ")
-        self.refused_at(0, 1, " is lt 3 -5")
-        self.refused_at(4, 1, "is lt 3 -5 ")
-        self.refused_at(1, 1, "is  lt 3 -5")
-        self.refused_at(2, 1, "is lt  3 -5")
-        self.refused_at(3, 1, "is lt 3  -5")
-        self.refused_at(0, 1, "\tis lt 3 -5")
-        self.refused_at(0, 1, "is\nlt 3 -5")
-        self.refused_at(3, 1, "is lt 3 -5\n")
+        self.refused_at(0, 1, " lt 3 -5")
+        self.refused_at(3, 1, "lt 3 -5 ")
+        self.refused_at(1, 1, "not  lt 3 -5")
+        self.refused_at(1, 1, "lt  3 -5")
+        self.refused_at(2, 1, "lt 3  -5")
+        self.refused_at(0, 1, "\tlt 3 -5")
+        self.refused_at(0, 1, "not\nlt 3 -5")
+        self.refused_at(2, 1, "lt 3 -5\n")
 
     def test_words_that_lack(self):
-        words = "and 2 back 2 1 2 3 4 5 6 is le 7 8 9 some not is gt 1 2 3 4".split(" ")
+        words = "and 2 back 2 1 2 3 4 5 6 le 7 8 9 some not gt 1 2 3 4".split(" ")
         self.assertEqual(formula_text(read_formula(2, " ".join(words))), " ".join(words))
         for many in range(1, len(words)):
             self.refused_at(many, 2, " ".join(words[:many]))
 
     def test_words_too_many(self):
-        self.refused_at(4, 1, "is lt 3 -5 0")
-        self.refused_at(4, 1, "is lt 3 -5 is lt 3 -5")
+        self.refused_at(3, 1, "lt 3 -5 0")
+        self.refused_at(3, 1, "lt 3 -5 lt 3 -5")
         self.refused_at(2, 1, "and 0 and 0")
-        self.refused_at(6, 1, "and 1 is lt 1 2 is")
+        self.refused_at(5, 1, "and 1 lt 1 2 lt")
 
     def test_word_otherwise(self):
-        for word in ("if", "IS", "Is", "i", "isnt", "lt", "0", "-", "nor", "xor", "any", "is\n"):
-            self.refused_at(0, 1, word + " lt 3 -5")
-            self.refused_at(1, 1, "not " + word + " lt 3 -5")
-        for word in ("ls", "LT", "is", "3", "not", "<", "l"):
-            self.refused_at(1, 1, "is " + word + " 3 -5")
-        self.refused_at(2, 1, "is lt lt 3 -5")
-        self.refused_at(1, 1, "is is lt 3 -5")
-        self.refused_at(2, 1, "not not nt is lt 3 -5")
+        for word in ("ls", "LT", "is", "3", "-", "<", "l", "if", "nor", "xor", "any", "lt\n"):
+            self.refused_at(0, 1, word + " 3 -5")
+            self.refused_at(1, 1, "not " + word + " 3 -5")
+            self.refused_at(2, 1, "and 1 " + word + " 3 -5")
+        self.refused_at(1, 1, "lt lt 3 -5")
+        self.refused_at(2, 1, "not not nt lt 3 -5")
+
+    def test_is_stands_in_no_text(self):
+        for word in ("lt", "le", "eq", "ne", "ge", "gt"):
+            self.refused_at(0, 1, f"is {word} 3 -5")
+            self.refused_at(1, 1, f"not is {word} 3 -5")
+            self.refused_at(1, 2, f"every is {word} 12 12 1 1000000")
+            self.refused_at(2, 1, f"or 2 is {word} 3 -5 {word} 3 -5")
+            self.refused_at(5, 1, f"or 2 {word} 3 -5 is {word} 3 -5")
+            self.refused_at(4, 1, f"back 1 1 2 is {word} 3 -5")
+        self.refused_at(0, 1, "is")
 
     def test_integers_otherwise(self):
         for word in ("-0", "+1", "00", "01", "-01", "1.0", "1e3", "0x1", "1_0", "--1", "-", "", "x", "1000001",
                      "-1000001", "9" * 5000, "-" + "9" * 5000, "\u0663", "\u00b2", "1\n", "0000000"):
-            self.refused_at(2, 1, f"is lt {word} 5")
-            self.refused_at(3, 1, f"is lt 5 {word}")
-            self.refused_at(1, 1, f"and {word} is lt 1 2")
-            self.refused_at(1, 1, f"back {word} 1 2 is lt 1 2")
-            self.refused_at(3, 1, f"back 1 1 {word} is lt 1 2")
-            self.refused_at(4, 1, f"back 2 1 2 {word} 4 is lt 1 2")
-        self.same(read_formula(1, "is lt 1000000 -1000000"), ("is", "lt", (10 ** 6, -10 ** 6)))
+            self.refused_at(1, 1, f"lt {word} 5")
+            self.refused_at(2, 1, f"lt 5 {word}")
+            self.refused_at(1, 1, f"and {word} lt 1 2")
+            self.refused_at(1, 1, f"back {word} 1 2 lt 1 2")
+            self.refused_at(3, 1, f"back 1 1 {word} lt 1 2")
+            self.refused_at(4, 1, f"back 2 1 2 {word} 4 lt 1 2")
+        self.same(read_formula(1, "lt 1000000 -1000000"), ("is", "lt", (10 ** 6, -10 ** 6)))
         self.same(read_formula(1, "back 1 1000000 -1000000 or 0"), ("back", ((10 ** 6, -10 ** 6),), ("or",)))
 
     def test_how_many_rows(self):
         for many in (0, 5, 10, -1):
             self.refused_at(1, 1, f"back {many} " + "1 2 " * 5 + "and 0")
         for many in (1, 2, 3, 4):
-            text = f"back {many} " + "1 2 " * many + "is lt" + " 3" * (many + 1)
+            text = f"back {many} " + "1 2 " * many + "lt" + " 3" * (many + 1)
             self.same(read_formula(1, text), ("back", ((1, 2),) * many, ("is", "lt", (3,) * (many + 1))))
-            self.refused_at(5 + 3 * many, 1, text + " 3")
-            self.refused_at(4 + 3 * many, 1, text[:-2])
+            self.refused_at(4 + 3 * many, 1, text + " 3")
+            self.refused_at(3 + 3 * many, 1, text[:-2])
 
     def test_dimensions(self):
-        self.refused_at(0, 4, "some is lt 1 2 3 4 5 6")
-        self.refused_at(0, 4, "every is lt 1 2 3 4 5 6")
-        self.refused_at(1, 3, "some every is lt 1 2 3 4 5 6")
-        self.refused_at(3, 1, "some some some some is lt 1 2")
+        self.refused_at(0, 4, "some lt 1 2 3 4 5 6")
+        self.refused_at(0, 4, "every lt 1 2 3 4 5 6")
+        self.refused_at(1, 3, "some every lt 1 2 3 4 5 6")
+        self.refused_at(3, 1, "some some some some lt 1 2")
         self.refused_at(10, 1, "back 4 1 2 1 2 1 2 1 2 some and 0")
         self.same(read_formula(4, "back 1 1 2 3 4 5 some and 0"), ("back", ((1, 2, 3, 4, 5),), ("some", ("and",))))
-        self.refused_at(7, 4, "is lt 1 2 3 4 5 6")
-        self.refused_at(6, 3, "is lt 1 2 3 4 5")
-        self.refused_at(5, 3, "is lt 1 2 3")
+        self.refused_at(6, 4, "lt 1 2 3 4 5 6")
+        self.refused_at(5, 3, "lt 1 2 3 4 5")
+        self.refused_at(4, 3, "lt 1 2 3")
 
     def test_just_as_many_words_as_may_be(self):
         full = ("and",) + (LEAF,) * 199
@@ -164,7 +172,7 @@ class ReadFormula(SolidCase):
         two = ("or", ("and",) + (LEAF,) * 99, ("and",) + (LEAF,) * 98)
         self.same(read_formula(1, formula_text(two)), two)
         more = ("or", ("and",) + (LEAF,) * 99, ("and",) + (LEAF,) * 99)
-        self.refused_at(3 + 1 + 4 * 99 + 1, 1, formula_text(more))
+        self.refused_at(3 + 1 + 3 * 99 + 1, 1, formula_text(more))
 
     def test_just_so_deep_as_may_be(self):
         for word in ("not", "and", "or"):
