@@ -34,14 +34,14 @@ def _is_plane(dimension, value):
 def cells_of(dimension, planes):
     """The signs of all cells of some planes, ascending."""
     found = {}
-    for flat in _least_meets(dimension, planes):
+    for flat in least_meets(dimension, planes):
         signs = signs_at(planes, flat_point(dimension, flat))
         for inner in signs_around(dimension, normals_at(planes, signs)):
             found[noughts_filled(signs, inner)] = True
     return tuple(sorted(found))
 
 
-def _least_meets(dimension, planes):
+def least_meets(dimension, planes):
     """The intersections of planes that hold no lesser ones; they all go on alike, and each cell is around some."""
     rows = list(planes)
     rank = len(flat_across(dimension, [row[:-1] for row in rows]))
@@ -98,3 +98,16 @@ def cell_flat(dimension, planes, signs):
 def cell_dimension(dimension, planes, signs):
     """The dimension of a cell."""
     return flat_dimension(dimension, cell_flat(dimension, planes, signs))
+
+
+def cell_dimensions(dimension, planes, cells):
+    """The dimensions of some cells, in turn."""
+    known = {}
+    found = []
+    for signs in cells:
+        # Cells with the same noughts have the same flat.
+        noughts = tuple([sign == 0 for sign in signs])
+        if noughts not in known:
+            known[noughts] = cell_dimension(dimension, planes, signs)
+        found.append(known[noughts])
+    return found

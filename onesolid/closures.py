@@ -6,7 +6,9 @@ the bit 0 is set at directions and clear at points. Without points the cone tell
 """
 
 from onesolid.cones import cone_of, holds_inside, shared_zeros, strict_bits, sum_of_rays
+from onesolid.flats import cleared_by_all, flat_of
 from onesolid.lots import vector_or_weights
+from onesolid.numbers import lowest, shortened
 from onesolid.rows import weighed
 
 
@@ -22,6 +24,37 @@ def closure_of(dimension, pairs):
     if holds_inside(cone, weighted):
         return cone
     return None
+
+
+def rows_around(dimension, points, rays, lines):
+    """The flat and the walls, ascending, of all sums of points, their weights adding up to 1, of rays and of lines.
+
+    All of them are vectors; rays and lines end in a 0.
+    """
+    # All rows that are not negative on the set are a cone, too: its lines are 0 there, its rays are the walls.
+    pairs = [("ge", vector) for vector in points] + [("ge", vector) for vector in rays]
+    equal, least = cone_of(dimension + 1, pairs + [("eq", vector) for vector in lines])
+    flat = flat_of(dimension, equal)
+    # A row that is 0 at no point is no wall.
+    bits = (1 << len(points)) - 1
+    walls = [shortened(cleared_by_all(row, flat)) for row, zeros in least if zeros & bits != 0]
+    return flat, tuple(sorted(walls))
+
+
+def shares_or_row(dimension, points, rays, point):
+    """How a point is a sum of points, their weights adding up to 1, and of multiples of rays, from 0.
+
+    Either the weights and the numbers, fractions, at most dimension + 1 of them other than 0, and None; or None, and
+    a row that is not negative at all points and along all rays, but at the point.
+    """
+    told = [("ge", vector) for vector in points] + [("ge", vector) for vector in rays]
+    row, wholes = vector_or_weights(dimension + 1, [("gt", tuple([-number for number in point]))] + told)
+    if wholes is None:
+        return None, row
+    bottom = wholes[0] * point[-1]
+    weights = [lowest(whole * own[-1], bottom) for whole, own in zip(wholes[1:], points)]
+    numbers = [lowest(whole, bottom) for whole in wholes[1 + len(points):]]
+    return (tuple(weights), tuple(numbers)), None
 
 
 def point_or_weights(dimension, pairs):

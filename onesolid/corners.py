@@ -1,12 +1,10 @@
 """Lines, corners and rays of bodies, and bodies told by them."""
 
 from onesolid.bodies import check_body, closure_of_body
-from onesolid.closures import is_at_points
-from onesolid.cones import cone_of
+from onesolid.closures import is_at_points, rows_around, shares_or_row
 from onesolid.errors import NotPaper, TooGreat
 from onesolid.flats import cleared_by_all, flat_of
-from onesolid.lots import vector_or_weights
-from onesolid.numbers import common_multiple, lowest, shortened, wrong_place
+from onesolid.numbers import common_multiple, shortened, wrong_place
 from onesolid.papers import is_worded
 from onesolid.points import check_direction, check_point
 from onesolid.rows import slope, weighed
@@ -63,27 +61,16 @@ def body_from(dimension, lines, points, rays):
     _check_many((lines, points, rays))
     if not points:
         return None
-    # All rows that are not negative on the set are a cone, too: its lines are 0 there, its rays are the walls.
-    pairs = [("ge", point) for point in points]
-    pairs += [("ge", ray) for ray in _vectors(rays)] + [("eq", line) for line in _vectors(lines)]
-    equal, least = cone_of(dimension + 1, pairs)
-    flat = flat_of(dimension, equal)
-    points_bits = (1 << len(points)) - 1
-    walls = [shortened(cleared_by_all(row, flat)) for row, zeros in least if zeros & points_bits != 0]
-    return (flat, tuple(sorted(walls)), ())
+    return rows_around(dimension, points, _vectors(rays), _vectors(lines)) + ((),)
 
 
 def corner_paper(dimension, points, rays, point):
     """A paper on whether a point is a sum of points, their weights adding up to 1, and multiples of rays from 0."""
     _check_told(dimension, points, rays, point)
-    told = [("ge", own) for own in points] + [("ge", ray) for ray in _vectors(rays)]
-    row, wholes = vector_or_weights(dimension + 1, [("gt", tuple([-number for number in point]))] + told)
-    if wholes is None:
+    shares, row = shares_or_row(dimension, points, _vectors(rays), point)
+    if shares is None:
         return ("out", row)
-    bottom = wholes[0] * point[-1]
-    weights = [lowest(whole * own[-1], bottom) for whole, own in zip(wholes[1:], points)]
-    numbers = [lowest(whole, bottom) for whole in wholes[1 + len(points):]]
-    return ("in", tuple(weights), tuple(numbers))
+    return ("in",) + shares
 
 
 def _check_told(dimension, points, rays, point):

@@ -71,11 +71,21 @@ def flat_meet(dimension, flat, other):
     return flat_of(dimension, flat + other)
 
 
+def is_on_row(flat, row):
+    """Whether a row is 0 at all points of a flat."""
+    return first_place(cleared_by_all(row, flat)) is None
+
+
+def in_sequence(flats):
+    """Some flats in their sequence, each once: by how many rows, then as Python compares."""
+    return tuple([flat for _, flat in sorted({(len(flat), flat) for flat in flats})])
+
+
 def flat_through(points):
     """The smallest flat that contains some points, one at least."""
     first = points[0]
     steps = [steps_between(first, point) for point in points[1:]]
-    return _flat_along(len(first) - 1, first, steps)
+    return flat_along(len(first) - 1, first, steps)
 
 
 def flat_sum(dimension, flat, other):
@@ -84,10 +94,10 @@ def flat_sum(dimension, flat, other):
     second = coordinates_of(flat_point(dimension, other))
     point = point_of(tuple([added(one, two) for one, two in zip(first, second)]))
     steps = flat_directions(dimension, flat) + flat_directions(dimension, other)
-    return _flat_along(dimension, point, steps)
+    return flat_along(dimension, point, steps)
 
 
-def _flat_along(dimension, point, steps):
+def flat_along(dimension, point, steps):
     """The flat through a point that goes on along some tuples of numbers, which may be noughts."""
     # What is at right angles to all steps is what the coefficients of its rows are made of.
     normals = flat_directions(dimension, flat_of(dimension, [step + (0,) for step in steps]))

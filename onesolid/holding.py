@@ -17,10 +17,10 @@ def put_through(dimension, table, row):
 
 def looked_at(dimension, formula):
     """The planes by whose signs at a point it is settled whether the formula holds there, ascending."""
-    return _studied(dimension, formula)[0]
+    return study(dimension, formula)[0]
 
 
-def _studied(dimension, formula):
+def study(dimension, formula):
     """The looked-at planes of a formula, and the formula with what its "some" and "every" need.
 
     Behind the part of a "some" or an "every" stand the looked-at planes of the part on which the last coordinate
@@ -31,13 +31,13 @@ def _studied(dimension, formula):
         return _unlike([plane_of(formula[2])]), formula
     if word == "back":
         table = formula[1]
-        planes, part = _studied(len(table), formula[2])
+        planes, part = study(len(table), formula[2])
         led = [plane_of(put_through(dimension, table, plane)) for plane in planes]
         return _unlike(led), (word, table, part)
     if word in ("some", "every"):
-        planes, part = _studied(dimension + 1, formula[1])
+        planes, part = study(dimension + 1, formula[1])
         return _unlike(_shadows(planes)), (word, part, _steep(planes))
-    pairs = [_studied(dimension, part) for part in formula[1:]]
+    pairs = [study(dimension, part) for part in formula[1:]]
     planes = [plane for pair in pairs for plane in pair[0]]
     return _unlike(planes), (word,) + tuple([pair[1] for pair in pairs])
 
@@ -107,21 +107,21 @@ def _enough_among(values):
 
 def holds(dimension, formula, point):
     """Whether a formula holds at a point."""
-    return _holds_there(_studied(dimension, formula)[1], point)
+    return holds_there(study(dimension, formula)[1], point)
 
 
 def witness(dimension, formula, point):
     """The first of enough values that shows that a "some" holds, or that an "every" does not; None if none does."""
     if formula[0] not in ("some", "every"):
         raise NotFormula(())
-    return _first_witness(_studied(dimension, formula)[1], point)
+    return _first_witness(study(dimension, formula)[1], point)
 
 
 def _first_witness(studied, point):
     word, part, steep = studied
     is_wanted = word == "some"
     for value in _enough_among(_places_over(steep, point)):
-        if _holds_there(part, point_above(point, value)) == is_wanted:
+        if holds_there(part, point_above(point, value)) == is_wanted:
             return value
     return None
 
@@ -133,30 +133,31 @@ def point_above(point, value):
     return shortened(numbers + [top * point[-1], point[-1] * bottom])
 
 
-def _point_led(table, point):
+def point_led(table, point):
     """The point whose coordinates are the values of the rows of a table at a point."""
     return shortened([weighed(row, point) for row in table] + [point[-1]])
 
 
-def _holds_there(studied, point):
+def holds_there(studied, point):
+    """Whether a formula, with what study puts to it, holds at a point."""
     word = studied[0]
     if word == "is":
-        return _has_sign(studied[1], weighed(studied[2], point))
+        return is_as_word(studied[1], weighed(studied[2], point))
     if word == "not":
-        return not _holds_there(studied[1], point)
+        return not holds_there(studied[1], point)
     if word == "back":
-        return _holds_there(studied[2], _point_led(studied[1], point))
+        return holds_there(studied[2], point_led(studied[1], point))
     if word in ("some", "every"):
         return (_first_witness(studied, point) is not None) == (word == "some")
     # One part with this worth settles the whole.
     settling = word == "or"
     for part in studied[1:]:
-        if _holds_there(part, point) == settling:
+        if holds_there(part, point) == settling:
             return settling
     return not settling
 
 
-def _has_sign(word, number):
+def is_as_word(word, number):
     """Whether a number is less than 0, at most 0 and so on, as the word of an "is" wants."""
     if word == "lt":
         return number < 0

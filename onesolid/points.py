@@ -57,6 +57,14 @@ def moved_by(point, direction, amount):
     return shortened(moved + [weight * bottom])
 
 
+def between(point, other, amount):
+    """The point on the way from one point to another that an amount, a fraction, of it leads to."""
+    top, bottom = amount
+    near = (bottom - top) * other[-1]
+    far = top * point[-1]
+    return shortened([near * number + far * part for number, part in zip(point, other)])
+
+
 def direction_to(point, other):
     """The direction from one point to another."""
     if point == other:

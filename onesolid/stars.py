@@ -13,7 +13,7 @@ def signs_around(size, normals):
     if rank == len(normals):
         return _all_signs(rank)
     found = {(0,) * len(normals): True}
-    for signs in _edges(size, normals, rank - 1):
+    for _, signs in edges_around(size, normals, rank):
         # Every other cell lies around an edge, on this side of the point or on the opposite one.
         opposite = tuple([-sign for sign in signs])
         for inner in signs_around(size, [normal for normal, sign in zip(normals, signs) if sign == 0]):
@@ -46,21 +46,24 @@ def _all_signs(many):
     return found
 
 
-def _edges(size, normals, many):
-    """The signs along the edges around the point, in one of both senses; so many normals are 0 along each of them."""
+def edges_around(size, normals, rank):
+    """The directions of the edges around the point, in one of both senses each, and the signs of the normals there.
+
+    The rank tells how many of the normals are independent.
+    """
     found = {}
-    for lot in combinations(normals, many):
+    for lot in combinations(normals, max(0, rank - 1)):
         flat = flat_across(size, lot)
-        if len(flat) == many:
-            signs = _signs_along(normals, flat_directions(size, flat))
-            found[tuple([sign == 0 for sign in signs])] = signs
+        if len(flat) == rank - 1:
+            direction, signs = _edge_along(normals, flat_directions(size, flat))
+            found[tuple([sign == 0 for sign in signs])] = (direction, signs)
     return list(found.values())
 
 
-def _signs_along(normals, directions):
-    """The signs of normals along the first of some directions that is not one of the flat along which all are 0."""
+def _edge_along(normals, directions):
+    """The first of some directions along which not all normals are 0, and their signs there."""
     for direction in directions:
         signs = tuple([sign_of(weighed(normal, direction)) for normal in normals])
         if any(signs):
-            return signs
+            return direction, signs
     return None

@@ -1,7 +1,7 @@
 """Weights of pairs: fractions by which their rows are multiplied and then added up."""
 
 from onesolid.errors import NotNumber
-from onesolid.numbers import check_fraction, common_multiple, lowest
+from onesolid.numbers import check_fraction, common_multiple, lowest, shortened
 
 
 def is_fraction(value):
@@ -35,6 +35,15 @@ def summed_up(size, rows, wholes):
     for row, whole in zip(rows, wholes):
         total = [number + whole * part for number, part in zip(total, row)]
     return tuple(total)
+
+
+def point_by_weights(points, weights):
+    """The point that is the sum of some, each multiplied by its weight; the weights add up to 1."""
+    bottom, wholes = in_wholes(weights)
+    scale = common_multiple([own[-1] for own in points])
+    multiples = [whole * (scale // own[-1]) for whole, own in zip(wholes, points)]
+    total = summed_up(len(points[0]), points, multiples)
+    return shortened(total[:-1] + (scale * bottom,))
 
 
 def are_signed(pairs, wholes):
