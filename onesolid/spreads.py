@@ -8,7 +8,6 @@ of its points; the lines lead along them. A pair (VECTOR, LOT) tells in the clos
 from onesolid.cells import least_meets
 from onesolid.flats import flat_directions, flat_point
 from onesolid.grids import grid_of, numbers_in
-from onesolid.holding import point_led
 from onesolid.numbers import compared, shortened
 from onesolid.rows import signs_at, slope, value_at
 from onesolid.stars import edges_around, flat_across
@@ -26,13 +25,6 @@ class Spread:
     def part(self, lot):
         """What some of the cells spread over."""
         return Spread(lot, self.points, self.rays, self.lines)
-
-    def led(self, table):
-        """What the images of the cells by a table spread over."""
-        points = [(point_led(table, vector), used) for vector, used in self.points]
-        rays = [(steps_led(table, vector), used) for vector, used in self.rays]
-        lines = [steps_led(table, vector) for vector in self.lines]
-        return Spread(self.lot, points, [pair for pair in rays if any(pair[0])], [line for line in lines if any(line)])
 
     def vectors(self):
         """The pairs of points and of rays."""
@@ -65,11 +57,6 @@ class Spread:
             if slope(row, vector) != 0:
                 lot &= ~used
         return lot
-
-
-def steps_led(table, vector):
-    """The vector of the steps that a table makes along a ray or a line."""
-    return tuple([slope(row, vector) for row in table]) + (0,)
 
 
 def spread_of(grid, lot):

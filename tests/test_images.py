@@ -80,8 +80,8 @@ class DrawnOn(SolidCase):
                   form_of(2, ("and", ("is", "eq", (1, -1, 0)), ("is", "ge", (1, 0, 0)), ("is", "le", (1, 0, -2)))))
         self.same(drawn_on(square, ((0, 0, 3), (0, 0, 4))), form_of(2, lone(3, 4)))
         self.same(drawn_on(square, ((1, 0, 0), (0, 1, 0), (0, 0, 7))),
-                  form_of(3, ("and", ("is", "eq", (0, 0, 1, -7)), ("is", "ge", (1, 0, 0, 0)), ("is", "le", (1, 0, 0, -1)),
-                              ("is", "ge", (0, 1, 0, 0)), ("is", "le", (0, 1, 0, -1)))))
+                  form_of(3, ("and", ("is", "eq", (0, 0, 1, -7)), ("is", "ge", (1, 0, 0, 0)),
+                              ("is", "le", (1, 0, 0, -1)), ("is", "ge", (0, 1, 0, 0)), ("is", "le", (0, 1, 0, -1)))))
         self.same(drawn_on(form_of(1, box(1, 0, 2, ("gt", "le"))), ((1, 0), (1, 1))),
                   form_of(2, ("and", ("is", "eq", (1, -1, 1)), ("is", "gt", (1, 0, 0)), ("is", "le", (1, 0, -2)))))
 
@@ -297,7 +297,8 @@ class Slices(SolidCase):
     def test_worked_by_hand(self):
         triangle = form_of(2, ("and", ("is", "ge", (1, 0, 0)), ("is", "gt", (0, 1, 0)), ("is", "le", (1, 1, -1))))
         self.same(slice_at(triangle, (0, 1)), EMPTY[1])
-        self.same(slice_at(form=triangle, value=(1, 3)), form_of(1, ("and", ("is", "ge", (1, 0)), ("is", "le", (3, -2)))))
+        self.same(slice_at(form=triangle, value=(1, 3)),
+                  form_of(1, ("and", ("is", "ge", (1, 0)), ("is", "le", (3, -2)))))
         self.same(slice_at(triangle, (1, 1)), form_of(1, lone(0)))
         self.same(slice_at(triangle, (-5, 2)), EMPTY[1])
         for value in ((0, 1), (-7, 3), (BIG, 2)):

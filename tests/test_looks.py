@@ -59,7 +59,8 @@ class Looks(SolidCase):
             self.assertEqual(len(look_at(form, point)), dimension)
             self.same(depth_at(form, point), 0)
             # On planes through it, but beside it, the set is the same all around.
-            self.same(look_at(form, (1,) + (0,) * (dimension - 1) + (1,)), look_at(form, point) if dimension == 1 else ())
+            beside = (1,) + (0,) * (dimension - 1) + (1,)
+            self.same(look_at(form, beside), look_at(form, point) if dimension == 1 else ())
             self.same(hangs_on(form, point, ()), False)
 
     def test_half_a_rim(self):
