@@ -14,7 +14,10 @@ class Blend:
         self.spreads = spreads
         rays = [vector for spread in spreads for vector, _ in spread.rays]
         lines = [vector for spread in spreads for vector in spread.lines]
-        self.flat, self.walls = rows_around(dimension, _sums(spreads), rays, lines)
+        flat, walls = rows_around(dimension, _sums(spreads), rays, lines)
+        self.flat = flat
+        self.walls = walls
+        # What lies on the walls, by their numbers, as far as it was asked for.
         self.parts = {}
 
     def has(self, point):

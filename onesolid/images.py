@@ -13,14 +13,14 @@ from onesolid.numbers import wrong_place
 from onesolid.points import check_point
 from onesolid.rows import plane_of, signs_at, slope, weighed
 
-GREATEST_DIMENSION = 3
+LARGEST_SPACE = 3
 
 
 def _is_table(value):
     """Whether any value is a tuple of 1 to 3 rows, all in one dimension from 1 to 3."""
-    if not isinstance(value, tuple) or not 1 <= len(value) <= GREATEST_DIMENSION:
+    if not isinstance(value, tuple) or not 1 <= len(value) <= LARGEST_SPACE:
         return False
-    if not isinstance(value[0], tuple) or not 2 <= len(value[0]) <= GREATEST_DIMENSION + 1:
+    if not isinstance(value[0], tuple) or not 2 <= len(value[0]) <= LARGEST_SPACE + 1:
         return False
     return all([wrong_place(row, len(value[0])) is None for row in value])
 
@@ -61,7 +61,8 @@ def _is_met(form, cells, flat):
     rows = []
     for plane in planes:
         rows.append(tuple([slope(plane, step) * point[-1] for step in directions]) + (weighed(plane, point),))
-    unlike = tuple({plane: True for plane in [plane_of(row) for row in rows] if plane is not None})
+    found = {plane_of(row): True for row in rows}
+    unlike = tuple([plane for plane in list(found) if plane is not None])
     return lot_by_rows(Grid(len(directions), unlike), rows, cells) != 0
 
 

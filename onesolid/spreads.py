@@ -67,13 +67,19 @@ def spread_of(grid, lot):
     for flat in least_meets(grid.dimension, grid.planes):
         vector = flat_point(grid.dimension, flat)
         points.append((vector, grid.star(signs_at(grid.planes, vector))))
+    rays = [] if across == () else _rays(grid, normals, len(across) - 1)
+    lines = [direction + (0,) for direction in flat_directions(grid.dimension, across)]
+    return Spread(lot, points, rays, lines)
+
+
+def _rays(grid, normals, many):
+    """The vectors of the edges of all cells far away, each with the lot of the cells that go on along it."""
     rays = []
-    for direction, far in edges_around(grid.dimension, normals, len(across)):
+    for direction, far in edges_around(grid.dimension, normals, many):
         rays.append((direction + (0,), grid.star(far)))
         opposite = tuple([-number for number in direction])
         rays.append((opposite + (0,), grid.star([-sign for sign in far])))
-    lines = [direction + (0,) for direction in flat_directions(grid.dimension, across)]
-    return Spread(lot, points, rays, lines)
+    return rays
 
 
 def spread_of_form(form):

@@ -13,7 +13,7 @@ def signs_around(size, normals):
     if rank == len(normals):
         return _all_signs(rank)
     found = {(0,) * len(normals): True}
-    for _, signs in edges_around(size, normals, rank):
+    for _, signs in edges_around(size, normals, rank - 1):
         # Every other cell lies around an edge, on this side of the point or on the opposite one.
         opposite = tuple([-sign for sign in signs])
         for inner in signs_around(size, [normal for normal, sign in zip(normals, signs) if sign == 0]):
@@ -46,15 +46,15 @@ def _all_signs(many):
     return found
 
 
-def edges_around(size, normals, rank):
+def edges_around(size, normals, many):
     """The directions of the edges around the point, in one of both senses each, and the signs of the normals there.
 
-    The rank tells how many of the normals are independent.
+    So many independent normals are 0 along each edge: one less than are independent of all.
     """
     found = {}
-    for lot in combinations(normals, max(0, rank - 1)):
+    for lot in combinations(normals, many):
         flat = flat_across(size, lot)
-        if len(flat) == rank - 1:
+        if len(flat) == many:
             direction, signs = _edge_along(normals, flat_directions(size, flat))
             found[tuple([sign == 0 for sign in signs])] = (direction, signs)
     return list(found.values())
