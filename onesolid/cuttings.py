@@ -57,7 +57,8 @@ def _cut_cells(grid, lot):
     found = []
     for number in numbers_in(lot):
         found.extend(_simplices_in(grid, corners, known, number))
-    return tuple([simplex for _, simplex in sorted([(len(simplex), simplex) for simplex in found])])
+    pairs = sorted([(len(simplex), simplex) for simplex in found])
+    return tuple([simplex for _, simplex in pairs])
 
 
 def _corner_number(grid, used):

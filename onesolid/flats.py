@@ -78,7 +78,8 @@ def is_on_row(flat, row):
 
 def in_sequence(flats):
     """Some flats in their sequence, each once: by how many rows, then as Python compares."""
-    return tuple([flat for _, flat in sorted({(len(flat), flat) for flat in flats})])
+    pairs = sorted({(len(flat), flat) for flat in flats})
+    return tuple([flat for _, flat in pairs])
 
 
 def flat_through(points):

@@ -72,6 +72,21 @@ class Language(unittest.TestCase):
                 self.assertEqual(package, "onesolid")
                 self.assertIn(file, files)
 
+    def test_names_are_bound_once_and_imported_from_where_they_are_defined(self):
+        own = {}
+        imported = []
+        for name, text in texts():
+            body = ast.parse(text).body
+            own[name[:-3]] = [node.name for node in body if isinstance(node, (ast.FunctionDef, ast.ClassDef))]
+            own[name[:-3]] += [node.targets[0].id for node in body if isinstance(node, ast.Assign)]
+            pairs = [(node.module, alias.name) for node in body if isinstance(node, ast.ImportFrom)
+                     for alias in node.names]
+            bound = own[name[:-3]] + [word for _, word in pairs]
+            self.assertEqual(len(set(bound)), len(bound), name)
+            imported += [(module[9:], word) for module, word in pairs if module.startswith("onesolid.")]
+        for file, word in imported:
+            self.assertIn(word, own[file])
+
     def test_imports_go_round_in_no_circle(self):
         looks = {}
         for name, text in texts():
