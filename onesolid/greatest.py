@@ -1,7 +1,7 @@
 """The greatest values of rows on sets, and the boxes around these."""
 
 from onesolid.errors import Empty, Endless
-from onesolid.rows import check_row
+from onesolid.rows import check_row, coordinate_row
 from onesolid.spreads import spread_of_form
 
 
@@ -40,7 +40,7 @@ def box_of(form):
         raise Empty()
     spread = spread_of_form(form)
     pairs = []
-    for own in range(dimension):
-        row = tuple([1 if place == own else 0 for place in range(dimension + 1)])
+    for place in range(dimension):
+        row = coordinate_row(dimension, place)
         pairs.append((_least(spread, row), _greatest(spread, row)))
     return tuple(pairs)

@@ -11,7 +11,7 @@ from onesolid.holding import put_through
 from onesolid.needed import cut_at_most, flats_of
 from onesolid.numbers import wrong_place
 from onesolid.points import check_point
-from onesolid.rows import plane_of, signs_at, slope, weighed
+from onesolid.rows import coordinate_row, plane_of, signs_at, slope, weighed
 
 LARGEST_SPACE = 3
 
@@ -79,8 +79,7 @@ def shadow(form):
     dimension = form[0]
     if dimension == 1:
         raise Unlike()
-    rows = [tuple([1 if place == own else 0 for place in range(dimension + 1)]) for own in range(dimension - 1)]
-    return _drawn(form, tuple(rows))
+    return _drawn(form, tuple([coordinate_row(dimension, place) for place in range(dimension - 1)]))
 
 
 def full_shadow(form):

@@ -20,6 +20,11 @@ def check_plane(dimension, value):
     return value
 
 
+def coordinate_row(dimension, own):
+    """The row the value of which is the coordinate with a number."""
+    return tuple([1 if place == own else 0 for place in range(dimension + 1)])
+
+
 def first_place(numbers):
     """The place of the first number that is not 0, None if there is none."""
     for place, number in enumerate(numbers):

@@ -31,6 +31,17 @@ class SolidCase(unittest.TestCase):
             if found is not wanted:
                 self.same(found, wanted)
 
+    def refuses_what_is_no_point(self, call):
+        """The call, of any value as a point of the plane, refuses what is none, in the sequence of check_point."""
+        for value in NO_TUPLES + ((), (1, 1), (0, 0, 0, 1)):
+            self.refused(errors.NotPoint, call, value, place=-1)
+        for value in NO_INTEGERS:
+            self.refused(errors.NotPoint, call, (value, 1, 0), place=0)
+            self.refused(errors.NotPoint, call, (0, value, 0), place=1)
+        self.refused(errors.NotPoint, call, (0, 0, 0), place=2)
+        self.refused(errors.NotPoint, call, (0, 0, -1), place=2)
+        self.refused(errors.NotPoint, call, (2, 4, 2), place=-2)
+
 
 def kinds(value):
     """The classes of a value and of what is in its tuples."""

@@ -9,7 +9,7 @@ from helping import BIG, NO_INTEGERS, NO_TUPLES, SolidCase, numbers_at
 from making import crossing_lines, small_formulas, small_points
 from onesolid.cells import cell_dimension, cells_of, point_in
 from onesolid.deeds import rest
-from onesolid.errors import Empty, NotForm, NotFormula, NotPoint, TooGreat
+from onesolid.errors import Empty, NotForm, NotFormula, TooGreat
 from onesolid.formulas import words_of
 from onesolid.forms import (a_point, cell_at, dimension_of, form_from, form_of, formula_of, has_point, is_all, is_empty,
                             need_form)
@@ -378,12 +378,7 @@ class ReadOff(SolidCase):
     def test_no_point(self):
         form = form_of(2, box(2))
         for call in (lambda value: has_point(form, value), lambda value: cell_at(form, value)):
-            for value in NO_TUPLES + ((), (1, 1), (0, 0, 0, 1)):
-                self.refused(NotPoint, call, value, place=-1)
-            for value in NO_INTEGERS:
-                self.refused(NotPoint, call, (value, 1, 1), place=0)
-            self.refused(NotPoint, call, (0, 0, -1), place=2)
-            self.refused(NotPoint, call, (3, 6, 3), place=-2)
+            self.refuses_what_is_no_point(call)
 
     def test_empty_and_whole(self):
         for dimension in DIMENSIONS:

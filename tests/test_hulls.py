@@ -5,7 +5,7 @@ from fractions import Fraction
 from random import Random
 
 from formed import ALL, EMPTY, box, in_form, lone, pairs_of, points_of_line, some_forms, told_forms, unit
-from helping import BIG, NO_INTEGERS, NO_TUPLES, SolidCase, numbers_at, told
+from helping import BIG, NO_TUPLES, SolidCase, numbers_at, told
 from making import small_points
 from onesolid.cells import cells_of, point_in
 from onesolid.deeds import either, inner, is_within, less, rest
@@ -319,12 +319,7 @@ class InHull(Papers):
     def test_no_point(self):
         for call in (lambda value: in_hull(POINT_AND_LINE, value),
                      lambda value: check_hull(POINT_AND_LINE, value, None)):
-            for value in NO_TUPLES + ((), (1, 1), (0, 0, 0, 1)):
-                self.refused(NotPoint, call, value, place=-1)
-            for value in NO_INTEGERS:
-                self.refused(NotPoint, call, (0, value, 0), place=1)
-            self.refused(NotPoint, call, (0, 0, 0), place=2)
-            self.refused(NotPoint, call, (2, 4, 2), place=-2)
+            self.refuses_what_is_no_point(call)
 
 
 class CheckHull(SolidCase):

@@ -10,7 +10,7 @@ from helping import BIG, NO_INTEGERS, NO_TUPLES, SolidCase, numbers_at, pair, wo
 from making import crossing_lines, small_points
 from onesolid.cells import cells_of, point_in
 from onesolid.deeds import both, either, is_within, rest
-from onesolid.errors import NotMap, NotPoint, TooGreat, Unlike
+from onesolid.errors import NotMap, TooGreat, Unlike
 from onesolid.flatmaps import flat_image
 from onesolid.flats import check_flat, flat_directions, flat_of, flat_point, flat_through, on_flat
 from onesolid.forms import form_from, form_of, has_point, need_form
@@ -385,12 +385,7 @@ class Moved(SolidCase):
 
     def test_no_point(self):
         form = form_of(2, box(2))
-        for value in NO_TUPLES + ((), (1, 1), (0, 0, 0, 1)):
-            self.refused(NotPoint, shifted, form, value, place=-1)
-        for value in NO_INTEGERS:
-            self.refused(NotPoint, shifted, form, (1, value, 1), place=1)
-        self.refused(NotPoint, shifted, form, (0, 0, 0), place=2)
-        self.refused(NotPoint, shifted, form, (2, 2, 2), place=-2)
+        self.refuses_what_is_no_point(lambda value: shifted(form, value))
 
     def test_unions_are_moved_part_by_part(self):
         for dimension in DIMENSIONS:

@@ -7,10 +7,10 @@ from random import Random
 from anew import reduced, whole
 from arranged import cells_anew
 from formed import ALL, EMPTY, box, contains, hangs_anew, is_face, lone, look_anew, some_forms
-from helping import NO_INTEGERS, NO_TUPLES, SolidCase
+from helping import SolidCase
 from making import small_points
 from onesolid.cells import point_in
-from onesolid.errors import NotPoint, Unlike
+from onesolid.errors import Unlike
 from onesolid.forms import form_of
 from onesolid.looks import depth_at, hangs_on, look_at, star_at
 from onesolid.rows import signs_at
@@ -130,12 +130,7 @@ class Looks(SolidCase):
         calls = (lambda value: star_at(HALF, value), lambda value: look_at(HALF, value),
                  lambda value: depth_at(HALF, value), lambda value: hangs_on(HALF, value, ((7, 7, 7),)))
         for call in calls:
-            for value in NO_TUPLES + ((), (1, 1), (0, 0, 0, 1)):
-                self.refused(NotPoint, call, value, place=-1)
-            for value in NO_INTEGERS:
-                self.refused(NotPoint, call, (0, value, 0), place=1)
-            self.refused(NotPoint, call, (0, 0, 0), place=2)
-            self.refused(NotPoint, call, (2, 4, 2), place=-2)
+            self.refuses_what_is_no_point(call)
 
 
 if __name__ == "__main__":

@@ -5,7 +5,7 @@ from fractions import Fraction
 from random import Random
 
 from formed import ALL, EMPTY, box, in_form, lone, some_forms, told_forms
-from helping import NO_INTEGERS, NO_TUPLES, SolidCase, numbers_at
+from helping import SolidCase, numbers_at
 from making import small_points
 from onesolid.cells import cells_of, point_in
 from onesolid.errors import NotPoint, TooGreat
@@ -83,12 +83,7 @@ class Near(SolidCase):
         calls = (lambda value: near(SQUARE, value), lambda value: are_near_alike(SQUARE, value, (0, 0, 1)),
                  lambda value: are_near_alike(SQUARE, (0, 0, 1), value))
         for call in calls:
-            for value in NO_TUPLES + ((), (1, 1), (0, 0, 0, 1)):
-                self.refused(NotPoint, call, value, place=-1)
-            for value in NO_INTEGERS:
-                self.refused(NotPoint, call, (0, value, 0), place=1)
-            self.refused(NotPoint, call, (0, 0, 0), place=2)
-            self.refused(NotPoint, call, (2, 4, 2), place=-2)
+            self.refuses_what_is_no_point(call)
         self.refused(NotPoint, are_near_alike, SQUARE, (0, 0, 0), None, place=2)
 
 
