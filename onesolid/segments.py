@@ -11,7 +11,7 @@ def just_behind(planes, point, other):
     for plane in planes:
         height = weighed(plane, point) * other[-1]
         far = weighed(plane, other) * point[-1]
-        if height != 0 and height * far <= 0:
+        if height * far < 0:
             turn = lowest(height, height - far)
             if compared(turn, least) < 0:
                 least = turn
