@@ -3,10 +3,11 @@
 from onesolid.closures import point_or_weights
 from onesolid.errors import NotPaper
 from onesolid.flats import cleared_by_all
+from onesolid.numbers import over_one_bottom
 from onesolid.papers import is_point, is_worded
 from onesolid.rows import first_place
 from onesolid.systems import check_system, first_failing
-from onesolid.weights import are_barring, are_weights, in_wholes, shares
+from onesolid.weights import are_barring, are_weights, shares
 
 BETWEEN_FORMS = (("common", 2), ("between", 3))
 
@@ -32,7 +33,7 @@ def is_bar(dimension, system, weights):
 
 def _bars(dimension, pairs, weights):
     """Whether as many fractions as pairs are a bar of these."""
-    _, wholes = in_wholes(weights)
+    _, wholes = over_one_bottom(weights)
     return are_barring(dimension + 1, pairs, wholes)
 
 

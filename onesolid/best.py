@@ -2,12 +2,12 @@
 
 from onesolid.closures import closure_of, has_point, is_at_points, point_or_weights, rays_on, sum_point
 from onesolid.errors import NotPaper
-from onesolid.numbers import compared
+from onesolid.numbers import compared, over_one_bottom
 from onesolid.papers import is_direction, is_point, is_worded
 from onesolid.points import direction_of
 from onesolid.rows import check_row, slope, value_at, weighed
 from onesolid.systems import check_system, first_failing, loosened
-from onesolid.weights import are_barring, are_signed, are_weights, in_wholes, is_strict, shares, summed_up
+from onesolid.weights import are_barring, are_signed, are_weights, is_strict, shares, summed_up
 
 PAPER_FORMS = (("none", 2), ("endless", 3), ("met", 3), ("near", 4))
 
@@ -111,7 +111,7 @@ def _is_paper(dimension, many, paper):
 def _shown(dimension, system, row, paper):
     """What a paper shows, None if it does not hold."""
     if paper[0] == "none":
-        is_barred = are_barring(dimension + 1, system, in_wholes(paper[1])[1])
+        is_barred = are_barring(dimension + 1, system, over_one_bottom(paper[1])[1])
         return ("none",) if is_barred else None
     if first_failing(system, paper[1]) is not None:
         return None
@@ -123,7 +123,7 @@ def _shown(dimension, system, row, paper):
     value = value_at(row, paper[2])
     if first_failing(loosened(system), paper[2]) is not None or not _bound(system, row, value, paper[3]):
         return None
-    return ("most", value, False) if is_strict(system, in_wholes(paper[3])[1]) else None
+    return ("most", value, False) if is_strict(system, over_one_bottom(paper[3])[1]) else None
 
 
 def _leads_on(system, row, direction):
@@ -137,7 +137,7 @@ def _leads_on(system, row, direction):
 
 def _bound(system, row, value, weights):
     """Whether weights are not negative but for "eq" pairs, and the rows add up by them to a value less the row."""
-    bottom, wholes = in_wholes(weights)
+    bottom, wholes = over_one_bottom(weights)
     total = summed_up(len(row), [own for _, own in system], wholes)
     wanted = [-bottom * number for number in _less_value(row, value)]
     return are_signed(system, wholes) and [value[1] * number for number in total] == wanted

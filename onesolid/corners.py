@@ -4,11 +4,11 @@ from onesolid.bodies import check_body, closure_of_body
 from onesolid.closures import is_at_points, rows_around, shares_or_row
 from onesolid.errors import NotPaper, TooGreat
 from onesolid.flats import cleared_by_all, flat_of
-from onesolid.numbers import common_multiple, shortened, wrong_place
+from onesolid.numbers import common_multiple, over_one_bottom, shortened, wrong_place
 from onesolid.papers import is_worded
 from onesolid.points import check_direction, check_point
 from onesolid.rows import slope, weighed
-from onesolid.weights import are_weights, in_wholes, summed_up
+from onesolid.weights import are_weights, summed_up
 
 MOST_TOLD = 24
 PAPER_FORMS = (("in", 3), ("out", 2))
@@ -104,7 +104,7 @@ def _is_paper(dimension, many_points, many_rays, paper):
 
 def _adds_up(dimension, points, rays, point, paper):
     """Whether the weights and numbers of a paper are as told and lead to the point."""
-    bottom, wholes = in_wholes(paper[1] + paper[2])
+    bottom, wholes = over_one_bottom(paper[1] + paper[2])
     used = [whole for whole in wholes if whole != 0]
     if len(used) > dimension + 1 or any([whole < 0 for whole in used]):
         return False

@@ -10,11 +10,7 @@ from onesolid.spreads import spread_of, spread_of_form
 
 def is_bounded(form):
     """Whether the coordinates of the points of a set have bounds."""
-    return _is_bounded(spread_of_form(form))
-
-
-def _is_bounded(spread):
-    return not spread.lines and not spread.rays
+    return spread_of_form(form).has_bounds()
 
 
 def set_corners(form):
@@ -28,7 +24,7 @@ def set_corners(form):
 def cutting(form):
     """The simplices of the told cuttings of the cells that lie in a bounded set."""
     grid, lot = grid_of(form)
-    return _cut_cells(grid, lot)
+    return _in_turn(cut_cells(grid, lot))
 
 
 def cutting_in(form, signs):
@@ -36,7 +32,7 @@ def cutting_in(form, signs):
     grid, _ = grid_of(form)
     if not isinstance(signs, tuple) or not all([is_whole(sign) for sign in signs]) or signs not in form[2]:
         raise Unlike()
-    return _cut_cells(grid, grid.lot_of((signs,)))
+    return _in_turn(cut_cells(grid, grid.lot_of((signs,))))
 
 
 def tally(form):
@@ -47,18 +43,20 @@ def tally(form):
     return tuple(counts)
 
 
-def _cut_cells(grid, lot):
-    """The simplices of the told cuttings that lie in some bounded cells, by the number of their corners."""
+def _in_turn(found):
+    """All simplices of some cells, by the number of their corners, then as Python compares."""
+    pairs = sorted([(len(simplex), simplex) for simplices in list(found.values()) for simplex in simplices])
+    return tuple([simplex for _, simplex in pairs])
+
+
+def cut_cells(grid, lot):
+    """By the numbers of some bounded cells, a lot, the simplices of the told cuttings that lie in each of them."""
     spread = spread_of(grid, lot)
-    if not _is_bounded(spread):
+    if not spread.has_bounds():
         raise Endless()
     corners = [(vector, _corner_number(grid, used)) for vector, used in sorted(spread.points)]
     known = {number: [(vector,)] for vector, number in corners}
-    found = []
-    for number in numbers_in(lot):
-        found.extend(_simplices_in(grid, corners, known, number))
-    pairs = sorted([(len(simplex), simplex) for simplex in found])
-    return tuple([simplex for _, simplex in pairs])
+    return {number: _simplices_in(grid, corners, known, number) for number in numbers_in(lot)}
 
 
 def _corner_number(grid, used):
@@ -92,7 +90,12 @@ def _faces_across(grid, signs, corner):
 
 def euler(form):
     """The number of the cells of even dimension of a set, less that of those of odd dimension."""
-    return sum([_signed(own) for own in cell_dimensions(form[0], form[1], form[2])])
+    return signed_count(form[0], form[1], form[2])
+
+
+def signed_count(dimension, planes, cells):
+    """The number of those of some cells that have an even dimension, less that of the others."""
+    return sum([_signed(own) for own in cell_dimensions(dimension, planes, cells)])
 
 
 def _signed(dimension):
@@ -104,7 +107,7 @@ def slice_eulers(form):
     """For each height of a corner of a bounded set the height, the euler of the slice there and a little above."""
     grid, lot = grid_of(form)
     spread = spread_of(grid, lot)
-    if not _is_bounded(spread):
+    if not spread.has_bounds():
         raise Endless()
     heights = ascending([coordinates_of(vector)[-1] for vector, _ in spread.points])
     at = [0] * len(heights)

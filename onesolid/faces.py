@@ -3,9 +3,8 @@
 from onesolid.cells import cell_dimension, normals_at, pairs_of_cell
 from onesolid.closures import closure_of, is_at_points, is_zero
 from onesolid.cones import face_zeros
-from onesolid.numbers import ascending, halfway, lowest, sign_of
-from onesolid.rows import weighed
 from onesolid.stars import noughts_filled, signs_around
+from onesolid.walks import courses_between, segment_bits, signs_at_number
 
 
 def cell_faces(dimension, planes, signs):
@@ -47,22 +46,10 @@ def toward(signs, other):
 
 def step_through(dimension, planes, point, other):
     """The signs of the cells to which the points of a segment belong, in the sequence in which it enters them."""
-    # The heights of both ends over each plane, on one scale.
-    heights = [(weighed(plane, point) * other[-1], weighed(plane, other) * point[-1]) for plane in planes]
-    turns = [lowest(near, near - far) for near, far in heights if near * far < 0]
-    stops = ascending([(0, 1)] + turns + [(1, 1)])
-    amounts = [stops[0]]
-    for one, following in zip(stops, stops[1:]):
-        amounts.extend([halfway(one, following), following])
+    courses = courses_between(planes, point, other)
     found = []
-    for amount in amounts:
-        signs = _signs_on_the_way(heights, amount)
+    for _, _, number in segment_bits(courses):
+        signs = signs_at_number(courses, number)
         if not found or found[-1] != signs:
             found.append(signs)
     return tuple(found)
-
-
-def _signs_on_the_way(heights, amount):
-    """The signs at the point that lies on the way from one end to the other by an amount from 0 to 1."""
-    top, bottom = amount
-    return tuple([sign_of((bottom - top) * near + top * far) for near, far in heights])

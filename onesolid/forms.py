@@ -61,12 +61,12 @@ def form_from(dimension, planes, cells):
     """The form of the union of some cells of planes; planes and cells are any values."""
     check_planes(dimension, planes)
     grid = Grid(dimension, planes)
-    if not _are_cells(grid, cells) or len(set(cells)) < len(cells):
+    if not are_cells(grid, cells) or len(set(cells)) < len(cells):
         raise NotForm("cells")
     return form_of_lot(grid, grid.lot_of(cells))
 
 
-def _are_cells(grid, value):
+def are_cells(grid, value):
     """Whether any value is a tuple of signs of cells."""
     return isinstance(value, tuple) and all([_is_cell_of(grid, signs) for signs in value])
 
@@ -85,7 +85,7 @@ def need_form(value):
     if not _are_ascending_planes(dimension, planes):
         raise NotForm("planes")
     grid = Grid(dimension, planes)
-    if not _are_cells(grid, cells) or not _is_ascending(cells):
+    if not are_cells(grid, cells) or not is_ascending(cells):
         raise NotForm("cells")
     if not _is_form_of(grid, value):
         raise NotForm("needed")
@@ -109,10 +109,11 @@ def _are_ascending_planes(dimension, planes):
             check_plane(dimension, plane)
         except NotRow:
             return False
-    return _is_ascending(planes)
+    return is_ascending(planes)
 
 
-def _is_ascending(things):
+def is_ascending(things):
+    """Whether some things are greater and greater, as Python compares."""
     return all([one < other for one, other in zip(things, things[1:])])
 
 

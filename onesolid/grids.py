@@ -36,10 +36,7 @@ class Grid:
 
     def lot_of(self, cells):
         """The lot of some cells, told by their signs."""
-        lot = 0
-        for signs in cells:
-            lot |= 1 << self.numbers[signs]
-        return lot
+        return lot_of_numbers([self.numbers[signs] for signs in cells])
 
     def cells_in(self, lot):
         """The signs of the cells of a lot, ascending."""
@@ -56,6 +53,14 @@ def _sides(cells, place):
 def numbers_in(lot):
     """The numbers of the cells of a lot, ascending."""
     return [number for number, digit in enumerate(f"{lot:b}"[::-1]) if digit == "1"]
+
+
+def lot_of_numbers(numbers):
+    """The lot of the cells with some numbers."""
+    lot = 0
+    for number in numbers:
+        lot |= 1 << number
+    return lot
 
 
 def grid_of(form):

@@ -9,11 +9,12 @@ from onesolid.flats import flat_of, in_sequence
 from onesolid.grids import Grid, grid_of, zero_places
 from onesolid.laddering import is_ladder_on, ladder_of_steps, parted_or_common, spread_of_point
 from onesolid.needed import cut_at_most
+from onesolid.numbers import over_one_bottom
 from onesolid.papers import is_point, is_worded
 from onesolid.points import between, check_point, moved_by
 from onesolid.segments import just_behind, opposite_to
 from onesolid.spreads import inner_points, spread_of, spread_of_form
-from onesolid.weights import are_weights, in_wholes, point_by_weights
+from onesolid.weights import are_weights, point_by_weights
 
 PAPER_FORMS = (("in", 3), ("out", 2))
 
@@ -171,5 +172,5 @@ def _adds_up(form, point, points, weights):
         return False
     if not are_weights(weights, len(points)) or any([top <= 0 for top, _ in weights]):
         return False
-    bottom, wholes = in_wholes(weights)
+    bottom, wholes = over_one_bottom(weights)
     return sum(wholes) == bottom and point_by_weights(points, weights) == point

@@ -107,7 +107,23 @@ def compared(one, other):
 
 def ascending(fractions):
     """The tuple of some fractions, ascending by their values, each once."""
-    # Over one common bottom the tops are in the sequence of the values.
-    bottom = common_multiple([fraction[1] for fraction in fractions])
-    tops = sorted({top * (bottom // own) for top, own in fractions})
-    return tuple([lowest(top, bottom) for top in tops])
+    bottom, tops = over_one_bottom(fractions)
+    return tuple([lowest(top, bottom) for top in sorted(set(tops))])
+
+
+def in_order(fractions):
+    """The tuple of some fractions, ordered by their values, equal ones too."""
+    bottom, tops = over_one_bottom(fractions)
+    return tuple([lowest(top, bottom) for top in sorted(tops)])
+
+
+def over_one_bottom(fractions):
+    """The common bottom of some fractions, and their tops over it, which are in the sequence of the values."""
+    bottom = common_multiple([own for _, own in fractions])
+    return bottom, [top * (bottom // own) for top, own in fractions]
+
+
+def total_of(fractions):
+    """The sum of some fractions."""
+    bottom, tops = over_one_bottom(fractions)
+    return lowest(sum(tops), bottom)

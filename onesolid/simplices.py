@@ -74,16 +74,16 @@ def simplex_volume(simplex):
     bottom = factorial(dimension)
     for corner in simplex:
         bottom *= corner[-1]
-    return lowest(abs(_determinant(simplex)), bottom)
+    return lowest(abs(determinant(simplex)), bottom)
 
 
-def _determinant(rows):
+def determinant(rows):
     """The determinant of as many rows as each has numbers."""
     if len(rows) == 1:
         return rows[0][0]
     total = 0
     turn = 1
     for place, number in enumerate(rows[0]):
-        total += turn * number * _determinant([row[:place] + row[place + 1:] for row in rows[1:]])
+        total += turn * number * determinant([row[:place] + row[place + 1:] for row in rows[1:]])
         turn = -turn
     return total

@@ -30,6 +30,10 @@ class Spread:
         """The pairs of points and of rays."""
         return self.points + self.rays
 
+    def has_bounds(self):
+        """Whether the coordinates of the points of the cells have bounds."""
+        return not self.lines and not self.rays
+
     def least_value(self, row):
         """The least value that a row has on the closures of the cells, None without cells or without such a value."""
         if self.lot == 0 or self.is_falling(row):

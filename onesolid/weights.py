@@ -1,7 +1,7 @@
 """Weights of pairs: fractions by which their rows are multiplied and then added up."""
 
 from onesolid.errors import NotNumber
-from onesolid.numbers import check_fraction, common_multiple, lowest, shortened
+from onesolid.numbers import check_fraction, common_multiple, lowest, over_one_bottom, shortened
 
 
 def is_fraction(value):
@@ -23,12 +23,6 @@ def shares(wholes, bottom):
     return tuple([lowest(whole, bottom) for whole in wholes])
 
 
-def in_wholes(weights):
-    """The common bottom of some fractions, and their tops over it."""
-    bottom = common_multiple([own for _, own in weights])
-    return bottom, [top * (bottom // own) for top, own in weights]
-
-
 def summed_up(size, rows, wholes):
     """The sum of some rows of so many numbers, each multiplied by its integer."""
     total = [0] * size
@@ -39,7 +33,7 @@ def summed_up(size, rows, wholes):
 
 def point_by_weights(points, weights):
     """The point that is the sum of some, each multiplied by its weight; the weights add up to 1."""
-    bottom, wholes = in_wholes(weights)
+    bottom, wholes = over_one_bottom(weights)
     scale = common_multiple([own[-1] for own in points])
     multiples = [whole * (scale // own[-1]) for whole, own in zip(wholes, points)]
     total = summed_up(len(points[0]), points, multiples)

@@ -7,6 +7,8 @@ from anew import has_points, reduced, whole
 from arranged import SPECIAL, cells_anew, pairs_anew, some_planes
 from making import small_formula
 from onesolid.cells import cells_of
+from onesolid.deeds import both
+from onesolid.endless import is_cell_bounded
 from onesolid.errors import TooGreat
 from onesolid.forms import form_from, form_of
 
@@ -149,3 +151,33 @@ def holds_at(pairs, coordinates):
 def in_form(form, coordinates):
     """Whether a point with these coordinates belongs to the set of a form."""
     return any(holds_at(pairs, coordinates) for pairs in pairs_of(form))
+
+
+def bounded_forms(dimension, many, seed):
+    """Forms within a box: boxes with parts taken out, and lots of bounded cells."""
+    frame = form_of(dimension, box(dimension, -3, 4, ("ge", "lt")))
+    for form in told_forms(dimension, many, seed):
+        try:
+            yield both(form, frame)
+        except TooGreat:
+            pass
+    random = Random(seed)
+    for form in some_forms(dimension, 2 * many, 6, seed + 1):
+        cells = [signs for signs in cells_of(dimension, form[1]) if is_cell_bounded(dimension, form[1], signs)]
+        inside = tuple(signs for signs in cells if random.random() < 0.6)
+        try:
+            yield form_from(dimension, form[1], inside)
+        except TooGreat:
+            pass
+
+
+def hard_to_close():
+    """A form of space the closure of which has too many planes.
+
+    Below a plane, slits along 15 others; above it, lone points where these meet. Without the slits, which are no part
+    of the closure's rim, the lone points need more planes.
+    """
+    planes = tuple((1, k, k * k, k ** 3 * 7 + 1) for k in range(1, 16)) + ((0, 0, 1, 150),)
+    inside = [signs for signs in cells_of(3, planes)
+              if (0 not in signs and signs[-1] < 0) or (signs.count(0) == 3 and signs[-1] > 0)]
+    return form_from(3, planes, tuple(inside))

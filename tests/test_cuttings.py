@@ -2,18 +2,17 @@
 
 import unittest
 from itertools import combinations
-from random import Random
 
-from formed import ALL, EMPTY, box, lone, points_of_line, some_forms, told_forms, unit
+from formed import ALL, EMPTY, bounded_forms, box, lone, points_of_line, some_forms, unit
 from helping import NO_TUPLES, SolidCase, told
 from making import small_points
 from onesolid.cells import cell_dimension, cells_of, point_in
 from onesolid.cuttings import cutting, cutting_in, euler, is_bounded, set_corners, slice_eulers, tally
-from onesolid.deeds import both, closed, inner, less, rest
+from onesolid.deeds import closed, inner, less, rest
 from onesolid.endless import is_cell_bounded
-from onesolid.errors import Endless, TooGreat, Unlike
+from onesolid.errors import Endless, Unlike
 from onesolid.faces import cell_corners, cell_faces
-from onesolid.forms import form_from, form_of, has_point
+from onesolid.forms import form_of, has_point
 from onesolid.images import slice_at
 from onesolid.looks import star_at
 from onesolid.numbers import halfway
@@ -25,24 +24,6 @@ DIMENSIONS = (1, 2, 3)
 SQUARE = form_of(2, box(2))
 # A square with a square hole, of which the rim belongs to it.
 RING = form_of(2, ("and", box(2, 0, 3), ("not", box(2, 1, 2, ("gt", "lt")))))
-
-
-def bounded_forms(dimension, many, seed):
-    """Forms within a box: boxes with parts taken out, and lots of bounded cells."""
-    frame = form_of(dimension, box(dimension, -3, 4, ("ge", "lt")))
-    for form in told_forms(dimension, many, seed):
-        try:
-            yield both(form, frame)
-        except TooGreat:
-            pass
-    random = Random(seed)
-    for form in some_forms(dimension, 2 * many, 6, seed + 1):
-        cells = [signs for signs in cells_of(dimension, form[1]) if is_cell_bounded(dimension, form[1], signs)]
-        inside = tuple(signs for signs in cells if random.random() < 0.6)
-        try:
-            yield form_from(dimension, form[1], inside)
-        except TooGreat:
-            pass
 
 
 def cutting_anew(dimension, planes, signs):

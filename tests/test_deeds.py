@@ -4,7 +4,8 @@ import unittest
 from random import Random
 
 from arranged import cells_anew
-from formed import ALL, EMPTY, MOST, box, form_anew, is_face, lone, points_of_line, some_forms, told_forms, unit
+from formed import (ALL, EMPTY, MOST, box, form_anew, hard_to_close, is_face, lone, points_of_line, some_forms,
+                    told_forms, unit)
 from helping import SolidCase
 from making import small_points
 from onesolid.cells import cells_of
@@ -222,13 +223,8 @@ class Closures(SolidCase):
                 self.assertTrue(is_within(inner(form), form) and is_within(form, closed(form)))
 
     def test_too_great(self):
-        # Below a plane, slits along 15 others; above it, lone points where these meet. Without the slits, which are
-        # no part of the closure's rim, the lone points need more planes.
-        planes = tuple((1, k, k * k, k ** 3 * 7 + 1) for k in range(1, 16)) + ((0, 0, 1, 150),)
-        inside = [signs for signs in cells_of(3, planes)
-                  if (0 not in signs and signs[-1] < 0) or (signs.count(0) == 3 and signs[-1] > 0)]
-        form = form_from(3, planes, tuple(inside))
-        self.assertEqual(form[1], tuple(sorted(planes)))
+        form = hard_to_close()
+        self.assertEqual(len(form[1]), 16)
         for call in (closed, is_closed):
             self.refused(TooGreat, call, form, most=16)
         self.assertEqual(len(inner(form)[1]), 16)
