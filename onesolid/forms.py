@@ -17,17 +17,18 @@ SIGN_WORDS = {-1: "lt", 0: "eq", 1: "gt"}
 
 def form_of(dimension, formula):
     """The form of the set that any value, if it is a formula of the dimension, tells."""
-    return _form_of(dimension, check_formula(dimension, formula))
+    return form_told(dimension, check_formula(dimension, formula))
 
 
-def _form_of(dimension, formula):
+def form_told(dimension, formula):
+    """The form of the set of a formula, the numbers of which may have any size."""
     word = formula[0]
     if word == "is":
         return _form_of_row(dimension, formula[1], formula[2])
     space = inner_dimension(dimension, formula)
     if space == GREATEST_DIMENSION:
         return _form_by_points(dimension, formula)
-    parts = tuple([_form_of(space, part) for part in inner_parts(formula)])
+    parts = tuple([form_told(space, part) for part in inner_parts(formula)])
     if word == "not":
         return rest(parts[0])
     if word == "and":

@@ -196,3 +196,13 @@ def _settled(formula, is_denied):
         return ("back", formula[1], _settled(formula[2], is_denied))
     parts = [_settled(part, is_denied) for part in formula[1:]]
     return (OPPOSITES[word] if is_denied else word,) + tuple(parts)
+
+
+def formula_led(formula, row_of, table_of):
+    """A formula with the rows that a function gives for those of its "is", and the tables for those of its "back"."""
+    word = formula[0]
+    if word == "is":
+        return ("is", formula[1], row_of(formula[2]))
+    if word == "back":
+        return ("back", table_of(formula[1]), formula_led(formula[2], row_of, table_of))
+    return (word,) + tuple([formula_led(part, row_of, table_of) for part in formula[1:]])

@@ -11,7 +11,7 @@ from onesolid.holding import put_through
 from onesolid.needed import cut_at_most, flats_of
 from onesolid.numbers import wrong_place
 from onesolid.points import check_point
-from onesolid.rows import coordinate_row, plane_of, signs_at, slope, weighed
+from onesolid.rows import coordinate_row, plane_of, rows_along, signs_at, slope
 
 LARGEST_SPACE = 3
 
@@ -57,10 +57,7 @@ def _is_met(form, cells, flat):
     directions = flat_directions(dimension, flat)
     if not directions:
         return signs_at(planes, point) in cells
-    # The planes as rows of the numbers by which the directions are multiplied.
-    rows = []
-    for plane in planes:
-        rows.append(tuple([slope(plane, step) * point[-1] for step in directions]) + (weighed(plane, point),))
+    rows = rows_along(planes, point, directions)
     found = {plane_of(row): True for row in rows}
     unlike = tuple([plane for plane in list(found) if plane is not None])
     return lot_by_rows(Grid(len(directions), unlike), rows, cells) != 0

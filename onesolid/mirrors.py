@@ -7,16 +7,16 @@ from onesolid.flats import on_flat
 from onesolid.needed import flats_of
 from onesolid.numbers import shortened
 from onesolid.points import check_point, direction_of, moved_by
-from onesolid.rows import check_plane, slope, weighed
+from onesolid.rows import check_plane, product_of, slope, weighed
 from onesolid.walks import courses_along, first_bit, need_way, ray_bits
 
-GREATEST_DIMENSION = 3
+LONGEST_PLANE = 4
 
 
 def mirrored(plane, point):
     """The point mirrored at a plane."""
     check_point(_dimension_of_plane(plane), point)
-    square = _product(plane[:-1], plane[:-1])
+    square = product_of(plane[:-1], plane[:-1])
     twice = 2 * weighed(plane, point)
     numbers = [number * square - twice * step for number, step in zip(point[:-1], plane[:-1])]
     return shortened(numbers + [point[-1] * square])
@@ -25,22 +25,18 @@ def mirrored(plane, point):
 def mirrored_way(plane, way):
     """The direction of a way mirrored at a plane."""
     need_way(_dimension_of_plane(plane), way)
-    square = _product(plane[:-1], plane[:-1])
+    square = product_of(plane[:-1], plane[:-1])
     twice = 2 * slope(plane, way)
     return direction_of(tuple([square * step - twice * own for step, own in zip(way, plane[:-1])]))
 
 
 def _dimension_of_plane(plane):
     """The dimension of any value, if it is a plane."""
-    if not isinstance(plane, tuple) or not 2 <= len(plane) <= GREATEST_DIMENSION + 1:
+    if not isinstance(plane, tuple) or not 2 <= len(plane) <= LONGEST_PLANE:
         raise NotRow(-1)
     dimension = len(plane) - 1
     check_plane(dimension, plane)
     return dimension
-
-
-def _product(numbers, others):
-    return sum([number * other for number, other in zip(numbers, others)])
 
 
 def bounces(form, point, way, many):

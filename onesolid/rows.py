@@ -64,6 +64,19 @@ def signs_at(planes, point):
     return tuple([sign_at(plane, point) for plane in planes])
 
 
+def product_of(numbers, others):
+    """The sum of the products of some numbers and others, in turn."""
+    return sum([number * other for number, other in zip(numbers, others)])
+
+
+def rows_along(planes, point, directions):
+    """The values of planes at a point moved along directions, as rows of the numbers by which these are multiplied."""
+    rows = []
+    for plane in planes:
+        rows.append(tuple([slope(plane, step) * point[-1] for step in directions]) + (weighed(plane, point),))
+    return rows
+
+
 def slope(row, direction):
     """By how much the value of a row grows along a direction."""
-    return sum([number * step for number, step in zip(row[:-1], direction)])
+    return product_of(row[:-1], direction)

@@ -106,6 +106,12 @@ def has_between(planes, cells, point, other):
     return point != other and first_bit(courses, segment_bits(courses)[1:-1], cells) is not None
 
 
+def has_behind(planes, cells, point, way):
+    """Whether a point of a ray behind its beginning belongs to a set, told by its cells."""
+    courses = courses_along(planes, point, way)
+    return first_bit(courses, ray_bits(courses)[1:], cells) is not None
+
+
 def first_on_ray(planes, cells, point, way):
     """What a ray meets first of a set: ("met", number), ("near", number), None if no point of it is in the set."""
     courses = courses_along(planes, point, way)

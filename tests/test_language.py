@@ -13,10 +13,10 @@ LIBRARY = {"heapq": ("heappush", "heappop", "heapify", "heapreplace", "heappushp
            "collections": ("defaultdict",)}
 BUILTINS = set("""len range enumerate zip min max sum abs sorted reversed int str bool bytes list tuple dict set
     frozenset isinstance ord repr any all divmod pow Exception ValueError TypeError KeyError IndexError LookupError
-    ZeroDivisionError ArithmeticError OverflowError RuntimeError NotImplementedError AttributeError""".split())
+    ZeroDivisionError ArithmeticError OverflowError RuntimeError NotImplementedError AttributeError property""".split())
 METHODS = set("""append clear copy count endswith extend find get index insert isalnum isalpha isdigit islower isspace
     isupper items join keys ljust lower lstrip partition pop remove replace reverse rfind rjust rpartition rsplit rstrip
-    setdefault split splitlines startswith strip update upper values zfill bit_length removeprefix add""".split())
+    setdefault split splitlines startswith strip update upper values zfill bit_length removeprefix""".split())
 BARRED = set("""register mro elements open input law version_info with_traceback add_note attrgetter breakpoint builtins
     compile copyright credits delattr dir eval exec exit gc getattr globals hasattr help id importlib license locals
     methodcaller os quit setattr super type vars sys typing enum iter next map object""".split())
@@ -106,9 +106,10 @@ class Language(unittest.TestCase):
         for name, node in self.each_node():
             if isinstance(node, ast.stmt):
                 self.assertIsInstance(node, STATEMENTS, name)
-            self.assertNotIsInstance(node, (ast.Yield, ast.Await, ast.Set, ast.NamedExpr), name)
+            self.assertNotIsInstance(node, (ast.Yield, ast.Await, ast.Set, ast.NamedExpr, ast.GeneratorExp), name)
             if isinstance(node, ast.FunctionDef):
-                self.assertFalse(node.decorator_list or node.args.kwarg or node.args.vararg, name)
+                self.assertFalse(node.args.kwarg or node.args.vararg, name)
+                self.assertTrue(all(ast.unparse(own) == "property" for own in node.decorator_list), name)
             if isinstance(node, ast.Constant):
                 self.assertNotIsInstance(node.value, (float, complex, bytes), name)
                 self.assertNotIn("%", str(node.value), name)
@@ -140,7 +141,7 @@ class Language(unittest.TestCase):
                     bound = node.arg
                 elif isinstance(node, ast.FunctionDef):
                     bound = node.name
-                if bound not in (None, "__init__"):
+                if bound not in (None, "__init__", "__len__", "__eq__"):
                     with self.subTest(f"{name} {bound}"):
                         self.assertNotIn(bound, taken | BARRED)
                         self.assertFalse(bound.startswith("__") or hasattr(builtins, bound))
