@@ -22,9 +22,10 @@ def ways_from(grid, lot, number):
     while layer:
         following = []
         for own in layer:
-            for other in numbers_in(neighbours_of(grid, own) & left):
+            fresh = neighbours_of(grid, own) & left
+            left &= ~fresh
+            for other in numbers_in(fresh):
                 ahead[other] = own
-                left &= ~(1 << other)
                 following.append(other)
         layer = following
     return ahead

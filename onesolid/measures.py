@@ -68,8 +68,9 @@ def moments(form):
 def _moments_of_simplex(simplex):
     """The volume of a simplex and the integrals over it of the coordinates and of their products."""
     bulk = simplex_volume(simplex)
-    columns = list(zip(*[coordinates_of(corner) for corner in simplex]))
-    many = len(columns) + 1
+    corners = [coordinates_of(corner) for corner in simplex]
+    columns = list(zip(*corners))
+    many = len(corners)
     sums = [total_of(column) for column in columns]
     first = [times(lowest(bulk[0], bulk[1] * many), own) for own in sums]
     share = lowest(bulk[0], bulk[1] * many * (many + 1))

@@ -3,13 +3,15 @@
 from onesolid.canon import in_dict, is_inside, lot_by_rows
 from onesolid.deeds import closed
 from onesolid.errors import Empty, Unlike
-from onesolid.flats import flat_along, flat_directions, flat_meet, flat_of, flat_point
+from onesolid.flats import flat_along, flat_directions, flat_meet, flat_of, flat_point, in_sequence
 from onesolid.grids import Grid, at_places, zero_places
-from onesolid.numbers import in_order, lowest, shortened
+from onesolid.numbers import compared, in_order, lowest, shortened
 from onesolid.papers import is_point
 from onesolid.points import check_point, steps_between
-from onesolid.rows import plane_of, product_of, rows_along, signs_at
+from onesolid.rows import plane_of, product_of, rows_along, signs_at, weighed
 from onesolid.stars import flat_across
+
+NOUGHT = (0, 1)
 
 
 def nearest(form, point):
@@ -27,9 +29,9 @@ def nearest(form, point):
 
 
 def _flats_of_cells(dimension, planes, cells):
-    """The unlike flats of some cells."""
+    """The unlike flats of some cells, points first."""
     lots = {zero_places(signs): True for signs in cells}
-    return list({flat_of(dimension, at_places(planes, places)): True for places in list(lots)})
+    return list(reversed(in_sequence([flat_of(dimension, at_places(planes, places)) for places in list(lots)])))
 
 
 def _foot(dimension, flat, point):
@@ -83,16 +85,56 @@ def _nearest_pair(form, other):
     other_inside = in_dict(other_cells)
     # Some nearest points are those of flats that have no other directions in common than all planes have.
     shared = dimension - len(flat_across(dimension, [plane[:-1] for plane in planes + other_planes]))
-    told = {}
-    for flat in _flats_of_cells(dimension, planes, cells):
-        for other_flat in _flats_of_cells(dimension, other_planes, other_cells):
-            if dimension - len(flat) - len(other_flat) <= shared:
-                point, far, directions = _nearest_on_flats(dimension, flat, other_flat)
-                is_in = signs_at(planes, point) in inside and signs_at(other_planes, far) in other_inside
-                if len(directions) == shared and is_in:
-                    told[(point, far)] = square_between(point, far)
-    least = in_order(list(told.values()))[0]
-    return least, min([pair for pair, square in told.items() if square == least])
+    others = _framed(dimension, _flats_of_cells(dimension, other_planes, other_cells))
+    least = None
+    for frame in _framed(dimension, _flats_of_cells(dimension, planes, cells)):
+        for other_frame in others:
+            if dimension - len(frame[0]) - len(other_frame[0]) > shared or _is_no_nearer(frame, other_frame, least):
+                continue
+            point, far, _ = _nearest_on_flats(dimension, frame[0], other_frame[0])
+            square = square_between(point, far)
+            if least is None or compared(square, least[0]) < 0:
+                if signs_at(planes, point) in inside and signs_at(other_planes, far) in other_inside:
+                    least = (square, (point, far))
+    return least
+
+
+def _framed(dimension, flats):
+    """Triples of each of some flats, a point of it, and its directions."""
+    return [(flat, flat_point(dimension, flat), flat_directions(dimension, flat)) for flat in flats]
+
+
+def _is_no_nearer(frame, other, least):
+    """Whether it is plain that no points of two flats are nearer than a pair, if there is one, behind its square."""
+    if least is None or least[0][0] == 0:
+        return least is not None
+    square = _square_if_point(frame, other)
+    return square is not None and compared(square, least[0]) >= 0
+
+
+def _square_if_point(frame, other):
+    """The squared distance of two flats if one of them is a point, otherwise None."""
+    if frame[2] == ():
+        return _square_from(other, frame[1])
+    return _square_from(frame, other[1]) if other[2] == () else None
+
+
+def _square_from(frame, point):
+    """The squared distance of a point from a flat: the whole space, a plane, a line or a point."""
+    flat, base, directions = frame
+    if len(flat) == 0:
+        return NOUGHT
+    if len(flat) == 1:
+        height = weighed(flat[0], point)
+        return lowest(height * height, product_of(flat[0][:-1], flat[0][:-1]) * point[-1] * point[-1])
+    if directions == ():
+        return square_between(point, base)
+    # What of the way to a point of the line does not lead along it.
+    steps = steps_between(point, base)
+    weight = point[-1] * base[-1]
+    along = product_of(steps, directions[0])
+    length = product_of(directions[0], directions[0])
+    return lowest(product_of(steps, steps) * length - along * along, length * weight * weight)
 
 
 def _nearest_on_flats(dimension, flat, other):
@@ -113,11 +155,13 @@ def _is_met(form, other, square):
     dimension = form[0]
     if square[0] == 0:
         return _are_both_met(form, other, _nearest_on_flats(dimension, (), ()))
-    flats = _flats_of_cells(dimension, form[1], form[2])
-    other_flats = _flats_of_cells(dimension, other[1], other[2])
-    for flat in flats:
-        for other_flat in other_flats:
-            near = _nearest_on_flats(dimension, flat, other_flat)
+    frames = _framed(dimension, _flats_of_cells(dimension, form[1], form[2]))
+    others = _framed(dimension, _flats_of_cells(dimension, other[1], other[2]))
+    for frame in frames:
+        for other_frame in others:
+            if _square_if_point(frame, other_frame) not in (None, square):
+                continue
+            near = _nearest_on_flats(dimension, frame[0], other_frame[0])
             if square_between(near[0], near[1]) == square and _are_both_met(form, other, near):
                 return True
     return False

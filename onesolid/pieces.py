@@ -72,9 +72,7 @@ def _is_triple(value):
 
 def _is_match(value, many, others):
     """Whether a tuple is of all numbers of so many other pieces, each once, as many as there are pieces."""
-    if len(value) != many or many != others or not all([is_whole(place) for place in value]):
-        return False
-    return sorted(value) == list(range(many))
+    return many == others and all([is_whole(place) for place in value]) and sorted(value) == list(range(many))
 
 
 def is_moved(form, other):
@@ -114,7 +112,8 @@ def _cut_often(found, many, wanted):
     cuts = []
     while len(cuts) < wanted:
         # One after the other, so that no piece becomes very small.
-        for number in [number for number, piece in enumerate(found) if len(piece) == many]:
+        numbers = [number for number, piece in enumerate(found) if len(piece) == many]
+        for number in numbers:
             if len(cuts) < wanted:
                 cut = (number, 0, many - 1)
                 _cut_piece(found, cut)
@@ -128,12 +127,12 @@ def _matched(found, others):
     for place, piece in enumerate(others):
         waiting.setdefault(len(piece), []).append(place)
     used = {many: 0 for many in waiting}
-    match = []
+    matched = []
     for piece in found:
         many = len(piece)
-        match.append(waiting[many][used[many]])
+        matched.append(waiting[many][used[many]])
         used[many] += 1
-    return tuple(match)
+    return tuple(matched)
 
 
 def moved_point(form, other, value, point):

@@ -15,7 +15,7 @@ from onesolid.rays import line_stretches
 from onesolid.rows import coordinate_row
 from onesolid.tellings import looks_in, parts_of_entry, worth_of
 
-# How many features a claim with this word is on.
+# How many features a claim with this word is on; "holds" has a point behind these.
 CLAIMS = {"empty": 1, "all": 1, "bounded": 1, "within": 2, "equal": 2, "apart": 2, "holds": 1}
 NOT_LED = ("close", "inner", "rim", "sum", "shrunk", "hull")
 GREATEST_SPACE = 3
@@ -25,12 +25,12 @@ def check_claim(history, claim):
     """The claim, if any value is one on features of a history."""
     if not isinstance(claim, tuple) or len(claim) == 0 or not isinstance(claim[0], str) or claim[0] not in CLAIMS:
         raise NotHistory(())
-    many = CLAIMS[claim[0]]
-    if len(claim) != 1 + many + (claim[0] == "holds"):
+    points = 1 if claim[0] == "holds" else 0
+    if len(claim) != 1 + CLAIMS[claim[0]] + points:
         raise NotHistory(())
-    for name in claim[1:1 + many]:
+    for name in names_in_claim(claim):
         place_of_name(history[2], name)
-    if claim[0] == "holds":
+    if points == 1:
         check_point(history[0], claim[2])
     return claim
 

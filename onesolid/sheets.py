@@ -43,8 +43,9 @@ def _words_of_telling(telling):
         words.extend([integer_text(number) for number in telling[1]])
     elif word == "copies":
         words.append(str(telling[1]))
-    for entry in entries_in(telling) if word in ("moved", "copies") else ():
-        words.extend(entry_words(entry))
+    if word in ("moved", "copies"):
+        for entry in entries_in(telling):
+            words.extend(entry_words(entry))
     return words + list(looks_in(telling))
 
 

@@ -113,8 +113,6 @@ def _without_sums(value):
         if len(value) == 3 and isinstance(row, tuple) and len(row) > 0 and _is_sum(row[-1]):
             return value[:2] + (row[:-1] + (0,),)
         return value
-    if value[0] == "back":
-        return value[:2] + tuple([_without_sums(part) for part in value[2:]])
     return value[:1] + tuple([_without_sums(part) for part in value[1:]])
 
 

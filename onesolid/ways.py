@@ -60,7 +60,8 @@ def _is_way(form, point, other, value):
         return False
     if value[0] != point or value[-1] != other:
         return False
-    return all([is_segment_in(form[1], in_dict(form[2]), near, far) for near, far in zip(value, value[1:])])
+    cells = in_dict(form[2])
+    return all([is_segment_in(form[1], cells, near, far) for near, far in zip(value, value[1:])])
 
 
 def _keeps_apart(grid, lot, number, far, value):

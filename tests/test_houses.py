@@ -181,6 +181,14 @@ class Steps(SolidCase):
         other.set_number("n", 6)
         other.undo()
         self.assertTrue(house == other)
+        # Unlike in the history alone, in the acts alone.
+        other.set_number("m", 3)
+        house.set_number("m", 4)
+        self.assertEqual((house.acts, house.makes), (other.acts, other.makes))
+        self.assertFalse(house == other)
+        house.set_number("m", 3)
+        self.assertEqual((house.history, house.makes), (other.history, other.makes))
+        self.assertFalse(house == other)
 
 
 class Edits(SolidCase):
@@ -244,6 +252,11 @@ class Edits(SolidCase):
         self.same(house.exchange("d"), ())
         self.same(house.feature_less("c"), ())
         self.same(house.feature_less("b"), ())
+        self.same([name for name, _ in house.history[2]], ["a", "d"])
+        for name in ("c", "d"):
+            house = House(LINE)
+            house.feature_less(name)
+            self.same([own for own, _ in house.history[2]], [own for own in "abcd" if own != name])
 
     def test_fresh_names(self):
         house = House(LINE)

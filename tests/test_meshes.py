@@ -13,7 +13,7 @@ from onesolid.holding import point_led
 from onesolid.inout import mesh_of
 from onesolid.meshes import (check_mesh, is_let, led_mesh, let_ray, mesh_corners, mesh_edges, mesh_euler, mesh_volume, met,
                              on_mesh, parity, turned_mesh)
-from onesolid.points import check_direction, moved_by, point_of
+from onesolid.points import check_direction, direction_of, direction_to, moved_by, point_of
 from onesolid.rows import sign_at, slope
 
 A, B, C, D = (0, 0, 1), (4, 0, 1), (4, 4, 1), (0, 4, 1)
@@ -234,6 +234,27 @@ class Rays(SolidCase):
             self.assertEqual(len(met(mesh, point, direction)) % 2, parity(mesh, point))
         else:
             self.refused(NotPaper, met, mesh, point, direction, word="ray")
+
+    def test_rays_in_the_flat_of_a_side(self):
+        random = Random(436)
+        seen = {True: 0, False: 0}
+        for dimension, many in ((2, 60), (3, 150)):
+            for _ in range(many):
+                mesh = some_mesh(random, dimension, 1)
+                mesh = (mesh[0], mesh[0])
+                side = mesh[0]
+                steps = [direction_to(side[0], corner) for corner in side[1:]]
+                point = side[0]
+                for step in steps:
+                    point = moved_by(point, step, (random.randint(-3, 4), random.choice((1, 2))))
+                numbers = [random.randint(-2, 2) for _ in steps]
+                total = tuple(sum(a * step[place] for a, step in zip(numbers, steps)) for place in range(dimension))
+                if any(total):
+                    direction = direction_of(total)
+                    is_on = min(weights_anew(side, point)) >= 0
+                    self.one_ray(mesh, point, direction, is_on)
+                    seen[is_let(mesh, point, direction)] += 1
+        self.assertGreater(min(seen.values()), 40)
 
     def parities(self, mesh, point, is_on):
         if is_on:

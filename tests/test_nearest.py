@@ -151,6 +151,21 @@ class Distance(SolidCase):
         self.same(distance(slant, form_of(3, ("is", "ge", (0, 0, 1, 0)))), ((4, 1), True))
         self.same(distance(slant, form_of(3, ("and", ("is", "gt", (0, 0, 1, 0)), ("is", "lt", (0, 0, 1, -1))))),
                   ((4, 1), False))
+        # A point over a side of a block, beside an edge of it, beyond a corner.
+        block = form_of(3, box(3, 0, 4))
+        for point, square, foot in (((1, 2, 6), 4, (1, 2, 4)), ((3, -3, 1), 9, (3, 0, 1)), ((-1, 3, -2), 5, (0, 3, 0)),
+                                    ((5, 1, 6), 5, (4, 1, 4)), ((5, 6, 7), 14, (4, 4, 4)), ((1, 2, 3), 0, (1, 2, 3))):
+            spot = form_of(3, lone(*point))
+            self.same(distance(block, spot), ((square, 1), True))
+            self.same(distance(spot, block), ((square, 1), True))
+            self.same(distance(inner(block), spot), ((square, 1), square == 0))
+            self.same(distance(spot, inner(block)), ((square, 1), square == 0))
+            self.same(nearest_pair(spot, block), (point + (1,), foot + (1,)))
+        # The nearest places are not met, but others are.
+        more = either(OPEN, form_of(2, ("and", ("is", "eq", (1, 0, 5)), ("is", "ge", (0, 1, 0)), ("is", "le", (0, 1, -1)))))
+        self.same(distance(more, form_of(2, ("is", "ge", (1, 0, -2)))), ((1, 1), False))
+        self.same(distance(form_of(2, ("is", "ge", (1, 0, -2))), more), ((1, 1), False))
+        self.same(distance(SQUARE, inner(far)), ((18, 1), False))
         self.same(distance(points_of_line((1, 5)), points_of_line((2, 9))), ((1, 1), True))
         self.same(distance(form_of(1, ("is", "lt", (2, -1))), form_of(1, ("is", "ge", (3, -4)))), ((25, 36), False))
 
@@ -194,7 +209,7 @@ class Distance(SolidCase):
         for value in NO_TUPLES + ((), pair_of[:1], pair_of + pair_of[:1], list(pair_of), pair_of[::-1],
                                   ((1, 1, 1), (5, 5, 1)), ((2, 2, 2), (4, 4, 1)), ((1, 1, 1), (4, 4, 0)),
                                   ((1, 1, 1), None), ((1, 1), (4, 4, 1)), ((2, 2, 1), (4, 4, 1)), ((1, 1, 1), (3, 3, 1)),
-                                  ((0, 0, 1), (3, 3, 1)), (2, 2), ((1, True, 1), (4, 4, 1)), ((1, 1.0, 1), (4, 4, 1))):
+                                  ((1, 7, 1), (4, 4, 1)), ((1, 1, 1), (4, -2, 1)), ((0, 0, 1), (3, 3, 1)), (2, 2), ((1, True, 1), (4, 4, 1)), ((1, 1.0, 1), (4, 4, 1))):
             self.assertIs(is_nearest_pair(SQUARE, far, value), False)
         for height in (-3, 0, 4):
             self.assertIs(is_nearest_pair(LEFT, RIGHT, ((0, height, 1), (3, height, 1))), True)
@@ -219,6 +234,20 @@ class Distance(SolidCase):
             self.refused(Unlike, call, form, SQUARE)
         self.assertIs(is_nearest_pair(form, block, None), False)
         self.assertIs(is_nearest_pair(form, block, (spot, spot[1:])), False)
+
+    def test_against_lone_points(self):
+        random = Random(417)
+        for dimension, many in ((1, 15), (2, 20), (3, 12)):
+            for form in some_forms(dimension, many, 5, 418):
+                for _ in range(3):
+                    point = tuple(random.randint(-9, 9) for _ in range(dimension))
+                    if form[2]:
+                        try:
+                            square, _, mets = nearest(form, point + (1,))
+                        except TooGreat:
+                            continue
+                        self.same(distance(form, form_of(dimension, lone(*point))), (square, True in mets))
+                        self.same(distance(form_of(dimension, lone(*point)), form), (square, True in mets))
 
     def test_moved_apart(self):
         random = Random(415)

@@ -330,6 +330,10 @@ class Texts(SolidCase):
         self.refused(NotText, read_history, "space 1\n" + many + "\nsolid", line=46, word=1)
         self.refused(NotText, judged, "space 1\n" + many + "\nempty", line=46, word=1)
 
+    def test_entries_stand_in_histories_alone(self):
+        for text, place in (("lt 1 ( 0 a 1 )", 2), ("lt 1 (", 2), ("and 1 eq 1 ( 0 a 1 )", 4), ("( 0 a 1 )", 0)):
+            self.refused(NotText, read_formula, 1, text, line=0, word=place)
+
     def test_formulas_as_read_formula_reads_them(self):
         random = Random(494)
         texts = ["lt 1 0", "not lt 1 0", "some lt 1 0 3", "and 2 lt 1 0 ge 1 5", "every some gt 1 2 3 4", "back 2 1 0 0 1 eq 1 1 5",

@@ -128,6 +128,11 @@ class WayPaper(SolidCase):
             wrong += (right[:number] + right[number + 1:],)
         for value in wrong:
             self.refused(NotPaper, check_way, ALMOST, LOW, HIGH, ("apart", value), word="apart")
+        # A cell beside the part, but not of the set.
+        planes = ALMOST[1]
+        self.same(planes[1::2], ((0, 1, -1), (1, 0, -2), (1, 0, 0)))
+        beside = tuple(-1 for _ in planes)
+        self.refused(NotPaper, check_way, ALMOST, LOW, HIGH, ("apart", tuple(sorted(right + (beside,)))), word="apart")
         # The part of the other point.
         self.refused(NotPaper, check_way, ALMOST, HIGH, LOW, ("apart", right), word="apart")
         self.refused(NotPaper, check_way, ALMOST, LOW, LOW, ("apart", right), word="apart")
