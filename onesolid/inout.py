@@ -92,10 +92,10 @@ def is_rimmed(form):
 def walls(form):
     """The signs of the cells between a cell of the greatest dimension in the set and one that is not, ascending."""
     grid, lot = grid_of(form)
-    return tuple([grid.cells[number] for number, _ in _walls(grid, lot)])
+    return tuple([grid.cells[number] for number, _ in _pairs_beside(grid, lot)])
 
 
-def _walls(grid, lot):
+def _pairs_beside(grid, lot):
     """Pairs of the number of a wall and that of the cell beside it that is in the set."""
     found = []
     for number, signs in enumerate(grid.cells):
@@ -115,7 +115,7 @@ def mesh_of(form):
     if not is_rimmed(form):
         raise NotForm("rim")
     grid, lot = grid_of(form)
-    pairs = _walls(grid, lot)
+    pairs = _pairs_beside(grid, lot)
     simplices = cut_cells(grid, lot_of_numbers([number for number, _ in pairs]))
     points = inner_points(grid, lot)
     sides = []

@@ -94,7 +94,9 @@ def some_histories(dimension, how_many, many, words, seed):
     return [some_history(random, dimension, random.randint(1, many), words) for _ in range(how_many)]
 
 
-WORDS = ("of", "of", "same", "not", "and", "or", "less", "close", "inner", "rim", "sum", "shrunk", "hull", "moved", "copies",
+WORDS = ("of", "of", "same", "not", "and", "or", "less", "close", "inner", "rim", "sum", "shrunk", "hull", "moved",
+         "copies",
          "back", "along", "always")
-QUICK = ("of", "of", "same", "not", "and", "or", "less", "close", "inner", "rim", "moved", "copies", "back", "along", "always")
+QUICK = ("of", "of", "same", "not", "and", "or", "less", "close", "inner", "rim", "moved", "copies", "back", "along",
+         "always")
 LED = ("of", "of", "same", "not", "and", "or", "less", "moved", "copies", "back", "along", "always")

@@ -37,12 +37,15 @@ class Lined(SolidCase):
                 own = next(place for place, step in enumerate(direction) if step != 0)
                 # The second table tells points of one line alike, and of two lines not.
                 self.same(point_led(across, moved_by(point, direction, (7, 3))), point_led(across, point))
-                other = moved_by(point, tuple(int(place == (own + 1) % dimension) for place in range(dimension)), (1, 1))
+                other = moved_by(point, tuple(int(place == (own + 1) % dimension) for place in range(dimension)),
+                                 (1, 1))
                 self.assertNotEqual(point_led(across, other), point_led(across, point))
                 # The first one leads along the line, and there is the line that the second one tells, scaled.
-                one, two = point_led(along, point), point_led(along, moved_by(point, (0,) * (dimension - 1) + (1,), (1, 1)))
+                one, two = point_led(along, point), point_led(along, moved_by(point, (0,) * (dimension - 1) + (1,),
+                                                                              (1, 1)))
                 self.assertEqual([b - a for a, b in zip(numbers_at(one), numbers_at(two))], list(direction))
-                self.assertEqual(numbers_at(point_led(across, one)), [direction[own] * x for x in numbers_at(point)[:-1]])
+                self.assertEqual(numbers_at(point_led(across, one)),
+                                 [direction[own] * x for x in numbers_at(point)[:-1]])
 
     def test_along_and_always(self):
         random = Random(462)

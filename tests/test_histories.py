@@ -42,7 +42,8 @@ class CheckHistory(SolidCase):
             for value in some_histories(dimension, 25, 7, WORDS, 450):
                 self.assertIs(check_history(value), value)
         # A feature and a number with one name; names of 8 letters; names that are words.
-        for value in (history(("a", OPEN), numbers=(("a", 0),)), history(("abcdefgh", OPEN), ("zzzzzzzz", ("same", "abcdefgh"))),
+        for value in (history(("a", OPEN), numbers=(("a", 0),)), history(("abcdefgh", OPEN),
+                                                                         ("zzzzzzzz", ("same", "abcdefgh"))),
                       history(("solid", OPEN), ("not", ("not", "solid")), ("space", ("same", "not")))):
             self.assertIs(check_history(value), value)
 
@@ -103,12 +104,14 @@ class CheckHistory(SolidCase):
         for word in ("less", "sum", "shrunk"):
             self.right((word, "a", "b"))
             self.right((word, "b", "b"))
-            for bent in ((word,), (word, "a"), (word, "a", "b", "a"), (word, "z", "b"), (word, "a", "c"), (word, "a", 1)):
+            for bent in ((word,), (word, "a"), (word, "a", "b", "a"), (word, "z", "b"), (word, "a", "c"),
+                         (word, "a", 1)):
                 self.wrong(bent)
         for word in ("and", "or"):
             self.right((word, "a"))
             self.right((word,) + ("a", "b") * 6)
-            for bent in ((word,), (word,) + ("a",) * 13, (word, "a", "z"), (word, "a", None), (word, ("a", "b")), (word, "c")):
+            for bent in ((word,), (word,) + ("a",) * 13, (word, "a", "z"), (word, "a", None), (word, ("a", "b")),
+                         (word, "c")):
                 self.wrong(bent)
         for value in NO_TUPLES:
             self.wrong(value)
@@ -123,15 +126,18 @@ class CheckHistory(SolidCase):
         self.right(("copies", 1, (entry, 0), "a"))
         self.right(("copies", 60, (0, 0), "a"))
         for bent in (("moved", (1,), "a"), ("moved", (1, 2, 3), "a"), ("moved", (1, 2)), ("moved", 1, "a"),
-                     ("moved", [1, 2], "a"), ("moved", (1, 2), "c"), ("moved", (1, 2), "a", "b"), ("copies", (1, 2), "a"),
+                     ("moved", [1, 2], "a"), ("moved", (1, 2), "c"), ("moved", (1, 2), "a", "b"),
+                     ("copies", (1, 2), "a"),
                      ("copies", 0, (1, 2), "a"), ("copies", 61, (1, 2), "a"), ("copies", True, (1, 2), "a"),
-                     ("copies", 2, (1,), "a"), ("copies", 2, 1, "a"), ("copies", None, (1, 2), "a"), ("copies", 2, (1, 2), 1)):
+                     ("copies", 2, (1,), "a"), ("copies", 2, 1, "a"), ("copies", None, (1, 2), "a"),
+                     ("copies", 2, (1, 2), 1)):
             self.wrong(bent)
         numbers = tuple((letter, 0) for letter in "klmno")
         four = tuple((letter, 1) for letter in "klmn")
         self.right(("moved", (0, (0, four)), "a"), 2, numbers)
         bad = NO_INTEGERS[:1] + NO_INTEGERS[2:] + (
-            10 ** 6 + 1, -10 ** 6 - 1, (), (1,), (1, ()), (1, (("n", 2),), 1), (1, ("n", 2)), (1, [("n", 2)]), (1, (["n", 2],)),
+            10 ** 6 + 1, -10 ** 6 - 1, (), (1,), (1, ()), (1, (("n", 2),), 1), (1, ("n", 2)), (1, [("n", 2)]),
+                                                   (1, (["n", 2],)),
             (None, (("n", 2),)), (True, (("n", 2),)), (10 ** 6 + 1, (("n", 2),)), (1, (("n", 0),)), (1, (("n", True),)),
             (1, (("n", 10 ** 6 + 1),)), (1, (("n",),)), (1, (("n", 2, 3),)), (1, (("N", 2),)), (1, ((1, 2),)),
             (1, (("n", 2), ("n", 3))), (1, (("o", 2), ("n", 3))), (1, four + (("o", 1),)), (1, (("q", 2),)), (1, None),
@@ -144,14 +150,18 @@ class CheckHistory(SolidCase):
 
     def test_tellings_of_formulas(self):
         entry = (1, (("n", 2),))
-        for formula in (("is", "lt", (1, 0, entry)), ("not", ("is", "eq", (1, 0, entry))), ("and",), ("or", ("is", "ne", (0, 0, 10 ** 6))),
-                        ("some", ("is", "lt", (1, 0, 1, entry))), ("every", ("some", ("is", "lt", (1, 0, 1, 1, entry)))),
+        for formula in (("is", "lt", (1, 0, entry)), ("not", ("is", "eq", (1, 0, entry))), ("and",),
+                        ("or", ("is", "ne", (0, 0, 10 ** 6))),
+                        ("some", ("is", "lt", (1, 0, 1, entry))), ("every",
+                                                                   ("some", ("is", "lt", (1, 0, 1, 1, entry)))),
                         ("back", ((1, 0, 0),), ("is", "lt", (1, entry)))):
             self.right(("of", formula))
-        for formula in NO_TUPLES + ((), ("is", "lt", (entry, 0, 0)), ("is", "lt", (1, entry, 0)), ("is", "lt", (1, 0, 0, entry)),
+        for formula in NO_TUPLES + ((), ("is", "lt", (entry, 0, 0)), ("is", "lt", (1, entry, 0)),
+                                    ("is", "lt", (1, 0, 0, entry)),
                                     ("is", "lt", (1, entry)), ("is", "lt", entry), ("is", "xx", (1, 0, entry)), entry,
                                     ("back", ((1, 0, entry),), ("is", "lt", (1, 0))), ("is", "lt", (1, 0, 10 ** 6 + 1)),
-                                    ("is", "lt", [1, 0, entry]), ("is", "lt", (1, 0, [1, (("n", 2),)])), ("is", "lt", (entry,)),
+                                    ("is", "lt", [1, 0, entry]), ("is", "lt", (1, 0, [1, (("n", 2),)])),
+                                    ("is", "lt", (entry,)),
                                     ("not", ("is", "lt", (1, 0, entry)), 1), ("some", ("some", ("some", ("and",)))),
                                     ("is", (1, 0, entry)), ("is", "lt", (1, 0, entry), 1)):
             self.wrong(("of", formula))
@@ -167,7 +177,8 @@ class CheckHistory(SolidCase):
 
     def test_tellings_of_tables_and_directions(self):
         self.right(("back", ((1, 0, 10 ** 6), (0, 0, 0)), "a"))
-        for table in (None, (), ((1, 0, 0),), ((1, 0, 0),) * 3, ((1, 0), (0, 1)), ((1, 0, 0), (0, 1, True)), ((1, 0, 0), [0, 1, 0]),
+        for table in (None, (), ((1, 0, 0),), ((1, 0, 0),) * 3, ((1, 0), (0, 1)), ((1, 0, 0), (0, 1, True)),
+                      ((1, 0, 0), [0, 1, 0]),
                       ((1, 0, 0), (0, 1, 10 ** 6 + 1)), ((1, 0, 0), (0, 1, (1, (("n", 2),)))), [(1, 0, 0), (0, 1, 0)]):
             self.wrong(("back", table, "a"))
         self.wrong(("back", ((1, 0, 0), (0, 1, 0)), "c"))
@@ -261,7 +272,8 @@ class Outcomes(SolidCase):
         forms = dict(zip(NAMES, build(history=PLANE)))
         self.assertEqual({outcome[0] for outcome in forms.values()}, {"form"})
         forms = {name: outcome[1] for name, outcome in forms.items()}
-        square = form_of(2, ("and", ("is", "ge", (1, 0, 0)), ("is", "le", (1, 0, -3)), ("is", "ge", (0, 1, 0)), ("is", "le", (0, 1, -2))))
+        square = form_of(2, ("and", ("is", "ge", (1, 0, 0)), ("is", "le", (1, 0, -3)), ("is", "ge", (0, 1, 0)),
+                             ("is", "le", (0, 1, -2))))
         half = form_of(2, ("is", "ge", (1, 1, -2)))
         first, second = lined(2, (1, 2))
         wanted = {
@@ -269,7 +281,8 @@ class Outcomes(SolidCase):
             "less": less(square, half), "far": shifted(square, (10, 6, 1)),
             "row": any_of(2, (square, shifted(square, (4, 0, 1)), shifted(square, (8, 0, 1)))),
             "turned": drawn_back(square, ((0, 1, 0), (-1, 0, 2))), "edge": rim(square), "core": inner(square),
-            "shell": closed(less(square, half)), "sum": sum_of(rim(square), rim(square)), "thin": shrunk(square, rim(square)),
+            "shell": closed(less(square, half)), "sum": sum_of(rim(square), rim(square)),
+                  "thin": shrunk(square, rim(square)),
             "beam": drawn_back(scaled(shadow(drawn_back(square, first)), (1, 1)), second),
             "whole": EMPTY[2],
         }
@@ -309,7 +322,8 @@ class Outcomes(SolidCase):
         if word == "moved":
             return in_form(looks[0], [x - step for x, step in zip(here, telling[1])])
         if word == "copies":
-            return any(in_form(looks[0], [x - turn * step for x, step in zip(here, telling[2])]) for turn in range(telling[1]))
+            return any(in_form(looks[0], [x - turn * step for x,
+                                          step in zip(here, telling[2])]) for turn in range(telling[1]))
         if word == "back":
             return in_form(looks[0], [sum(a * x for a, x in zip(row, here)) + row[-1] for row in telling[1]])
         if word in ("along", "always"):
@@ -319,24 +333,29 @@ class Outcomes(SolidCase):
 
     def test_too_great(self):
         dots = ("of", ("or",) + tuple(("is", "eq", (1, -k)) for k in range(31)))
-        value = history(("a", dots), ("b", ("moved", (100,), "a")), ("c", ("or", "b", "a")), ("d", ("not", "c")), ("e", ("same", "a")),
+        value = history(("a", dots), ("b", ("moved", (100,), "a")), ("c", ("or", "b", "a")), ("d", ("not", "c")),
+                        ("e", ("same", "a")),
                         ("f", ("and", "e", "d")), ("g", ("copies", 2, (200,), "a")), ("h", ("copies", 60, (0,), "a")))
         outcomes = build(value)
-        self.assertEqual([outcome[0] for outcome in outcomes], ["form", "form", "great", "great", "form", "great", "great", "form"])
+        self.assertEqual([outcome[0] for outcome in outcomes], ["form", "form", "great", "great", "form", "great",
+                                                                "great", "form"])
         for outcome in (outcomes[2], outcomes[3], outcomes[5], outcomes[6]):
             self.same(outcome, ("great", 60))
         for name in "cdfg":
             self.refused(TooGreat, set_of, value, name, most=60)
         self.same(set_of(value, "h"), set_of(value, "a"))
         # Of several that are too great the first one in the telling.
-        wide = ("of", ("some", ("some", ("some", ("and",) + tuple(("is", "lt", (k, 1, k * k, -1, k ** 3)) for k in range(30))))))
-        value = history(("a", dots), ("b", ("copies", 2, (99,), "a")), ("c", wide), ("d", ("and", "c", "b")), ("e", ("and", "b", "c")))
+        wide = ("of", ("some", ("some", ("some", ("and",) + tuple(("is", "lt",
+                                                                   (k, 1, k * k, -1, k ** 3)) for k in range(30))))))
+        value = history(("a", dots), ("b", ("copies", 2, (99,), "a")), ("c", wide), ("d", ("and", "c", "b")),
+                        ("e", ("and", "b", "c")))
         self.same(build(value)[1:], (("great", 60), ("great", 200), ("great", 200), ("great", 60)))
         self.refused(TooGreat, set_of, value, "c", most=200)
         self.refused(TooGreat, set_of, value, "d", most=200)
 
     def test_integers_of_any_size(self):
-        value = history(("a", ("of", ("is", "lt", (1, (10 ** 6, (("n", -10 ** 6),)))))), ("b", ("moved", ((0, (("n", 10 ** 6),)),), "a")),
+        value = history(("a", ("of", ("is", "lt", (1, (10 ** 6, (("n", -10 ** 6),)))))),
+                        ("b", ("moved", ((0, (("n", 10 ** 6),)),), "a")),
                         numbers=(("n", 10 ** 6),))
         check_history(value)
         self.same(set_of(value, "a"), (1, ((1, 10 ** 6 - 10 ** 12),), ((-1,),)))
@@ -344,25 +363,30 @@ class Outcomes(SolidCase):
         self.refused(NotFormula, form_of, 1, telling_with(value, "a")[1], path=(2, 1))
 
     def test_in_the_line(self):
-        for form, along, always in ((("or",), False, False), (("and",), True, True), (lone(3), True, False), (box(1), True, False)):
+        for form, along, always in ((("or",), False, False), (("and",), True, True), (lone(3), True, False),
+                                    (box(1), True, False)):
             value = history(("a", ("of", form)), ("b", ("along", (-1,), "a")), ("c", ("always", (1,), "a")))
             self.same(set_of(value, "b"), (1, (), ((),) if along else ()))
             self.same(set_of(value, "c"), (1, (), ((),) if always else ()))
 
     def test_full_shadows(self):
-        value = (2, (), (("a", ("of", ("is", "ge", (2, -1, 0)))), ("b", ("always", (1, 2), "a")), ("c", ("always", (1, 1), "a"))))
+        value = (2, (), (("a", ("of", ("is", "ge", (2, -1, 0)))), ("b", ("always", (1, 2), "a")),
+                         ("c", ("always", (1, 1), "a"))))
         self.same(set_of(value, "b"), set_of(value, "a"))
         self.same(set_of(value, "c"), EMPTY[2])
         first, second = lined(2, (1, 2))
-        self.same(drawn_back(scaled(full_shadow(drawn_back(set_of(value, "a"), first)), (1, 1)), second), set_of(value, "b"))
+        self.same(drawn_back(scaled(full_shadow(drawn_back(set_of(value, "a"), first)), (1, 1)), second),
+                  set_of(value, "b"))
 
 
 class Changes(SolidCase):
 
     def test_swept(self):
-        value = history(("d", OPEN), ("c", OPEN), ("x", ("same", "d")), ("b", ("and", "c", "d")), ("a", ("less", "x", "b")),
+        value = history(("d", OPEN), ("c", OPEN), ("x", ("same", "d")), ("b", ("and", "c", "d")),
+                        ("a", ("less", "x", "b")),
                         ("e", ("not", "a")), numbers=(("m", 1), ("n", 2)))
-        self.same(swept(history=value, name="e"), (1, (), (("c", OPEN), ("d", OPEN), ("b", ("and", "c", "d")), ("x", ("same", "d")),
+        self.same(swept(history=value, name="e"), (1, (), (("c", OPEN), ("d", OPEN), ("b", ("and", "c", "d")),
+                                                           ("x", ("same", "d")),
                                                            ("a", ("less", "x", "b")), ("e", ("not", "a")))))
         self.same(swept(value, "x"), (1, (), (("d", OPEN), ("x", ("same", "d")))))
         self.same(swept(PLANE, "half"), (2, (("b", 0),), PLANE[2][1:2]))
@@ -377,16 +401,19 @@ class Changes(SolidCase):
         self.refused(NotName, exchanged, value, "d", name="d")
 
     def test_renamed(self):
-        value = history(("a", OPEN), ("b", ("less", "a", "a")), ("c", ("moved", ((0, (("a", 1),)),), "a")), numbers=(("a", 4),))
+        value = history(("a", OPEN), ("b", ("less", "a", "a")), ("c", ("moved", ((0, (("a", 1),)),), "a")),
+                        numbers=(("a", 4),))
         self.same(renamed(history=value, name="a", fresh="z"),
-                  history(("z", OPEN), ("b", ("less", "z", "z")), ("c", ("moved", ((0, (("a", 1),)),), "z")), numbers=(("a", 4),)))
+                  history(("z", OPEN), ("b", ("less", "z", "z")), ("c", ("moved", ((0, (("a", 1),)),), "z")),
+                          numbers=(("a", 4),)))
         self.same(renamed(value, "c", "less"), history(*value[2][:2], ("less", value[2][2][1]), numbers=(("a", 4),)))
         for fresh in NO_NAMES + ("a", "b", "c", 5, ("z",)):
             self.refused(NotName, renamed, value, "b", fresh, name=fresh)
         self.refused(NotName, renamed, value, "q", "b", name="q")
         self.same(check_history(renamed(value, "b", "abcdefgh"))[2][1][0], "abcdefgh")
         # A feature whose name is the word of its users' tellings.
-        self.same(renamed(history(("not", OPEN), ("b", ("not", "not"))), "not", "x"), history(("x", OPEN), ("b", ("not", "x"))))
+        self.same(renamed(history(("not", OPEN), ("b", ("not", "not"))), "not", "x"),
+                  history(("x", OPEN), ("b", ("not", "x"))))
 
     def test_facts(self):
         for dimension, many in ((1, 25), (2, 10)):

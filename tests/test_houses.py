@@ -93,7 +93,8 @@ class Making(SolidCase):
 
     def test_defined_in_the_class_itself(self):
         wanted = {"set_number": ["name", "integer"], "number_more": ["name", "integer"], "number_less": ["name"],
-                  "put_telling": ["name", "telling"], "feature_more": ["name", "telling", "at"], "feature_less": ["name"],
+                  "put_telling": ["name", "telling"], "feature_more": ["name", "telling", "at"],
+                  "feature_less": ["name"],
                   "exchange": ["name"], "rename": ["name", "fresh"], "undo": [], "redo": [], "copy": [],
                   "outcome": ["name"], "form": ["name"], "__len__": [], "__init__": ["history"]}
         for name, parameters in wanted.items():
@@ -148,10 +149,12 @@ class Steps(SolidCase):
         twin = house.copy()
         self.assertIsInstance(twin, House)
         self.assertTrue(twin == house)
-        self.same((twin.history, twin.made, twin.makes, twin.acts), (house.history, house.made, house.makes, house.acts))
+        self.same((twin.history, twin.made, twin.makes, twin.acts), (house.history, house.made, house.makes,
+                                                                     house.acts))
         self.same(twin.set_number("n", 8), ("a", "b", "c"))
         self.assertFalse(twin == house)
-        self.same((house.history, house.makes, house.acts), (twin.history[:1] + (LINE[1][:1] + (("n", 6),),) + LINE[2:], 6, 1))
+        self.same((house.history, house.makes, house.acts), (twin.history[:1] + (LINE[1][:1] + (("n", 6),),
+                                                                                 ) + LINE[2:], 6, 1))
         self.same(house.set_number("n", 7), ("a", "b", "c"))
         self.same(twin.outcome("a"), ("form", (1, ((1, -8),), ((0,), (1,)))))
         self.same(house.outcome("a"), ("form", (1, ((1, -7),), ((0,), (1,)))))
@@ -201,7 +204,8 @@ class Edits(SolidCase):
     def test_names_come_first(self):
         house = House(PLANE)
         for name in NO_NAMES + ("zz", 3, ("a",)):
-            for call in (lambda own: house.set_number(own, None), house.number_less, lambda own: house.put_telling(own, None),
+            for call in (lambda own: house.set_number(own, None), house.number_less,
+                         lambda own: house.put_telling(own, None),
                          house.feature_less, house.exchange, lambda own: house.rename(own, None)):
                 self.unchanged(house, NotName, call, name, name=name)
         # A number's name is none of a feature, and the other way round.
@@ -237,7 +241,8 @@ class Edits(SolidCase):
             house.feature_more("q", OPEN, at=at)
             self.same("".join(name for name, _ in house.history[2]), wanted)
             house.undo()
-        self.unchanged(house, NotHistory, lambda telling: house.feature_more("q", telling, at=1), ("not", "b"), place=(2, 1))
+        self.unchanged(house, NotHistory, lambda telling: house.feature_more("q", telling, at=1), ("not", "b"),
+                       place=(2, 1))
         self.unchanged(house, NotHistory, house.feature_more, "q", ("not", "q"), place=(2, 4))
         self.unchanged(house, NotHistory, house.feature_more, "q", None, place=(2, 4))
 
@@ -286,7 +291,8 @@ class Edits(SolidCase):
 
     def test_tellings(self):
         house = House(LINE)
-        for telling in NO_TUPLES + (("not", "c"), ("not", "b"), ("not", "d"), ("of", ("is", "lt", (1, (0, (("z", 1),))))), ("not",)):
+        for telling in NO_TUPLES + (("not", "c"), ("not", "b"), ("not", "d"),
+                                    ("of", ("is", "lt", (1, (0, (("z", 1),))))), ("not",)):
             self.unchanged(house, NotHistory, house.put_telling, "b", telling, place=(2, 1))
         self.same(house.put_telling("b", ("moved", ((0, (("m", 3),)),), "a")), ("b", "c"))
         self.same(house.history[2][1], ("b", ("moved", ((0, (("m", 3),)),), "a")))
@@ -302,7 +308,8 @@ class Edits(SolidCase):
                 behind, ahead = [], []
                 for _ in range(12):
                     before = house.history
-                    word = random.choice(("number", "number", "more", "less", "put", "turn", "name", "undo", "redo", "copy"))
+                    word = random.choice(("number", "number", "more", "less", "put", "turn", "name", "undo", "redo",
+                                          "copy"))
                     try:
                         made = self.act(random, house, word)
                     except SolidError:

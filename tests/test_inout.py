@@ -44,9 +44,12 @@ class SolidOf(SolidCase):
         self.same(solid_of(2, SQUARE + SQUARE), EMPTY[2])
         self.same(solid_of(2, SQUARE + SQUARE + SQUARE), square)
         # Crossing sides: what is left and what is right of the crossing.
-        self.same(solid_of(2, BOW), form_of(2, ("and", box(2, 0, 4), ("or", ("and", ("is", "le", (1, -1, 0)), ("is", "le", (1, 1, -4))),
-                                                                     ("and", ("is", "ge", (1, -1, 0)), ("is", "ge", (1, 1, -4)))))))
-        self.same(solid_of(1, DOTS), form_of(1, ("or", box(1, 1, 3), ("and", ("is", "ge", (2, -9)), ("is", "le", (1, -7))))))
+        self.same(solid_of(2, BOW), form_of(2, ("and", box(2, 0, 4), ("or", ("and", ("is", "le", (1, -1, 0)),
+                                                                             ("is", "le", (1, 1, -4))),
+                                                                     ("and", ("is", "ge", (1, -1, 0)),
+                                                                      ("is", "ge", (1, 1, -4)))))))
+        self.same(solid_of(1, DOTS), form_of(1, ("or", box(1, 1, 3), ("and", ("is", "ge", (2, -9)),
+                                                                      ("is", "le", (1, -7))))))
         self.same(solid_of(1, DOTS[:1] * 2), EMPTY[1])
         pyramid = form_of(3, ("and", ("is", "ge", (1, 0, 0, 0)), ("is", "ge", (0, 1, 0, 0)), ("is", "ge", (0, 0, 1, 0)),
                               ("is", "le", (1, 1, 1, -4))))
@@ -104,8 +107,10 @@ class Walls(SolidCase):
             for form in (EMPTY[dimension], whole, either(whole, form_of(dimension, box(dimension, 2, 5)))):
                 self.assertIs(is_rimmed(form=form), True)
             for form in (ALL[dimension], inner(whole), rest(whole), rest(inner(whole)), rim(whole),
-                         form_of(dimension, lone(*[0] * dimension)), either(whole, form_of(dimension, lone(*[7] * dimension))),
-                         form_of(dimension, box(dimension, 0, 1, ("ge", "lt"))), form_of(dimension, ("is", "ge", (1,) * dimension + (0,)))):
+                         form_of(dimension, lone(*[0] * dimension)), either(whole,
+                                                                            form_of(dimension, lone(*[7] * dimension))),
+                         form_of(dimension, box(dimension, 0, 1, ("ge", "lt"))),
+                         form_of(dimension, ("is", "ge", (1,) * dimension + (0,)))):
                 self.assertIs(is_rimmed(form), False)
         for form in (RING, HOLLOW):
             self.assertIs(is_rimmed(form), True)
@@ -226,7 +231,8 @@ class MeshOf(SolidCase):
     def test_refusals(self):
         for dimension in DIMENSIONS:
             whole = form_of(dimension, box(dimension))
-            for form in (ALL[dimension], rest(whole), rest(inner(whole)), form_of(dimension, ("is", "gt", (1,) * dimension + (0,)))):
+            for form in (ALL[dimension], rest(whole), rest(inner(whole)),
+                         form_of(dimension, ("is", "gt", (1,) * dimension + (0,)))):
                 self.refused(Endless, mesh_of, form)
             for form in (inner(whole), rim(whole), form_of(dimension, lone(*[0] * dimension)),
                          either(whole, form_of(dimension, lone(*[7] * dimension))),

@@ -20,7 +20,8 @@ DIMENSIONS = (1, 2, 3)
 SQUARE = form_of(2, box(2))
 RING = less(form_of(2, box(2, 0, 3)), form_of(2, box(2, 1, 2, ("gt", "lt"))))
 # An L: two stripes.
-CORNER = form_of(2, ("or", ("and", box(2, 0, 3), ("is", "le", (1, 0, -1))), ("and", box(2, 0, 3), ("is", "le", (0, 1, -1)))))
+CORNER = form_of(2, ("or", ("and", box(2, 0, 3), ("is", "le", (1, 0, -1))),
+                     ("and", box(2, 0, 3), ("is", "le", (0, 1, -1)))))
 # A square with a slit from its middle to the right, and the plane without a ray.
 SLIT = less(form_of(2, box(2, -1, 1)), form_of(2, ("and", ("is", "eq", (0, 1, 0)), ("is", "gt", (1, 0, 0)))))
 RAYLESS = rest(form_of(2, ("and", ("is", "eq", (0, 1, 0)), ("is", "gt", (1, 0, 0)))))
@@ -45,7 +46,8 @@ class Kernel(SolidCase):
     def test_worked_by_hand(self):
         for dimension in DIMENSIONS:
             for form in (EMPTY[dimension], ALL[dimension], form_of(dimension, box(dimension)),
-                         form_of(dimension, box(dimension, 0, 1, ("ge", "lt"))), form_of(dimension, lone(*range(dimension)))):
+                         form_of(dimension, box(dimension, 0, 1, ("ge", "lt"))),
+                         form_of(dimension, lone(*range(dimension)))):
                 self.same(kernel(form=form), form)
                 self.same(star_cells(form=form), form[2])
             self.same(kernel(rest(form_of(dimension, lone(*range(dimension))))), EMPTY[dimension])
@@ -136,8 +138,10 @@ class Papers(SolidCase):
             self.refused(NotPoint, call, ALL[1], (0, 0, 1), place=-1)
 
     def test_form(self):
-        for value in NO_TUPLES + ((), ("out", 1), ("barred",), ("barred", (0, 3, 1)), ("barred", (0, 3, 1), (3, 3, 2), 1),
-                                  ("kernel",), ("Out",), (None,), ("barred", (0, 3), (3, 3, 2)), ("barred", (0, 3, 1), None),
+        for value in NO_TUPLES + ((), ("out", 1), ("barred",), ("barred", (0, 3, 1)),
+                                  ("barred", (0, 3, 1), (3, 3, 2), 1),
+                                  ("kernel",), ("Out",), (None,), ("barred", (0, 3), (3, 3, 2)),
+                                  ("barred", (0, 3, 1), None),
                                   ("barred", [0, 3, 1], (3, 3, 2)), ("barred", (0, 3, 1), (3, 3, 0)),
                                   ("barred", (0, 6, 2), (3, 3, 2)), ("out", (0, 3, 1), (3, 3, 2)), (("out",),)):
             if value is not None:
@@ -151,7 +155,8 @@ class Papers(SolidCase):
             self.refused(NotPaper, check_star, CORNER, point, ("out",), word="out")
         wrong = (
             # Between them, but in the set; not in the set, but not between; at the ends.
-            ((3, 0, 1), (0, 0, 1), (1, 0, 1)), ((3, 0, 1), (0, 3, 1), (4, 4, 2)[:2] + (1,)), ((3, 0, 1), (0, 3, 1), (9, -6, 1)),
+            ((3, 0, 1), (0, 0, 1), (1, 0, 1)), ((3, 0, 1), (0, 3, 1), (4, 4, 2)[:2] + (1,)),
+                 ((3, 0, 1), (0, 3, 1), (9, -6, 1)),
             ((3, 0, 1), (0, 3, 1), (-1, 4, 1)), ((3, 0, 1), (0, 3, 1), (0, 3, 1)), ((3, 0, 1), (0, 3, 1), (3, 0, 1)),
             ((3, 0, 1), (3, 0, 1), (3, 0, 1)), ((3, 0, 1), (3, 0, 1), (2, 2, 1)), ((3, 0, 1), (0, 3, 1), (2, 2, 1)),
             # The other point, the point itself not in the set.

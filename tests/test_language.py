@@ -20,6 +20,10 @@ METHODS = set("""append clear copy count endswith extend find get index insert i
 BARRED = set("""register mro elements open input law version_info with_traceback add_note attrgetter breakpoint builtins
     compile copyright credits delattr dir eval exec exit gc getattr globals hasattr help id importlib license locals
     methodcaller os quit setattr super type vars sys typing enum iter next map object""".split())
+BEGINNINGS = ("_wall", "_pe_", "_dcw_", "_enum_", "_cm_", "_twin_re_", "_lay_", "_law_", "_stub_", "_sre", "_WallAttr",
+              "_cold", "_tuplegetter", "_outside", "_record", "_written_out", "_member_names")
+WORDS = ("type", "typing", "typing_extensions", "enum", "Enum", "IntEnum", "StrEnum", "Flag", "IntFlag", "Generic",
+         "Protocol", "ABC", "ABCMeta", "namedtuple", "NamedTuple", "TypedDict", "TYPE_CHECKING", "abstractmethod")
 STATEMENTS = (ast.FunctionDef, ast.ClassDef, ast.ImportFrom, ast.Expr, ast.Assign, ast.AugAssign, ast.If, ast.While,
               ast.For, ast.Return, ast.Break, ast.Continue, ast.Pass, ast.Raise, ast.Assert, ast.Delete, ast.Try)
 LITERALS = (ast.Constant, ast.Tuple, ast.Dict, ast.List, ast.UnaryOp, ast.BinOp)
@@ -101,6 +105,49 @@ class Language(unittest.TestCase):
         for name, text in texts():
             for node in ast.walk(ast.parse(text)):
                 yield name, node
+
+    def test_words(self):
+        for name, text in texts():
+            for word in ("_wall", "_WallAttr", "dataclass", "overload", "contextmanager"):
+                self.assertNotIn(word, text, name)
+            for node in ast.walk(ast.parse(text)):
+                words = [getattr(node, field, None) for field in ("id", "attr", "arg", "name")]
+                for word in words:
+                    if isinstance(word, str):
+                        self.assertFalse(word.startswith(BEGINNINGS) or word in WORDS, (name, word))
+                if isinstance(node, ast.Constant) and isinstance(node.value, str) and len(node.value) < 40:
+                    self.assertNotIn(node.value, WORDS, name)
+                    self.assertFalse(node.value.endswith(("._", ".__")), name)
+
+    def test_stars_and_stored_calls(self):
+        """Behind a star stand names; what is iterated at once is not handed on but to what iterates it."""
+        takers = ("list", "tuple", "dict", "sorted", "sum", "any", "all", "enumerate", "zip", "min", "max",
+                  "combinations")
+        for name, text in texts():
+            tree = ast.parse(text)
+            above = {child: node for node in ast.walk(tree) for child in ast.iter_child_nodes(node)}
+            for node in ast.walk(tree):
+                if isinstance(node, ast.Starred):
+                    self.assertIsInstance(node.value, ast.Name, name)
+                if isinstance(node, ast.Call) and (getattr(node.func, "attr", "") in ("items", "keys", "values")
+                                                   or getattr(node.func, "id", "") in ("zip", "enumerate", "reversed")):
+                    over = above[node]
+                    is_taken = isinstance(over, ast.Call) and getattr(over.func, "id", "") in takers
+                    is_kept = isinstance(over, ast.Assign) and isinstance(over.targets[0], ast.Name)
+                    is_gone_over = isinstance(over, (ast.For, ast.comprehension))
+                    self.assertTrue(is_taken or is_kept or is_gone_over, (name, node.lineno))
+
+    def test_loops_do_not_change_what_they_go_over(self):
+        changing = ("append", "extend", "pop", "remove", "insert", "clear", "update", "setdefault", "reverse")
+        for name, node in self.each_node():
+            if isinstance(node, ast.For):
+                over = {own.id for own in ast.walk(node.iter) if isinstance(own, ast.Name)}
+                copied = isinstance(node.iter, ast.Call) and getattr(node.iter.func, "id", "") == "list"
+                for own in [inner for row in node.body for inner in ast.walk(row)]:
+                    if isinstance(own, ast.Call) and getattr(own.func, "attr", "") in changing and not copied:
+                        self.assertNotIn(getattr(own.func.value, "id", ""), over, (name, node.lineno))
+                    if isinstance(own, ast.AugAssign) and isinstance(own.target, ast.Name):
+                        self.assertNotIn(own.target.id, over, (name, node.lineno))
 
     def test_statements(self):
         for name, node in self.each_node():

@@ -105,7 +105,8 @@ class Volume(SolidCase):
                 self.assertEqual(told(volume(shared)) + told(volume(union)), told(volume(form)) + told(volume(other)))
 
     def test_led_by_a_table(self):
-        tables = {1: (((-3, 5),), 3), 2: (((2, 1, 0), (1, -2, 7)), 5), 3: (((1, 1, 0, 0), (0, 2, 0, 1), (1, 0, 1, 3)), 2)}
+        tables = {1: (((-3, 5),), 3), 2: (((2, 1, 0), (1, -2, 7)), 5),
+                  3: (((1, 1, 0, 0), (0, 2, 0, 1), (1, 0, 1, 3)), 2)}
         for dimension, many in ((1, 15), (2, 10), (3, 4)):
             table, scale = tables[dimension]
             for form in bounded_forms(dimension, many, 312):

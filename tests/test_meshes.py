@@ -11,7 +11,8 @@ from onesolid.errors import Flat, NotMesh, NotPaper, Unlike
 from onesolid.flats import flat_through
 from onesolid.holding import point_led
 from onesolid.inout import mesh_of
-from onesolid.meshes import (check_mesh, is_let, led_mesh, let_ray, mesh_corners, mesh_edges, mesh_euler, mesh_volume, met,
+from onesolid.meshes import (check_mesh, is_let, led_mesh, let_ray, mesh_corners, mesh_edges, mesh_euler, mesh_volume,
+                             met,
                              on_mesh, parity, turned_mesh)
 from onesolid.points import check_direction, direction_of, direction_to, moved_by, point_of
 from onesolid.rows import sign_at, slope
@@ -38,7 +39,7 @@ def some_mesh(random, dimension, many):
 
 
 def weights_anew(side, point):
-    """Weights, adding up to 1, with which the corners of a side add up to a point, by Cramer's rule; None off its flat."""
+    """Weights, adding up to 1, with which a side's corners add up to a point, by Cramer's rule; None off its flat."""
     columns = [numbers_at(corner) + [Fraction(1)] for corner in side]
     wanted = numbers_at(point) + [Fraction(1)]
     many = len(side)
@@ -49,7 +50,8 @@ def weights_anew(side, point):
             for own in range(many):
                 rows = [wanted if number == own else column for number, column in enumerate(columns)]
                 found.append(determinant([[row[place] for place in places] for row in rows]) / total)
-            back = [sum(weight * column[place] for weight, column in zip(found, columns)) for place in range(len(wanted))]
+            back = [sum(weight * column[place] for weight, column in zip(found,
+                                                                         columns)) for place in range(len(wanted))]
             return found if back == wanted else None
     raise AssertionError
 
@@ -89,9 +91,11 @@ def meets_anew(side, point, direction):
 class CheckMesh(SolidCase):
 
     def test_right_ones(self):
-        for dimension, mesh in ((1, ()), (2, ()), (3, ()), (1, DOTS), (2, SQUARE), (2, BOW), (3, PYRAMID), (1, DOTS + DOTS),
+        for dimension, mesh in ((1, ()), (2, ()), (3, ()), (1, DOTS), (2, SQUARE), (2, BOW), (3, PYRAMID),
+                                (1, DOTS + DOTS),
                                 (2, SQUARE + SQUARE), (2, ((A, B), (B, A))), (2, ((A, B), (A, B))), (3, PYRAMID[::-1]),
-                                (3, (PYRAMID[0],) * 2), (1, DOTS[:1] * 2), (2, SQUARE + BOW), (3, turned_mesh(PYRAMID))):
+                                (3, (PYRAMID[0],) * 2), (1, DOTS[:1] * 2), (2, SQUARE + BOW),
+                                (3, turned_mesh(PYRAMID))):
             self.assertIs(check_mesh(dimension=dimension, value=mesh), mesh)
         random = Random(430)
         for dimension in (1, 2, 3):

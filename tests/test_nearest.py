@@ -146,7 +146,8 @@ class Distance(SolidCase):
         two = form_of(3, ("and", ("is", "eq", (1, 0, 0, 0)), ("is", "eq", (0, 0, 1, -5))))
         self.same(distance(one, two), ((25, 1), True))
         self.same(nearest_pair(one, two), ((0, 0, 0, 1), (0, 0, 5, 1)))
-        self.same(distance(form_of(3, ("is", "eq", (1, 1, 1, 0))), form_of(3, ("is", "gt", (1, 1, 1, -6)))), ((12, 1), False))
+        self.same(distance(form_of(3, ("is", "eq", (1, 1, 1, 0))), form_of(3, ("is", "gt", (1, 1, 1, -6)))),
+                  ((12, 1), False))
         slant = form_of(3, ("and", ("is", "eq", (1, -1, 0, 0)), ("is", "eq", (0, 0, 1, 2))))
         self.same(distance(slant, form_of(3, ("is", "ge", (0, 0, 1, 0)))), ((4, 1), True))
         self.same(distance(slant, form_of(3, ("and", ("is", "gt", (0, 0, 1, 0)), ("is", "lt", (0, 0, 1, -1))))),
@@ -162,7 +163,8 @@ class Distance(SolidCase):
             self.same(distance(spot, inner(block)), ((square, 1), square == 0))
             self.same(nearest_pair(spot, block), (point + (1,), foot + (1,)))
         # The nearest places are not met, but others are.
-        more = either(OPEN, form_of(2, ("and", ("is", "eq", (1, 0, 5)), ("is", "ge", (0, 1, 0)), ("is", "le", (0, 1, -1)))))
+        more = either(OPEN, form_of(2, ("and", ("is", "eq", (1, 0, 5)), ("is", "ge", (0, 1, 0)),
+                                        ("is", "le", (0, 1, -1)))))
         self.same(distance(more, form_of(2, ("is", "ge", (1, 0, -2)))), ((1, 1), False))
         self.same(distance(form_of(2, ("is", "ge", (1, 0, -2))), more), ((1, 1), False))
         self.same(distance(SQUARE, inner(far)), ((18, 1), False))
@@ -172,7 +174,8 @@ class Distance(SolidCase):
     def test_against_points_tried(self):
         random = Random(412)
         for dimension, many in ((1, 30), (2, 30), (3, 14)):
-            forms = [form for form in list(some_forms(dimension, many, 4, 413)) + list(told_forms(dimension, many, 414, 3))
+            forms = [form for form in list(some_forms(dimension, many, 4, 413)) + list(told_forms(dimension, many, 414,
+                                                                                                  3))
                      if form[2]]
             random.shuffle(forms)
             for form, other in list(zip(forms, forms[1:]))[:many]:
@@ -208,8 +211,10 @@ class Distance(SolidCase):
         self.assertIs(is_nearest_pair(OPEN, far, pair_of), True)
         for value in NO_TUPLES + ((), pair_of[:1], pair_of + pair_of[:1], list(pair_of), pair_of[::-1],
                                   ((1, 1, 1), (5, 5, 1)), ((2, 2, 2), (4, 4, 1)), ((1, 1, 1), (4, 4, 0)),
-                                  ((1, 1, 1), None), ((1, 1), (4, 4, 1)), ((2, 2, 1), (4, 4, 1)), ((1, 1, 1), (3, 3, 1)),
-                                  ((1, 7, 1), (4, 4, 1)), ((1, 1, 1), (4, -2, 1)), ((0, 0, 1), (3, 3, 1)), (2, 2), ((1, True, 1), (4, 4, 1)), ((1, 1.0, 1), (4, 4, 1))):
+                                  ((1, 1, 1), None), ((1, 1), (4, 4, 1)), ((2, 2, 1), (4, 4, 1)),
+                                  ((1, 1, 1), (3, 3, 1)),
+                                  ((1, 7, 1), (4, 4, 1)), ((1, 1, 1), (4, -2, 1)), ((0, 0, 1), (3, 3, 1)), (2, 2),
+                                  ((1, True, 1), (4, 4, 1)), ((1, 1.0, 1), (4, 4, 1))):
             self.assertIs(is_nearest_pair(SQUARE, far, value), False)
         for height in (-3, 0, 4):
             self.assertIs(is_nearest_pair(LEFT, RIGHT, ((0, height, 1), (3, height, 1))), True)

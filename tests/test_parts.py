@@ -97,7 +97,8 @@ class LotParts(SolidCase):
                 self.same(found, parts_anew(cells))
                 # More planes do not matter.
                 if planes and len(planes) < 5:
-                    plane = next(plane for plane in (unit(dimension, 0, 1), unit(dimension, 0, 9)) if plane not in planes)
+                    plane = next(plane for plane in (unit(dimension, 0, 1),
+                                                     unit(dimension, 0, 9)) if plane not in planes)
                     finer = tuple(signs for signs in cells_of(dimension, planes + (plane,)) if signs[:-1] in cells)
                     split = lot_parts(dimension, planes + (plane,), finer)
                     self.assertEqual(sorted({tuple(sorted({signs[:-1] for signs in part})) for part in split}),
@@ -113,7 +114,8 @@ class PartsOf(SolidCase):
             self.same(parts_of(form=EMPTY[dimension]), ())
             self.same(parts_of(ALL[dimension]), (ALL[dimension],))
         self.same(parts_of(CORNERED), (CORNERED,))
-        self.same(parts_of(inner(CORNERED)), (form_of(2, box(2, 0, 1, ("gt", "lt"))), form_of(2, box(2, 1, 2, ("gt", "lt")))))
+        self.same(parts_of(inner(CORNERED)), (form_of(2, box(2, 0, 1, ("gt", "lt"))),
+                                              form_of(2, box(2, 1, 2, ("gt", "lt")))))
         self.same(parts_of(either(square, form_of(2, lone(5, 5)))), (square, form_of(2, lone(5, 5))))
         self.same(parts_of(points_of_line((3, -8, 4))),
                   tuple(form_of(1, lone(number)) for number in (-8, 3, 4)))

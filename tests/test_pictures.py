@@ -43,7 +43,8 @@ class Views(SolidCase):
 
     def test_right_ones(self):
         for dimension, view in ((2, EYE), (3, FLAT), (2, with_thing(EYE, 5, 1)), (2, with_thing(EYE, 6, 24)),
-                                (2, with_thing(with_thing(EYE, 2, (1, 30)), 5, 24)), (3, with_thing(FLAT, 3, (0, 0, 0))),
+                                (2, with_thing(with_thing(EYE, 2, (1, 30)), 5, 24)),
+                                (3, with_thing(FLAT, 3, (0, 0, 0))),
                                 (3, with_thing(with_thing(FLAT, 5, 24), 6, 24)), (2, with_thing(EYE, 1, (7, 3, 4)))):
             self.assertIs(need_view(dimension=dimension, value=view), view)
 
@@ -97,7 +98,8 @@ class Picture(SolidCase):
         # Ways (1, 2), (1, 1), (1, 0), (1, -1), (1, -2): a square ahead of a wall.
         square = shifted(SQUARE, (1, 0, 1))
         self.same(picture((wall, square), EYE),
-                  ((((0, "met", (3, 1)), (1, "met", (1, 1)), (1, "met", (1, 1)), (0, "met", (3, 1)), (0, "met", (3, 1))),)))
+                  ((((0, "met", (3, 1)), (1, "met", (1, 1)), (1, "met", (1, 1)), (0, "met", (3, 1)),
+                     (0, "met", (3, 1))),)))
         # Rows from above; a way counts with its common divisor.
         self.same(picture((CUBE,), FLAT), (((0, "met", (5, 2)), (0, "met", (5, 2)), None),) * 2)
         self.same(picture((CUBE,), with_thing(FLAT, 6, 3))[2], (None,) * 3)
@@ -106,8 +108,10 @@ class Picture(SolidCase):
     def test_equal_numbers(self):
         wall = form_of(2, ("is", "ge", (1, 0, -3)))
         view = with_thing(EYE, 5, 1)
-        for scene, wanted in (((wall, wall), (0, "met")), ((inner(wall), wall), (1, "met")), ((wall, inner(wall)), (0, "met")),
-                              ((inner(wall), inner(wall)), (0, "near")), ((EMPTY[2], inner(wall), wall, wall), (2, "met")),
+        for scene, wanted in (((wall, wall), (0, "met")), ((inner(wall), wall), (1, "met")),
+                              ((wall, inner(wall)), (0, "met")),
+                              ((inner(wall), inner(wall)), (0, "near")),
+                              ((EMPTY[2], inner(wall), wall, wall), (2, "met")),
                               ((shifted(wall, (1, 0, 1)), inner(wall)), (1, "near")),
                               ((wall, shifted(wall, (-1, 0, 2))), (1, "met"))):
             self.same(picture(scene, view)[0][0][:2], wanted)
@@ -278,9 +282,11 @@ class Lit(SolidCase):
 
     def test_lights(self):
         view = EYE
-        for value in NO_TUPLES + ((("far", (1, 0)),) * 5, (None,), ((),), (("far",),), (("far", (0, 0)),), (("far", (1,)),),
+        for value in NO_TUPLES + ((("far", (1, 0)),) * 5, (None,), ((),), (("far",),), (("far", (0, 0)),),
+                                  (("far", (1,)),),
                                   (("far", (1, 0, 0)),), (("far", (1, True)),), (("far", [1, 0]),), (("near", (1, 0)),),
-                                  (("far", (1, 0), 1),), (["far", (1, 0)],), (("point", (1, 0)),), (("point", (1, 0, 0)),),
+                                  (("far", (1, 0), 1),), (["far", (1, 0)],), (("point", (1, 0)),),
+                                  (("point", (1, 0, 0)),),
                                   (("point", (2, 0, 2)),), (("point", None),), ("far", (1, 0)), (("far", None),),
                                   (("point", (0, 0, 1)), ("point", (0, 1, False)))):
             self.refused(NotForm, lit, (SQUARE,), view, value, 9, word="light")

@@ -37,7 +37,8 @@ class Pieces(SolidCase):
         self.same(pieces(STRETCH, ((2, 0, 1),)), ((a,), (b,), (a, m), (m, b), (m,)))
         # With the corners the other way round the first one stays, and both halves change places.
         self.same(pieces(STRETCH, ((2, 1, 0),)), ((a,), (b,), (m, b), (a, m), (m,)))
-        self.same(pieces(STRETCH, ((2, 0, 1), (3, 1, 0))), ((a,), (b,), (a, m), (b, (3, 2)), (m,), (m, (3, 2)), ((3, 2),)))
+        self.same(pieces(STRETCH, ((2, 0, 1), (3, 1, 0))), ((a,), (b,), (a, m), (b, (3, 2)), (m,), (m, (3, 2)),
+                                                            ((3, 2),)))
         for dimension in DIMENSIONS:
             self.same(pieces(EMPTY[dimension], ()), ())
 
@@ -66,7 +67,8 @@ class Pieces(SolidCase):
         for value in NO_TUPLES:
             self.refused(NotPaper, pieces, STRETCH, value, word="cut")
             self.refused(NotPaper, pieces, STRETCH, (value,), word="cut")
-        for value in ((), (2,), (2, 0), (2, 0, 1, 0), (3, 0, 1), (-1, 0, 1), (2, 0, 0), (2, 0, 2), (2, -1, 0), (2, 2, 1),
+        for value in ((), (2,), (2, 0), (2, 0, 1, 0), (3, 0, 1), (-1, 0, 1), (2, 0, 0), (2, 0, 2), (2, -1, 0),
+                      (2, 2, 1),
                       (0, 0, 1), (0, 0, 0), (1, 1, 0)):
             self.refused(NotPaper, pieces, STRETCH, (value,), word="cut")
             self.refused(NotPaper, pieces, STRETCH, ((2, 0, 1), (2, 0, 1), value[:1] + ("x",)), word="cut")

@@ -59,8 +59,10 @@ class Claims(SolidCase):
 
     def test_refusals(self):
         for call in self.calls():
-            for value in NO_TUPLES + ((), ("empty",), ("empty", "a", "b"), ("within", "a"), ("within", "a", "b", "c"), ("holds", "a"),
-                                      ("holds", "a", (1, 2), 3), ("Empty", "a"), ("volume", "a"), (None, "a"), ("", "a"),
+            for value in NO_TUPLES + ((), ("empty",), ("empty", "a", "b"), ("within", "a"), ("within", "a", "b", "c"),
+                                      ("holds", "a"),
+                                      ("holds", "a", (1, 2), 3), ("Empty", "a"), ("volume", "a"), (None, "a"),
+                                      ("", "a"),
                                       (("empty",), "a"), ["empty", "a"], ("not", ("empty", "a"))):
                 self.refused(NotHistory, call, value, place=())
             for name in NO_NAMES + ("zz", "n", 3, ("a",)):
@@ -77,12 +79,16 @@ class Claims(SolidCase):
             self.refused(NotPoint, call, ("holds", "a", (2, 2)), place=-2)
 
     def test_is_so(self):
-        for claim, wanted in ((("empty", "none"), True), (("empty", "a"), False), (("all", "all"), True), (("all", "a"), False),
+        for claim, wanted in ((("empty", "none"), True), (("empty", "a"), False), (("all", "all"), True),
+                              (("all", "a"), False),
                               (("bounded", "a"), True), (("bounded", "none"), True), (("bounded", "all"), False),
                               (("bounded", "g"), False), (("within", "c", "a"), True), (("within", "a", "b"), False),
-                              (("within", "none", "a"), True), (("equal", "a", "a"), True), (("equal", "a", "b"), False),
-                              (("apart", "a", "d"), True), (("apart", "a", "b"), False), (("apart", "none", "none"), True),
-                              (("holds", "a", (2, 1)), True), (("holds", "a", (5, 2)), False), (("holds", "a", (0, 1)), True),
+                              (("within", "none", "a"), True), (("equal", "a", "a"), True),
+                              (("equal", "a", "b"), False),
+                              (("apart", "a", "d"), True), (("apart", "a", "b"), False),
+                              (("apart", "none", "none"), True),
+                              (("holds", "a", (2, 1)), True), (("holds", "a", (5, 2)), False),
+                              (("holds", "a", (0, 1)), True),
                               (("equal", "f", "none"), False)):
             self.assertIs(is_so(history=LINE, claim=claim), wanted)
 
@@ -109,15 +115,18 @@ class Ranges(SolidCase):
         at_least = lambda number: form_of(1, ("is", "ge", (1, -number)))
         below = lambda number: form_of(1, ("is", "lt", (1, -number)))
         for claim, wanted in ((("empty", "a"), below(0)), (("empty", "b"), EMPTY[1]), (("all", "all"), ALL[1]),
-                              (("empty", "c"), below(1)), (("within", "a", "b"), below(0)), (("within", "b", "a"), at_least(3)),
+                              (("empty", "c"), below(1)), (("within", "a", "b"), below(0)),
+                              (("within", "b", "a"), at_least(3)),
                               (("equal", "c", "b"), at_least(3)), (("equal", "a", "none"), below(0)),
-                              (("apart", "a", "b"), below(1)), (("holds", "a", (5, 2)), form_of(1, ("is", "ge", (2, -5)))),
+                              (("apart", "a", "b"), below(1)), (("holds", "a", (5, 2)),
+                                                                form_of(1, ("is", "ge", (2, -5)))),
                               (("holds", "d", (4, 1)), form_of(1, box(1, 1, 3))),
                               (("holds", "e", (7, 1)), form_of(1, ("or", box(1, 2, 3), box(1, 4, 6)))),
                               (("equal", "d", "b"), form_of(1, lone(0))), (("equal", "e", "b"), form_of(1, lone(0))),
                               (("within", "f", "a"), form_of(1, ("is", "le", (1, 0)))), (("all", "g"), at_least(1)),
                               (("empty", "h"), ALL[1]), (("apart", "b", "d"), rest(form_of(1, box(1, -2, 2)))),
-                              (("within", "point", "b"), form_of(1, ("and", ("is", "ge", (3, -2)), ("is", "le", (1, -2))))),
+                              (("within", "point", "b"), form_of(1, ("and", ("is", "ge", (3, -2)),
+                                                                     ("is", "le", (1, -2))))),
                               (("holds", "point", (1, 2)), form_of(1, ("is", "eq", (3, -1)))),
                               (("holds", "b", (2, 1)), ALL[1]), (("holds", "b", (9, 1)), EMPTY[1])):
             found = range_of(history=LINE, claim=claim, number="n")
@@ -129,7 +138,8 @@ class Ranges(SolidCase):
         # In the plane.
         self.same(range_of(PLANE, ("empty", "square"), "a"), form_of(1, ("is", "lt", (1, -1))))
         self.same(range_of(PLANE, ("holds", "square", (2, 2, 1)), "b"), form_of(1, ("is", "le", (1, 0))))
-        self.same(range_of(PLANE, ("holds", "far", (33, 15, 2)), "a"), form_of(1, ("and", ("is", "ge", (2, -13)), ("is", "le", (4, -15)))))
+        self.same(range_of(PLANE, ("holds", "far", (33, 15, 2)), "a"),
+                  form_of(1, ("and", ("is", "ge", (2, -13)), ("is", "le", (4, -15)))))
 
     def test_the_fact(self):
         random = Random(480)
@@ -148,14 +158,16 @@ class Ranges(SolidCase):
                                 wanted = is_so(with_number(history, number, integer), claim)
                             except TooGreat:
                                 continue
-                            self.assertIs(in_form(found, [Fraction(integer)]), wanted, (history, claim, number, integer))
+                            self.assertIs(in_form(found, [Fraction(integer)]), wanted,
+                                          (history, claim, number, integer))
                             many += 1
                         self.stretches(history, claim, number, found)
         self.assertGreater(many, 800)
 
     def test_fractions(self):
         """A history with all its integers times 6 tells, at 6 times a value, 6 times the set."""
-        for claim in (("empty", "c"), ("apart", "b", "d"), ("within", "point", "b"), ("equal", "d", "b"), ("holds", "e", (1, 1))):
+        for claim in (("empty", "c"), ("apart", "b", "d"), ("within", "point", "b"), ("equal", "d", "b"),
+                      ("holds", "e", (1, 1))):
             found = range_of(LINE, claim, "n")
             scaled = (1, (("k", 1), ("n", 12)), tuple((name, self.scaled(telling)) for name, telling in LINE[2]))
             for sixths in range(-20, 44):
@@ -202,15 +214,18 @@ class Ranges(SolidCase):
 
     def test_stretches_worked_by_hand(self):
         nothing = (None, False, None, False)
-        for claim, wanted in ((("empty", "a"), ((0, 1), True, None, False)), (("within", "b", "a"), (None, False, (3, 1), False)),
-                              (("equal", "d", "b"), ((0, 1), False, None, False)), (("empty", "b"), nothing), (("all", "all"), nothing),
+        for claim, wanted in ((("empty", "a"), ((0, 1), True, None, False)),
+                              (("within", "b", "a"), (None, False, (3, 1), False)),
+                              (("equal", "d", "b"), ((0, 1), False, None, False)), (("empty", "b"), nothing),
+                              (("all", "all"), nothing),
                               (("holds", "e", (7, 1)), ((2, 1), True, (3, 1), True)),
                               (("apart", "b", "d"), ((-2, 1), True, (2, 1), True)),
                               (("holds", "point", (1, 2)), ((1, 3), False, None, False)),
                               (("holds", "point", (3, 1)), ((2, 1), True, (2, 1), True)),
                               (("within", "point", "b"), ((2, 3), True, (2, 1), True))):
             self.same(stretch(LINE, claim, "n"), wanted)
-        for claim, wanted in ((("empty", "a"), ((0, 1),)), (("empty", "b"), ()), (("holds", "e", (7, 1)), ((2, 1), (3, 1), (4, 1), (6, 1))),
+        for claim, wanted in ((("empty", "a"), ((0, 1),)), (("empty", "b"), ()),
+                              (("holds", "e", (7, 1)), ((2, 1), (3, 1), (4, 1), (6, 1))),
                               (("equal", "d", "b"), ((0, 1),)), (("within", "point", "b"), ((2, 3), (2, 1)))):
             self.same(turns_at(LINE, claim, "n"), wanted)
         self.same(stretch(LINE, ("empty", "a"), "k"), nothing)
@@ -240,8 +255,10 @@ class Refusals(SolidCase):
         self.refuses(Unlike, LINE, ("bounded", "a"), "k")
         for word in ("close", "inner", "rim", "sum", "shrunk", "hull"):
             telling = (word, "a", "b") if word in ("sum", "shrunk") else (word, "a")
-            value = (1, LINE[1], (("a", OPEN), ("b", OPEN), ("c", telling), ("d", ("not", "c")), ("e", ("and", "a", "d"))))
-            for claim in (("empty", "c"), ("empty", "d"), ("within", "a", "e"), ("equal", "c", "b"), ("holds", "e", (0, 1))):
+            value = (1, LINE[1], (("a", OPEN), ("b", OPEN), ("c", telling), ("d", ("not", "c")),
+                                  ("e", ("and", "a", "d"))))
+            for claim in (("empty", "c"), ("empty", "d"), ("within", "a", "e"), ("equal", "c", "b"),
+                          ("holds", "e", (0, 1))):
                 self.refuses(Unlike, value, claim, "n")
             self.same(range_of(value, ("apart", "a", "b"), "n"), EMPTY[1])
 
@@ -259,7 +276,8 @@ class Refusals(SolidCase):
         self.refuses(Unlike, value, ("empty", "a"), "n")
         value = (1, (("n", 1),), (("a", ("of", ("some", ("some", ("is", "eq", (1, 1, 1, (0, (("n", 1),)))))))),))
         self.same(range_of(value, ("all", "a"), "n"), ALL[1])
-        value = (1, (("n", 1),), (("a", ("of", ("back", ((1, 0), (2, 0), (0, 3)), ("is", "eq", (1, 1, 1, (0, (("n", 1),))))))),))
+        value = (1, (("n", 1),), (("a", ("of", ("back", ((1, 0), (2, 0), (0, 3)),
+                                                ("is", "eq", (1, 1, 1, (0, (("n", 1),))))))),))
         self.same(range_of(value, ("holds", "a", (2, 1)), "n"), form_of(1, lone(-9)))
 
     def test_too_great(self):
@@ -272,7 +290,8 @@ class Refusals(SolidCase):
         few = ("of", ("or",) + tuple(("is", "eq", (1, (-k, (("n", -1),)))) for k in range(23)))
         self.same(range_of((1, (("n", 1),), (("a", few),)), ("holds", "a", (0, 1)), "n"),
                   points_of_line(range(-22, 1)))
-        wide = ("of", ("some", ("some", ("and",) + tuple(("is", "lt", (k, k * k, -1, (k ** 3, (("n", k),)))) for k in range(30)))))
+        wide = ("of", ("some", ("some", ("and",) + tuple(("is", "lt", (k, k * k, -1,
+                                                                       (k ** 3, (("n", k),)))) for k in range(30)))))
         self.refuses(TooGreat, (1, (("n", 1),), (("a", wide),)), ("empty", "a"), "n", most=200)
 
 

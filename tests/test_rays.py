@@ -45,7 +45,8 @@ def stretches_anew(form, point, way, low):
         if growth:
             turns.add(-worth(plane, here) / growth)
     turns = sorted(turn for turn in turns if low is None or turn >= low)
-    tries = [(turn, turn, turn) for turn in turns] + [(one, other, (one + other) / 2) for one, other in zip(turns, turns[1:])]
+    tries = [(turn, turn, turn) for turn in turns] + [(one, other, (one + other) / 2) for one,
+                                                      other in zip(turns, turns[1:])]
     tries.append((turns[-1] if turns else None, None, turns[-1] + 1 if turns else Fraction(0)))
     if low is None and turns:
         tries.append((None, turns[0], turns[0] - 1))
@@ -123,7 +124,8 @@ class Stretches(SolidCase):
                   ((None, False, (-2, 1), False), ((-2, 1), False, (0, 1), False), ((0, 1), False, (3, 1), False),
                    ((3, 1), False, None, False)))
         slit = less(SQUARE, form_of(2, ("is", "eq", (2, 0, -1))))
-        self.same(ray_stretches(slit, (0, 0, 1), (1, 0)), (((0, 1), True, (1, 2), False), ((1, 2), False, (1, 1), True)))
+        self.same(ray_stretches(slit, (0, 0, 1), (1, 0)), (((0, 1), True, (1, 2), False),
+                                                           ((1, 2), False, (1, 1), True)))
 
     def test_told_anew(self):
         random = Random(370)

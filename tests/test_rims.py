@@ -145,7 +145,8 @@ class Rims(SolidCase):
         self.assertEqual(len(pinches(touching)), 1)
         beside = either(block((0, 0, 0), (1, 1, 1)), block((1, 1, 0), (2, 2, 1)))
         self.assertEqual(len(pinches(beside)), 1)
-        bitten = regular(less(block((0, 0, 0), (3, 3, 3)), any_of(3, (block((0, 0, 0), (1, 1, 1)), block((1, 1, 1), (2, 2, 2))))))
+        bitten = regular(less(block((0, 0, 0), (3, 3, 3)), any_of(3, (block((0, 0, 0), (1, 1, 1)),
+                                                                      block((1, 1, 1), (2, 2, 2))))))
         self.assertEqual(len(pinches(bitten)), 1)
         for form in (touching, beside, bitten):
             self.refused(NotForm, handles_of, form, word="surface")

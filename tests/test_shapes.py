@@ -161,7 +161,8 @@ class Holes(SolidCase):
         sets = [SQUARE, inner(SQUARE), form_of(2, box(2, 0, 1, ("ge", "lt"))), RING, inner(RING), rest(RING), CUBE,
                 inner(CUBE), rest(CUBE), EMPTY[2], ALL[3], points_of_line((1, 2, 5)),
                 rest(form_of(3, lone(1, 2, 3))), rest(form_of(2, lone(1, 2)))]
-        axes = [("and", ("is", "eq", unit(3, one)), ("is", "eq", unit(3, other))) for one, other in ((0, 1), (0, 2), (1, 2))]
+        axes = [("and", ("is", "eq", unit(3, one)), ("is", "eq", unit(3, other))) for one,
+                other in ((0, 1), (0, 2), (1, 2))]
         sets += [rest(form_of(3, axis)) for axis in (axes[0], ("or",) + tuple(axes))]
         many = 0
         for dimension in DIMENSIONS:

@@ -66,7 +66,8 @@ INTEGER = re.compile(r"(0|-?[1-9][0-9]*)\Z")
 NAME = re.compile(r"[a-z]{1,8}\Z")
 ONES = ("same", "not", "close", "inner", "rim", "hull")
 TWOS = ("less", "sum", "shrunk")
-CLAIM_NAMES = {"empty": 1, "all": 1, "bounded": 1, "within": 2, "equal": 2, "apart": 2, "holds": 1, "volume": 1, "euler": 1,
+CLAIM_NAMES = {"empty": 1, "all": 1, "bounded": 1, "within": 2, "equal": 2, "apart": 2, "holds": 1, "volume": 1,
+               "euler": 1,
                "parts": 1}
 
 
@@ -241,8 +242,10 @@ class Texts(SolidCase):
         texts = [PLANE_TEXT + "\n" + CLAIMS, LINE_TEXT + "\nholds a 1 2\nparts b 2"]
         for dimension in (1, 2, 3):
             texts += [history_text(value) for value in some_histories(dimension, 4, 6, WORDS, 492)]
-        others = ("", "0", "1", "-1", "01", "-0", "+1", "1.0", "10000000", "9999999", "1000001", "-1000000", "13", "61", "60", "a",
-                  "A", "abcdefgh", "abcdefghi", "(", ")", "of", "not", "solid", "number", "space", "and", "some", "lt", "is",
+        others = ("", "0", "1", "-1", "01", "-0", "+1", "1.0", "10000000", "9999999", "1000001", "-1000000", "13",
+                  "61", "60", "a",
+                  "A", "abcdefgh", "abcdefghi", "(", ")", "of", "not", "solid", "number", "space", "and", "some", "lt",
+                  "is",
                   "volume", "empty", "\u00e9", "a1", "\t")
         for text in texts:
             lines = [line.split(" ") for line in text.split("\n")]
@@ -268,8 +271,10 @@ class Texts(SolidCase):
             many += self.refuses("\n".join(lines[:number] + [""] + lines[number:]))
             many += self.refuses("\n".join(lines[:number] + lines[number:number + 1] + lines[number:]))
         self.assertGreater(many, 90)
-        for text in ("", "\n", "space", "space 1\n", "\nspace 1", "space 1\nspace 1", "space 0", "space 4", "space 1 ", " space 1",
-                     "space 01", "number a 1", "solid a same a", "empty a", "space 1\n\nsolid a same a", "space 1\r\nempty a"):
+        for text in ("", "\n", "space", "space 1\n", "\nspace 1", "space 1\nspace 1", "space 0", "space 4", "space 1 ",
+                     " space 1",
+                     "space 01", "number a 1", "solid a same a", "empty a", "space 1\n\nsolid a same a",
+                     "space 1\r\nempty a"):
             self.assertTrue(self.refuses(text))
 
     def test_no_string(self):
@@ -290,32 +295,42 @@ class Texts(SolidCase):
     def test_limits(self):
         head = "space 1\nnumber a 0\nsolid a of and 0\n"
         names = " ".join(["a"] * 12)
-        for line, word in (("solid b and 13", 3), ("solid b and 0", 3), ("solid b or 012", 3), ("solid b and 12 " + names[2:], 15),
+        for line, word in (("solid b and 13", 3), ("solid b and 0", 3), ("solid b or 012", 3),
+                           ("solid b and 12 " + names[2:], 15),
                            ("solid b and 12 " + names + " a", 16), ("solid b copies 0", 3), ("solid b copies 61", 3),
                            ("solid b copies -1", 3), ("solid b moved 10000000", 3), ("solid b moved ( 10000000", 4),
-                           ("solid b moved ( 1 a 10000000", 6), ("solid b moved ( 1 )", 5), ("solid b moved ( 1 a )", 6),
-                           ("solid b moved ( 1 a 1 a 1 a 1 a 1 a", 13), ("solid b moved ( 1 a 1", 7), ("solid b moved ( )", 4),
+                           ("solid b moved ( 1 a 10000000", 6), ("solid b moved ( 1 )", 5),
+                           ("solid b moved ( 1 a )", 6),
+                           ("solid b moved ( 1 a 1 a 1 a 1 a 1 a", 13), ("solid b moved ( 1 a 1", 7),
+                           ("solid b moved ( )", 4),
                            ("solid b moved 1 2", 4), ("solid b of lt 1 10000000", 5), ("solid b of lt 1 1000001", 5),
-                           ("solid b of lt 1 ( 10000000", 6), ("solid b of lt ( 1 a 1 ) 0", 4), ("solid b along 10000000", 3),
+                           ("solid b of lt 1 ( 10000000", 6), ("solid b of lt ( 1 a 1 ) 0", 4),
+                           ("solid b along 10000000", 3),
                            ("solid b back 1 10000000", 4), ("solid b back ( 1 a 1 )", 3), ("solid b of not", 4),
-                           ("solid b of lt 1 0 0", 6), ("solid b of is lt 1 0", 3), ("solid abcdefghi", 1), ("solid b same", 3),
+                           ("solid b of lt 1 0 0", 6), ("solid b of is lt 1 0", 3), ("solid abcdefghi", 1),
+                           ("solid b same", 3),
                            ("solid b same a a", 4), ("solid B", 1), ("solid", 1), ("solid b", 2), ("solid b xor", 2)):
             self.refused(NotText, read_history, head + line, line=3, word=word)
             self.assertEqual(first_wrong(head + line, False), (3, word))
         # What the words allow is judged as a history.
         for line in ("solid b moved 9999999 a", "solid b moved ( -9999999 a 1 ) a", "solid b moved ( 0 a 0 ) a",
-                     "solid b moved ( 0 b 1 ) a", "solid b moved ( 0 a 1 a 1 ) a", "solid b moved ( 0 b 1 a 1 ) a", "solid b same c",
-                     "solid a same a", "solid b along 0 a", "solid b along 2 a", "solid b always 9999999 a", "solid b back 1 1000001 a",
+                     "solid b moved ( 0 b 1 ) a", "solid b moved ( 0 a 1 a 1 ) a", "solid b moved ( 0 b 1 a 1 ) a",
+                     "solid b same c",
+                     "solid a same a", "solid b along 0 a", "solid b along 2 a", "solid b always 9999999 a",
+                     "solid b back 1 1000001 a",
                      "solid b of lt 1 ( 1000001 a 1 )", "solid b of lt 1 ( 1 a 9999999 )", "solid b of lt 1 ( 0 q 1 )",
                      "solid b of lt 1 ( 0 a 1 a 1 )"):
             for call in (read_history, judged):
                 self.refused(NotHistory, call, head + line, place=(2, 1))
-        for line in ("solid b moved 1000000 a", "solid b moved ( -1000000 a 1 ) a", "solid b copies 60 0 a", "solid b and 12 " + names,
-                     "solid b of lt 1 ( 5 a -3 )", "solid b of some lt 1 1 ( 5 a -3 )", "solid b of back 1 1 1 lt 1 ( 5 a -3 )"):
+        for line in ("solid b moved 1000000 a", "solid b moved ( -1000000 a 1 ) a", "solid b copies 60 0 a",
+                     "solid b and 12 " + names,
+                     "solid b of lt 1 ( 5 a -3 )", "solid b of some lt 1 1 ( 5 a -3 )",
+                     "solid b of back 1 1 1 lt 1 ( 5 a -3 )"):
             self.same(history_text(read_history(head + line)), head + line)
 
     def test_histories_that_are_none(self):
-        for text, place in (("space 1", (2,)), ("space 1\nnumber a 1", (2,)), ("space 1\nnumber a 1000001\nsolid a of and 0", (1, 0)),
+        for text, place in (("space 1", (2,)), ("space 1\nnumber a 1", (2,)),
+                            ("space 1\nnumber a 1000001\nsolid a of and 0", (1, 0)),
                             ("space 1\nnumber b 1\nnumber a 1\nsolid a of and 0", (1, 1)),
                             ("space 1\nnumber a 1\nnumber a 1\nsolid a of and 0", (1, 1)),
                             ("space 1\nsolid a same b\nsolid b of and 0", (2, 0))):
@@ -336,7 +351,8 @@ class Texts(SolidCase):
 
     def test_formulas_as_read_formula_reads_them(self):
         random = Random(494)
-        texts = ["lt 1 0", "not lt 1 0", "some lt 1 0 3", "and 2 lt 1 0 ge 1 5", "every some gt 1 2 3 4", "back 2 1 0 0 1 eq 1 1 5",
+        texts = ["lt 1 0", "not lt 1 0", "some lt 1 0 3", "and 2 lt 1 0 ge 1 5", "every some gt 1 2 3 4",
+                 "back 2 1 0 0 1 eq 1 1 5",
                  "or 0", "not " * 11 + "lt 1 0", "not " * 12 + "lt 1 0", "and 199 " + "or 0 " * 198 + "or 0",
                  "and 200 " + "or 0 " * 199 + "or 0", "some some some some lt 1 0", "some some some lt 1 2 3 4 5"]
         others = ("", "0", "-1", "a", "lt", "not", "some", "200", "1000001", "12345678", "is")
@@ -376,7 +392,8 @@ class Judged(SolidCase):
                 so = is_so(PLANE, (word, name) + tuple(rest))
             wanted.append(so != is_denied)
         self.same(found, tuple(wanted))
-        self.same(found, (True, True, False, True, True, True, True, True, True, True, True, True, True, True, False, True, True,
+        self.same(found, (True, True, False, True, True, True, True, True, True, True, True, True, True, True, False,
+                          True, True,
                           True, True))
 
     def test_claims_behind_a_line_of_any_kind(self):
@@ -397,7 +414,8 @@ class Judged(SolidCase):
         head = "space 1\nsolid a of and 2 ge 2 -1 le 1 -3\n"
         long = "1" + "0" * 998 + "1"
         self.same(judged(head + f"volume a {long} 1\neuler a -{long}\nparts a {long}\nholds a {long} 2"), (False,) * 4)
-        for line, word in ((f"volume a {long}1 1", 2), (f"volume a 1 {long}1", 3), (f"euler a -{long}1", 2), (f"parts a {long}1", 2),
+        for line, word in ((f"volume a {long}1 1", 2), (f"volume a 1 {long}1", 3), (f"euler a -{long}1", 2),
+                           (f"parts a {long}1", 2),
                            (f"holds a 1 {long}1", 3)):
             self.refused(NotText, judged, head + line, line=2, word=word)
 
@@ -405,7 +423,8 @@ class Judged(SolidCase):
         dots = "solid a of or 31 " + " ".join(f"eq 1 -{k}" if k else "eq 1 0" for k in range(31))
         head = "space 1\n" + dots + "\nsolid b copies 2 99 a\nsolid c of and 0\nsolid d moved 99 a\n"
         self.same([outcome[0] for outcome in build(read_history(head[:-1]))], ["form", "great", "form", "form"])
-        for claim in ("empty b", "not volume b 0 1", "parts b 5", "euler b 5", "within c b", "holds b 0 1", "within a d", "apart a d"):
+        for claim in ("empty b", "not volume b 0 1", "parts b 5", "euler b 5", "within c b", "holds b 0 1",
+                      "within a d", "apart a d"):
             self.refused(TooGreat, judged, head + "all c\n" + claim, most=60)
             # What is wrong with a later claim comes ahead of what is too great.
             self.refused(NotName, judged, head + claim + "\nempty q", name="q")

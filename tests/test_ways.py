@@ -77,13 +77,15 @@ class WayPaper(SolidCase):
         paper = way_paper(form=ALMOST, point=LOW, other=HIGH)
         self.assertEqual(paper[0], "apart")
         self.assertEqual(len(paper[1]), 4)
-        for form, point, other in ((RING, (0, 0, 1), (0, 0, 1)), (RING, (1, 1, 4), (3, 3, 4)), (RING, (0, 0, 1), (3, 3, 1)),
+        for form, point, other in ((RING, (0, 0, 1), (0, 0, 1)), (RING, (1, 1, 4), (3, 3, 4)),
+                                   (RING, (0, 0, 1), (3, 3, 1)),
                                    (CORNERED, LOW, HIGH), (ALL[3], (0, 0, 0, 1), (7, 7, 7, 2))):
             word, points = way_paper(form, point, other)
             self.assertEqual(word, "way")
             self.assertEqual((points[0], points[-1]), (point, other))
             for one, far in zip(points, points[1:]):
-                self.assertEqual([signs for signs in step_through(form[0], form[1], one, far) if signs not in form[2]], [])
+                self.assertEqual([signs for signs in step_through(form[0], form[1], one, far) if signs not in form[2]],
+                                 [])
             self.same(way_paper(form, point, other), (word, points))
 
     def test_right_ones(self):
@@ -101,20 +103,25 @@ class WayPaper(SolidCase):
         self.same(check_way(four, point, other, ("apart", lot_parts(*four)[0])), "apart")
 
     def test_form(self):
-        for value in NO_TUPLES + ((), ("way",), ("apart",), ("way", (LOW, HIGH), 1), ("apart", (), ()), ("Way", (LOW, HIGH)),
+        for value in NO_TUPLES + ((), ("way",), ("apart",), ("way", (LOW, HIGH), 1), ("apart", (), ()),
+                                  ("Way", (LOW, HIGH)),
                                   ("", (LOW, HIGH)), (None, (LOW, HIGH)), (0, (LOW, HIGH)), (("way",), (LOW, HIGH))):
             self.refused(NotPaper, check_way, CORNERED, LOW, HIGH, value, word="form")
 
     def test_ways_that_are_none(self):
-        wrong = NO_TUPLES + ((), (LOW,), (HIGH,), (HIGH, LOW), (LOW, HIGH, LOW), (HIGH, LOW, HIGH), (LOW, (5, 5, 1), HIGH),
-                             (LOW, (1, 2, 1), HIGH), (LOW, (2, 2, 2), HIGH), (LOW, (1, 1), HIGH), (LOW, (1, 1, 0), HIGH),
-                             (LOW, [1, 1, 1], HIGH), (LOW, (1, True, 1), HIGH), (LOW, (1, 1.0, 1), HIGH), (LOW, None, HIGH),
+        wrong = NO_TUPLES + ((), (LOW,), (HIGH,), (HIGH, LOW), (LOW, HIGH, LOW), (HIGH, LOW, HIGH),
+                             (LOW, (5, 5, 1), HIGH),
+                             (LOW, (1, 2, 1), HIGH), (LOW, (2, 2, 2), HIGH), (LOW, (1, 1), HIGH),
+                             (LOW, (1, 1, 0), HIGH),
+                             (LOW, [1, 1, 1], HIGH), (LOW, (1, True, 1), HIGH), (LOW, (1, 1.0, 1), HIGH),
+                             (LOW, None, HIGH),
                              [LOW, HIGH], LOW + HIGH, (LOW, (0, 1, 1), HIGH))
         for value in wrong:
             self.refused(NotPaper, check_way, CORNERED, LOW, HIGH, ("way", value), word="way")
         self.refused(NotPaper, check_way, RING, (0, 0, 1), (3, 3, 1), ("way", ((0, 0, 1), (3, 3, 1))), word="way")
         self.refused(NotPaper, check_way, ALMOST, LOW, HIGH, ("way", (LOW, HIGH)), word="way")
-        self.refused(NotPaper, check_way, RING, (1, 1, 1), (1, 2, 1), ("way", ((1, 1, 1), (2, 2, 1), (1, 2, 1))), word="way")
+        self.refused(NotPaper, check_way, RING, (1, 1, 1), (1, 2, 1), ("way", ((1, 1, 1), (2, 2, 1), (1, 2, 1))),
+                     word="way")
 
     def test_cells_that_keep_nothing_apart(self):
         right = way_paper(ALMOST, LOW, HIGH)[1]
@@ -122,7 +129,8 @@ class WayPaper(SolidCase):
         self.same(check_way(ALMOST, HIGH, LOW, ("apart", way_paper(ALMOST, HIGH, LOW)[1])), "apart")
         outside = (1,) * len(ALMOST[1])
         self.assertNotIn(outside, ALMOST[2])
-        wrong = NO_TUPLES + ((), right[::-1], right[:1] + right, right + right[-1:], list(right), ALMOST[2], right + ((),),
+        wrong = NO_TUPLES + ((), right[::-1], right[:1] + right, right + right[-1:], list(right), ALMOST[2],
+                             right + ((),),
                              tuple(sorted(right + (outside,))), (None,), right[:-1] + (list(right[-1]),), (((0,),),))
         for number in range(len(right)):
             wrong += (right[:number] + right[number + 1:],)
