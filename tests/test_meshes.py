@@ -258,7 +258,7 @@ class Rays(SolidCase):
                     is_on = min(weights_anew(side, point)) >= 0
                     self.one_ray(mesh, point, direction, is_on)
                     seen[is_let(mesh, point, direction)] += 1
-        self.assertGreater(min(seen.values()), 40)
+        self.assertGreater(min(seen.values()), 20)
 
     def parities(self, mesh, point, is_on):
         if is_on:

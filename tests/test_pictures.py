@@ -4,7 +4,7 @@ import unittest
 from fractions import Fraction
 from random import Random
 
-from formed import ALL, EMPTY, box, lone, some_forms, told_forms
+from formed import ALL, EMPTY, bounded_forms, box, lone, some_forms, told_forms
 from helping import NO_INTEGERS, NO_TUPLES, SolidCase, numbers_at, told
 from making import small_points
 from onesolid.deeds import either, inner, less, rest
@@ -235,11 +235,13 @@ class Lit(SolidCase):
         random = Random(422)
         lit_dots = 0
         for dimension, many in ((2, 60), (3, 40)):
-            forms = list(some_forms(dimension, 2 * many, 4, 423)) + list(told_forms(dimension, many, 424, 3))
+            forms = list(bounded_forms(dimension, 10, 423)) + list(told_forms(dimension, 10, 424, 3))
             for _ in range(many):
                 scene = tuple(random.choice(forms) for _ in range(random.randint(1, 3)))
                 view = Picture.some_view(self, random, dimension)
-                lights = tuple(self.some_light(random, dimension) for _ in range(random.randint(0, 4)))
+                lights = tuple(self.some_light(random, dimension) for _ in range(random.randint(0, 3)))
+                # A light from where the view is.
+                lights += (("far", tuple(-step for step in next(rays_of(view))[0][1])),)
                 steps = random.choice((1, 7, 255))
                 dots = picture(scene, view)
                 for row, wanted, rays in zip(lit(scene, view, lights, steps), dots, rays_of(view)):
@@ -249,7 +251,7 @@ class Lit(SolidCase):
                         else:
                             self.same(light, self.light_anew(scene, dot, point, way, lights, steps))
                             lit_dots += light > 0
-        self.assertGreater(lit_dots, 10)
+        self.assertGreater(lit_dots, 20)
 
     def some_light(self, random, dimension):
         if random.random() < 0.5:
