@@ -4,7 +4,7 @@ import unittest
 from fractions import Fraction
 from random import Random
 
-from formed import ALL, EMPTY, box, hard_to_close, lone, points_of_line, some_forms, told_forms
+from formed import ALL, EMPTY, bounded_forms, box, hard_to_close, lone, points_of_line, some_forms, told_forms
 from helping import NO_TUPLES, SolidCase, numbers_at, pair, told
 from making import small_points
 from onesolid.cells import point_in
@@ -12,8 +12,10 @@ from onesolid.deeds import are_apart, closed, either, inner, less, rest
 from onesolid.errors import Empty, NotPoint, TooGreat, Unlike
 from onesolid.faces import cell_faces
 from onesolid.forms import form_of, has_point
+from onesolid.images import shifted, turned_about
 from onesolid.nearest import distance, is_nearest_pair, nearest, nearest_pair
 from onesolid.points import between, moved_by
+from onesolid.sums import sum_of
 
 DIMENSIONS = (1, 2, 3)
 SQUARE = form_of(2, box(2))
@@ -203,6 +205,25 @@ class Distance(SolidCase):
                     if found == square and True in mets and has_point(form, point):
                         self.assertIs(is_met, True)
                     self.assertIs(is_nearest_pair(form, other, (point, points[0])), found == square)
+
+    def test_by_the_sum_with_the_other_set_turned_about(self):
+        random = Random(419)
+        seen = {True: 0, False: 0}
+        for dimension, many in ((1, 40), (2, 60), (3, 15)):
+            forms = [form for form in list(some_forms(dimension, many, 4, 420)) + list(bounded_forms(dimension, 8, 421))
+                     if form[2]]
+            for _ in range(many):
+                form, other = random.choice(forms), random.choice(forms)
+                other = shifted(other, tuple(random.randint(-8, 8) for _ in range(dimension)) + (1,))
+                try:
+                    square, _, mets = nearest(sum_of(form, turned_about(other)), (0,) * dimension + (1,))
+                    found = distance(form, other)
+                except TooGreat:
+                    continue
+                self.same(found, (square, True in mets))
+                if square != (0, 1):
+                    seen[found[1]] += 1
+        self.assertGreater(min(seen.values()), 5)
 
     def test_pairs(self):
         pair_of = ((1, 1, 1), (4, 4, 1))

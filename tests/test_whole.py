@@ -44,7 +44,7 @@ COMMON = {
     "dimension": 2, "row": ROW, "point": POINT, "other_point": (0, 0, 1), "planes": PLANES, "signs": CELL, "flat": LINE,
     "system": SYSTEM, "formula": FORMULA, "form": SQUARE, "direction": (1, -2), "way": (2, -4), "points": SIMPLEX,
     "simplex": SIMPLEX, "mesh": MESH, "view": VIEW, "scene": (BESIDE, SQUARE), "history": PLANE, "name": "a",
-          "claim": CLAIM,
+    "claim": CLAIM,
     "cells": (CELL,), "many": 2, "table": ((1, 2, 0), (0, 1, 3)), "body": body_of(2, SYSTEM), "number": "b", "cuts": (),
     "lights": (("far", (-1, 1)),), "steps": 9, "plane": (1, 1, -2), "rays": ((1, 1),), "lines": (), "text": "lt 1 0 2",
     "forms": (SQUARE, BESIDE), "far": (1, 1, 1), "rows": LINE, "path": (1,), "part": ("and",), "flats": (LINE,),
