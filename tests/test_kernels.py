@@ -65,6 +65,21 @@ class Kernel(SolidCase):
         self.same(kernel(form_of(3, ("or", ("is", "eq", (1, 0, 0, 0)), ("is", "eq", (0, 1, 0, 0))))),
                   form_of(3, ("and", ("is", "eq", (1, 0, 0, 0)), ("is", "eq", (0, 1, 0, 0)))))
 
+    def test_just_as_many_planes_as_may_be(self):
+        self.same(kernel(points_of_line(range(60))), EMPTY[1])
+        # A polygon with 24 sides, with and without them, and with one side alone.
+        sides = [(k, 1, -k * k - 40) for k in range(-6, 6)] + [(k, 1, k * k + 40) for k in range(-6, 6)]
+        words = ["le"] * 12 + ["ge"] * 12
+        polygon = form_of(2, ("and",) + tuple(("is", word, row) for word, row in zip(words, sides)))
+        self.assertEqual(len(polygon[1]), 24)
+        for form in (polygon, inner(polygon)):
+            self.same(kernel(form), form)
+            self.same(star_cells(form), form[2])
+        holed = less(polygon, form_of(2, lone(0, 0)))
+        self.same(kernel(holed), EMPTY[2])
+        self.same(not_star(holed, (0, 0, 1)), ("out",))
+        self.barred(holed, (0, 1, 2), not_star(holed, (0, 1, 2)))
+
     def test_by_the_fact(self):
         for dimension, many in ((1, 25), (2, 25), (3, 12)):
             for form in list(some_forms(dimension, many, 4, 390)) + list(told_forms(dimension, many, 391, 3)):
