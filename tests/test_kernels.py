@@ -75,7 +75,9 @@ class Kernel(SolidCase):
         for form in (polygon, inner(polygon)):
             self.same(kernel(form), form)
             self.same(star_cells(form), form[2])
-        holed = less(polygon, form_of(2, lone(0, 0)))
+        fewer = form_of(2, ("and",) + tuple(("is", word, row) for word, row in zip(words[1:-1], sides[1:-1])))
+        holed = less(fewer, form_of(2, lone(0, 0)))
+        self.assertEqual(len(holed[1]), 24)
         self.same(kernel(holed), EMPTY[2])
         self.same(not_star(holed, (0, 0, 1)), ("out",))
         self.barred(holed, (0, 1, 2), not_star(holed, (0, 1, 2)))
