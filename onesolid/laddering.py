@@ -1,12 +1,10 @@
 """What keeps convex hulls of sets apart: rows, step by step, the ladders that they make, and common points."""
 
 from onesolid.closures import point_or_weights, rows_around
-from onesolid.numbers import common_divisor, shortened, wrong_place
+from onesolid.numbers import NOUGHT, common_divisor, shortened, wrong_place
 from onesolid.rows import first_place
 from onesolid.spreads import Spread
 from onesolid.weights import summed_up
-
-NOUGHT = (0, 1)
 
 
 def spread_of_point(point):

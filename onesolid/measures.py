@@ -2,11 +2,9 @@
 
 from onesolid.cuttings import cutting, set_corners
 from onesolid.errors import Empty, Flat
-from onesolid.numbers import added, ascending, compared, divided, in_order, lowest, minus, times, total_of
+from onesolid.numbers import NOUGHT, ONE, added, ascending, compared, divided, in_order, lowest, minus, times, total_of
 from onesolid.points import coordinates_of, point_of
 from onesolid.simplices import simplex_volume
-
-NOUGHT = (0, 1)
 
 
 def volume(form):
@@ -48,7 +46,7 @@ def _density(heights, level):
         return NOUGHT
     many = len(heights) - 1
     if many == 1:
-        return divided((1, 1), minus(high, low))
+        return divided(ONE, minus(high, low))
     first = times(minus(level, low), _density(heights[:-1], level))
     second = times(minus(high, level), _density(heights[1:], level))
     return divided(times(added(first, second), (many, many - 1)), minus(high, low))

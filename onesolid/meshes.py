@@ -5,14 +5,11 @@ from math import factorial
 from onesolid.errors import Flat, NotMesh, NotPaper, Unlike
 from onesolid.flats import flat_through
 from onesolid.holding import point_led
-from onesolid.numbers import compared, divided, in_order, lowest, minus, total_of
+from onesolid.numbers import NOUGHT, ONE, compared, divided, in_order, lowest, minus, total_of
 from onesolid.papers import is_point
 from onesolid.points import coordinates_of, moved_by
 from onesolid.rows import slope, weighed
 from onesolid.simplices import determinant, weights
-
-NOUGHT = (0, 1)
-ONE = (1, 1)
 
 
 def check_mesh(dimension, value):

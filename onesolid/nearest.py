@@ -5,13 +5,11 @@ from onesolid.deeds import closed
 from onesolid.errors import Empty, Unlike
 from onesolid.flats import flat_along, flat_directions, flat_meet, flat_of, flat_point, in_sequence
 from onesolid.grids import Grid, at_places, zero_places
-from onesolid.numbers import compared, in_order, lowest, shortened
+from onesolid.numbers import NOUGHT, compared, in_order, lowest, shortened
 from onesolid.papers import is_point
 from onesolid.points import check_point, steps_between
 from onesolid.rows import plane_of, product_of, rows_along, signs_at, weighed
 from onesolid.stars import flat_across
-
-NOUGHT = (0, 1)
 
 
 def nearest(form, point):

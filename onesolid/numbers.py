@@ -4,6 +4,9 @@ from math import gcd, lcm
 
 from onesolid.errors import NotNumber
 
+NOUGHT = (0, 1)
+ONE = (1, 1)
+
 
 def is_whole(value):
     """Whether any value is an integer; True and False are none."""

@@ -2,7 +2,7 @@
 
 from onesolid.canon import in_dict
 from onesolid.errors import NotForm, NotRow, Unlike
-from onesolid.numbers import compared, is_whole, lowest, total_of, wrong_place
+from onesolid.numbers import NOUGHT, ONE, compared, is_whole, lowest, total_of, wrong_place
 from onesolid.papers import is_point, is_worded
 from onesolid.points import moved_by, steps_between
 from onesolid.rays import planes_met
@@ -12,7 +12,6 @@ from onesolid.walks import first_on_ray, has_behind, has_between
 VIEW_WORDS = ("eye", "flat")
 MOST_DOTS = 24
 MOST_LIGHTS = 4
-NOUGHT = (0, 1)
 
 
 def need_view(dimension, value):
@@ -41,7 +40,7 @@ def _rays_of(view):
         if word == "eye":
             rows.append([(point, _added_up(corner, 1, step, 1)) for step in steps])
         else:
-            rows.append([(moved_by(point, step, (1, 1)), corner) for step in steps])
+            rows.append([(moved_by(point, step, ONE), corner) for step in steps])
     return rows
 
 

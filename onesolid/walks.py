@@ -6,11 +6,8 @@ Between two numbers at which courses are 0 nothing changes; a BIT is such a numb
 """
 
 from onesolid.errors import NotRow
-from onesolid.numbers import added, ascending, compared, halfway, lowest, minus, sign_of, wrong_place
+from onesolid.numbers import NOUGHT, ONE, added, ascending, compared, halfway, lowest, minus, sign_of, wrong_place
 from onesolid.rows import slope, weighed
-
-NOUGHT = (0, 1)
-ONE = (1, 1)
 
 
 def need_way(dimension, value):
